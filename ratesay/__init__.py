@@ -1,0 +1,1 @@
+"""What holds for all solutions of equations between functions and their rates."""
