@@ -4,6 +4,9 @@
 class RatesayError(ValueError):
     """What every error of the package is."""
 
+    def __init__(self, why=""):
+        ValueError.__init__(self, why)
+
 
 class BadPolynomial(RatesayError):
     """A value that is no polynomial."""

@@ -100,9 +100,8 @@ def common_content(rows):
     return content
 
 
-def integer_product(rows, others):
-    """The products of two lists of (key, integer), added up in a dict."""
-    table = {}
+def add_integer_products(table, rows, others):
+    """Adds the products of two lists of (key, integer) to a dict."""
     for key, n in rows:
         for other, m in others:
             at = key + other
@@ -110,16 +109,54 @@ def integer_product(rows, others):
                 table[at] += n * m
             else:
                 table[at] = n * m
+
+
+def integer_product(rows, others):
+    """The products of two lists of (key, integer), added up in a dict."""
+    table = {}
+    add_integer_products(table, rows, others)
     return table
 
 
-def fraction_product(rows, others):
-    """The products of two lists of (key, fraction), each key with the list of its parts."""
-    table = {}
+def add_fraction_products(table, rows, others):
+    """Puts the products of two lists of (key, fraction) behind the lists of a dict."""
     for key, f in rows:
         for other, g in others:
             table.setdefault(key + other, []).append((f[0] * g[0], f[1] * g[1]))
-    return table
+
+
+def sum_of_products(pairs):
+    """The sum of the products p q of a list of pairs (p, q) of polynomials."""
+    seen = {}
+    top = 0
+    scale = 1
+    scales = []
+    for p, q in pairs:
+        top = max(top, note_letters(p, seen) + note_letters(q, seen))
+        scales.append((small_scale(p), small_scale(q)))
+    for left, right in scales:
+        scale = joined_scale(scale, left * right)
+    frame = Frame(sorted(seen), top)
+    table = {}
+    for (p, q), (left, right) in zip(pairs, scales):
+        if scale:
+            rows = integer_rows(frame, p, scale // right)
+            add_integer_products(table, rows, integer_rows(frame, q, right))
+        else:
+            add_fraction_products(table, fraction_rows(frame, p), fraction_rows(frame, q))
+    if scale:
+        return from_integers(frame, table, scale)
+    return from_parts(frame, table)
+
+
+def joined_scale(scale, other):
+    """The least common multiple of two scales, 0 if one is 0 or it has too many bits."""
+    if not scale or not other:
+        return 0
+    found = lcm(scale, other)
+    if found.bit_length() > 2 * SMALL_BITS:
+        return 0
+    return found
 
 
 def from_integers(frame, table, scale):

@@ -5,19 +5,10 @@ from ratesay.commons import common_table
 from ratesay.dividing import exact
 from ratesay.errors import BadDivisor, TooGreat
 from ratesay.forms import is_count, is_fraction, is_name, is_pair
-from ratesay.packing import (
-    fraction_product,
-    fraction_rows,
-    frame_of,
-    from_integers,
-    from_parts,
-    integer_product,
-    integer_rows,
-    small_scale,
-)
+from ratesay.packing import frame_of, from_integers, sum_of_products
 from ratesay.ratios import ONE, ZERO, capped_power, inverted, multiplied, negated, reduced
 
-UNIT = (((), ONE),)
+UNIT = (((), (1, 1)),)
 MOST_PAIRS = 40000
 
 
@@ -115,12 +106,7 @@ def times(p, q):
         return ()
     if len(p) == 1 and not p[0][0]:
         return scaled(q, p[0][1])
-    frame = frame_of(p, q)
-    left, right = small_scale(p), small_scale(q)
-    if left and right:
-        table = integer_product(integer_rows(frame, p, left), integer_rows(frame, q, right))
-        return from_integers(frame, table, left * right)
-    return from_parts(frame, fraction_product(fraction_rows(frame, p), fraction_rows(frame, q)))
+    return sum_of_products([(p, q)])
 
 
 def scaled(p, f):

@@ -4,9 +4,9 @@ Each function takes the equations and inequations of a node as they are at that 
 a Budget. It returns None where something is not right, or the bounds are passed.
 """
 
-from ratesay.collecting import total
 from ratesay.forms import is_count, is_pair
-from ratesay.polynomials import UNIT, alike, is_polynomial, raised, times
+from ratesay.packing import sum_of_products
+from ratesay.polynomials import UNIT, alike, is_polynomial, plus, raised, times
 from ratesay.rates import next_rate
 from ratesay.ratios import capped_power
 
@@ -97,7 +97,7 @@ def row_work(equations, rows):
 
 def row_sum(equations, rows):
     """The polynomial of a sum row."""
-    return total([times(m, equations[i]) for i, m in rows])
+    return sum_of_products([(m, equations[i]) for i, m in rows])
 
 
 def rate_work(p):
@@ -153,7 +153,7 @@ def nonzero_step(step, equations, inequations, budget):
     _, powers, rows = step
     if not budget.spend(power_work(inequations, powers) + row_work(equations, rows)):
         return None
-    return total([power_product(inequations, powers), row_sum(equations, rows)])
+    return plus(power_product(inequations, powers), row_sum(equations, rows))
 
 
 def divisor_step(step, equations, inequations, budget):

@@ -24,7 +24,7 @@ class Node:
         self.assumed = ""
         self.end = None
 
-    def place(self, side, p):
+    def joins(self, side, p):
         """Puts a polynomial behind E or N."""
         row = self.equations if side == "E" else self.inequations
         self.places.append((side, len(row), p))
@@ -39,7 +39,7 @@ class Node:
             second = (*second, h)
         found = Node(list(self.equations), list(self.inequations), (first, second))
         found.assumed = side
-        found.place(side, h)
+        found.joins(side, h)
         return found
 
 
@@ -70,7 +70,7 @@ def go_through(node, value, goal, budget):
         p = placed_by(step, node.equations, node.inequations, budget)
         if p is None:
             return False
-        node.place(step_side(step), p)
+        node.joins(step_side(step), p)
     node.end = end
     if end[0] == "contradiction":
         return is_contradiction(end, node.equations, node.inequations, budget)
