@@ -48,8 +48,21 @@ def parts_by(frame, table, field):
     parts = {}
     for key, n in table.items():
         e = (key >> shift) & frame.mask
-        parts.setdefault(e, {})[key - (e << shift)] = n
+        if e not in parts:
+            parts[e] = {}
+        parts[e][key - (e << shift)] = n
     return parts
+
+
+def parts_beside(table, mask):
+    """The list of the coefficients of a table by the letters whose fields are in the mask."""
+    parts = {}
+    for key, n in table.items():
+        at = key & mask
+        if at not in parts:
+            parts[at] = {}
+        parts[at][key - at] = n
+    return list(parts.values())
 
 
 def common_table(frame, table, other):
@@ -95,11 +108,15 @@ def common_primitive(frame, p, q):
     rows, others = list(p.items()), list(q.items())
     first, second = fields_of(frame, rows), fields_of(frame, others)
     shared = []
+    away = 0
     for k, top in enumerate(first):
         if top and second[k] and not surely_free(frame, rows, others, k, top):
             shared.append(k)
         elif top or second[k]:
-            return common_of_parts(frame, p, q, k)
+            away += frame.mask << (k * frame.width)
+    if away:
+        # The common divisors lack these letters, so they divide each coefficient by them.
+        return common_of_all(frame, parts_beside(p, away) + parts_beside(q, away))
     if not shared:
         return {0: 1}
     found = by_values(frame, p, q, len(frame.letters))
@@ -130,12 +147,6 @@ def surely_free(frame, rows, others, field, top):
     return common_degree(a, b) == 0
 
 
-def common_of_parts(frame, p, q, field):
-    """The greatest common divisor of two tables where it lacks the letter of the field."""
-    parts = list(parts_by(frame, p, field).values()) + list(parts_by(frame, q, field).values())
-    return common_of_all(frame, parts)
-
-
 def common_of_all(frame, tables):
     """The greatest common divisor of a list of tables, not empty, without its content."""
     ordered = sorted(tables, key=len)
@@ -154,15 +165,14 @@ def by_values(frame, p, q, count):
     integer as its base; if that divides both, and the integer is above twice the least of
     the highest coefficients, it is the greatest common divisor.
     """
+    while count and max(max(p), max(q)) >> ((count - 1) * frame.width) == 0:
+        count -= 1
     if count == 0:
         return {0: gcd(p[0], q[0])}
     left, p = plain(p)
     right, q = plain(q)
     shift = (count - 1) * frame.width
     first, second = max(p) >> shift, max(q) >> shift
-    if first == 0 and second == 0:
-        found = by_values(frame, p, q, count - 1)
-        return scaled_table(found, gcd(left, right))
     worth = 2 * min(height(p), height(q)) + 29
     for _ in range(TRIES):
         if worth.bit_length() * max(first, second) > MOST_BITS:
@@ -172,7 +182,8 @@ def by_values(frame, p, q, count):
             return None
         found = written(common, shift, worth, min(first, second))
         if found is not None and divides_both(frame, found, p, q):
-            return scaled_table(found, gcd(left, right))
+            content = gcd(left, right)
+            return {key: n * content for key, n in found.items()}
         worth = worth * 73794 // 27011
     return None
 
@@ -184,13 +195,6 @@ def by_two_values(frame, a, b, count):
     if not b:
         return a
     return by_values(frame, a, b, count)
-
-
-def scaled_table(table, n):
-    """The table times an integer other than 0; None for None."""
-    if table is None:
-        return None
-    return {key: m * n for key, m in table.items()}
 
 
 def height(table):
@@ -239,7 +243,7 @@ def divides_both(frame, found, p, q):
 
 def by_remainders(frame, p, q, field):
     """The greatest common divisor of two tables by remainders in the letter of a field."""
-    a, b = common_of_parts_of(frame, p, field), common_of_parts_of(frame, q, field)
+    a, b = common_part(frame, p, field), common_part(frame, q, field)
     low = common_table(frame, a, b)
     first, second = quotient_table(frame, p, a), quotient_table(frame, q, b)
     while True:
@@ -247,13 +251,13 @@ def by_remainders(frame, p, q, field):
         if not rest:
             return product_table(low, second)
         rest = plain(rest)[1]
-        rest = quotient_table(frame, rest, common_of_parts_of(frame, rest, field))
+        rest = quotient_table(frame, rest, common_part(frame, rest, field))
         first, second = second, rest
         if len(rest) == 1:
             return low
 
 
-def common_of_parts_of(frame, table, field):
+def common_part(frame, table, field):
     """The greatest common divisor of the coefficients of a table by the letter of a field."""
     return common_of_all(frame, list(parts_by(frame, table, field).values()))
 
