@@ -3,12 +3,13 @@
 import unittest
 
 from ratesay import homes
-from ratesay.errors import BadRanking
+from ratesay.errors import BadRanking, BadSteps
 from ratesay.homes import is_cases, is_home
-from ratesay.polynomials import number, power, times
+from ratesay.polynomials import number, plus, power, times
+from ratesay.rates import rates
 from ratesay.remainders import follow, whole_rest
 from ratesay.texts import read
-from tests.helpers import ANYTHING, NO_POLYNOMIALS, polys, rng_of, system
+from tests.helpers import ANYTHING, NO_POLYNOMIALS, polys, random_polynomial, rng_of, system
 from tests.test_rankings import NO_RANKINGS
 from tests.test_simple import NUMBER, SQUARE, X, XY
 from tests.test_trees import CASES, mutated
@@ -117,6 +118,29 @@ class HomeTest(unittest.TestCase):
         self.assertIs(is_home(case, XY, (givens[0][::-1], givens[1]), home), False)
         self.assertIs(is_home(case, XY, givens, (home[0], trees[::-1])), False)
         self.assertIs(is_home(case, XY, (givens[0][:2], givens[1]), (home[0][:2], trees)), True)
+
+    def test_random_steps(self):
+        rng = rng_of(2)
+        case = system(["y*x^2 - x' + x''", "y'^2 - y"], ["y"])
+        letters = [("x", 0), ("x", 2), ("y", 0), ("y", 1)]
+        right = 0
+        for _ in range(200):
+            p, steps = (), []
+            for _ in range(rng.randint(0, 4)):
+                i, j = rng.randint(0, 1), rng.randint(0, 2)
+                m = random_polynomial(rng, letters, 2, rng.randint(0, 3))
+                p = plus(p, times(m, rates(case[0][i], j)[j]))
+                steps.append((i, j, 0, m))
+            rng.shuffle(steps)
+            self.assertIs(is_home(case, XY, ((p, p), ()), ((tuple(steps), tuple(steps[::-1])), ())), True)
+            bent = mutated(rng, tuple(steps))
+            try:
+                told = follow(p, case[0], XY, bent) == ()
+            except BadSteps:
+                told = False
+            self.assertIs(is_home(case, XY, ((p,), ()), ((bent,), ())), told)
+            right += told
+        self.assertGreater(right, 5)
 
     def test_e_and_j_of_20_and_21(self):
         case, ranking = system(["y*x", "z"], ["y"]), (("x",), ("y", "z"))

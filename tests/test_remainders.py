@@ -205,8 +205,24 @@ class StepsTest(unittest.TestCase):
         for m in ((), ONE):
             self.great("rest", follow, (), equations, ranking, ((0, 5, 0, m),))
             self.great("rest", identity, (), equations, ranking, ((0, 5, 0, m),))
-        # A later rate may have fewer terms than one on the way to it, never so here; the first great one counts.
         self.great("rest", follow, (), equations, ranking, ((0, 12, 0, ()),))
+
+    def test_rates_of_3000_and_3001_terms(self):
+        # Each pair of many has a rate of 2 pairs, each letter one of 1.
+        ranking = (("z",), ("b", "c", "d"))
+        exact = (plus(plus(many(1499), read("b")), read("z")),)
+        beyond = (plus(many(1500), read("z")),)
+        self.assertEqual(len(rates(exact[0], 1)[1]), 3000)
+        self.assertEqual(len(rates(beyond[0], 1)[1]), 3001)
+        for m in ((), ONE):
+            self.assertEqual(len(follow((), exact, ranking, ((0, 1, 0, m),))), 3000 * len(m))
+            self.assertEqual(len(identity((), exact, ranking, ((0, 1, 0, m),))[1]), len(m))
+            for function in WITH_STEPS:
+                self.great("rest", function, (), beyond, ranking, ((0, 1, 0, m),))
+        # The equation itself may have more.
+        self.assertEqual(len(follow((), (plus(many(3500), read("z")),), ranking, ((0, 0, 0, ONE),))), 3501)
+        # The first step with such a rate counts, ahead of later products that are too great.
+        self.great("rest", follow, (), beyond, ranking, ((0, 0, 0, ONE), (0, 1, 0, ())))
 
     def test_too_great_rest(self):
         ranking = (("x",), ("b", "c", "d"), ("y",))
