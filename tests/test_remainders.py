@@ -264,6 +264,19 @@ class StepsTest(unittest.TestCase):
         self.assertEqual(follow(f, equations, ranking, ((0, 0, 0, m), (0, 0, 20, ()))), ())
 
 
+    def test_one_product_too_many(self):
+        # 3 * 66,667 is 200,001.
+        ranking = (("x",), ("z",), ("b", "c", "d"))
+        equations = (times(linear(3), read("x")), read("z"))
+        m = many(66667)
+        self.great("rest", follow, m, equations, ranking, ((0, 0, 1, ()),))
+        self.assertEqual(len(follow(m[1:], equations, ranking, ((0, 0, 1, ()),))), 3 * 66666)
+        steps = ((1, 0, 0, m), (0, 0, 1, ()))
+        f = times(m, read("z"))
+        self.assertEqual(follow(f, equations, ranking, steps), ())
+        self.great("identity", identity, f, equations, ranking, steps)
+
+
 class RestsTest(unittest.TestCase):
     def check(self, f, equations, ranking):
         """Checks both rests; the whole one is returned."""
