@@ -262,6 +262,7 @@ def pseudo(g, p, v):
         c = coefficients(r, v)[top]
         factor = quotient(c, lead)
         if factor is None:
+            # No pseudo-quotient of r has k = 0, so multiplying just here leads to the least k.
             k += 1
             q = times(lead, q)
             r = times(lead, r)
@@ -270,16 +271,6 @@ def pseudo(g, p, v):
         q = plus(q, factor)
         r = less(r, times(factor, p))
         top = degree(r, v)
-    return least_pseudo(k, q, r, lead)
-
-
-def least_pseudo(k, q, r, lead):
-    """The pseudo-quotient with the least k that a pseudo-quotient comes from."""
-    while k > 0:
-        lower_q, lower_r = quotient(q, lead), quotient(r, lead)
-        if lower_q is None or lower_r is None:
-            return (k, q, r)
-        k, q, r = k - 1, lower_q, lower_r
     return (k, q, r)
 
 

@@ -125,6 +125,17 @@ class CommonDivisorTest(unittest.TestCase):
         self.assertEqual(common_divisor(read("x^6 - 1"), read("x^4 - 1")), read("x^2 - 1"))
         self.assertEqual(common_divisor(read("x^6 - y^6"), read("x^4 - y^4")), read("y^2 - x^2"))
 
+    def test_unlucky_values(self):
+        # The first values that are tried have a common divisor that is not that of the polynomials.
+        for p, q, told in (
+            ("x^2 + x^3 - x^4 - 2*x^5 - x^6", "-1 - x - x^3 - x^4 - x^5 - x^6", "1 + x"),
+            ("1 + x + x^2 + x^3 + x^4 + x^5", "-1 - 2*x - x^2 + x^3 + x^4 + x^5 + x^6", "1 + x"),
+            ("-x - 2*x^2 - 2*x^3 - x^4 - x^5 - x^6", "x^3 - 2*x^5 - x^6", "x + x^2"),
+            ("x + x^2*y^2 + x^3*y + y", "-x*y^2 + x*y^3 + x^2*y + x^3 + x^3*y^2 + x^4*y - y^3 + y^4", "x + y"),
+            ("x*y - x^2*y^2 - x^3*y + y^2", "x*y^3 + x^2*y^2 - x^2*y^4 - x^3*y^3 - x^5*y - x^6", "x + y"),
+        ):
+            self.assertEqual(common_divisor(read(p), read(q)), read(told))
+
     def test_remainders_tell_the_same(self):
         rng = rng_of(5)
         checked = 0

@@ -171,6 +171,8 @@ class ReadingTest(unittest.TestCase):
         self.bad("1/" + nines + "9", 202)
         self.bad("x + 0" + nines, 204)
         self.assertEqual(read("1/" + "0" * 199 + "1"), number((1, 1)))
+        self.assertEqual(read("1/1" + "0" * 199), number((1, 10 ** 199)))
+        self.assertEqual(read("1/" + "0" * 198 + "10"), number((1, 10)))
         self.bad("1/" + "0" * 199, 201)
         self.bad("1/" + "0" * 200, 201)
         self.bad("1/" + "0" * 200 + "1", 201)

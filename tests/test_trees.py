@@ -384,6 +384,9 @@ class BoundsTest(TreeTest):
         self.assertIsNone(judged(zero, None, leaf([], ("contradiction", 0, ((0, 60), (1, 1))))))
         self.assertIsNone(judged(zero, (), leaf([], ("goal", 0, 60, ((0, 60),)))))
         self.assertIsNotNone(judged(zero, (), leaf([], ("goal", 1, 60, ((0, 60),)))))
+        nothing = (zero[0], (pairs(60), ()))
+        self.assertIsNotNone(judged(nothing, pairs(60), leaf([], ("goal", 1, 60, ((0, 60), (1, 1))))))
+        self.assertIsNone(judged(nothing, pairs(60), leaf([], ("goal", 0, 60, ((0, 60), (1, 1))))))
         self.assertIsNotNone(judged(zero, None, leaf([("cancel", 1, (), ((0, 60),))])))
         self.assertIsNone(judged(zero, None, leaf([("cancel", 0, (), ((0, 60),))])))
 
