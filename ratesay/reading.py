@@ -100,12 +100,10 @@ class Reader:
         return found
 
     def digits(self):
-        """One or more digits in a row, at most MOST_DIGITS."""
+        """The number of the digits in a row that begin here, at most MOST_DIGITS of them."""
         start = self.at
         while self.among(DIGITS) and self.at - start < MOST_DIGITS:
             self.at += 1
-        if self.at == start:
-            raise BadText(self.at)
         return int(self.text[start:self.at])
 
     def fraction(self):

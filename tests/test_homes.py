@@ -213,6 +213,13 @@ class WorkTest(unittest.TestCase):
         # Rates of different members are counted each.
         self.work_is([read("z'"), f], [((1, 1, 0, ONE),), ((0, 1, 0, ONE),)], 1 + 2 + 3 + 6)
 
+    def test_rates_alone_go_beyond(self):
+        f = read("x'*y + x*y' + x'")
+        for left, told in ((9, True), (8, False), (2, False), (0, False)):
+            first, second = self.rows_of(3000000 - left)
+            home = (tuple([*second, ((0, 1, 0, ONE),)]), ())
+            self.assertIs(is_home(self.CASE, self.RANKING, (tuple([*first, f]), ()), home), told)
+
     def test_great_heads_are_not_worked_out(self):
         head = tuple(((((("x", 0), 1), (("y", k), 1))), (1, 1)) for k in range(20))
         case = ((head,), ())

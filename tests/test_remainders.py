@@ -362,6 +362,7 @@ class RestsTest(unittest.TestCase):
         equations, ranking = polys("x' - x", "abcdefgh[20] - x"), (("abcdefgh",), ("x",))
         self.assertEqual(self.check(read("x[20]"), equations, ranking), read("x"))
         self.assertEqual(self.check(((((("abcdefgh", 30), 1),), (1, 1)),), equations, ranking), read("x"))
+        self.assertEqual(self.check(read("x[20] - 3"), polys("x"), ranking), read("-3"))
 
     def test_each_function_stands_in_its_file(self):
         for name in "is_partly_reduced is_reduced partial_rest whole_rest follow identity".split():

@@ -269,6 +269,9 @@ class EndsTest(TreeTest):
                     ("split", h, 1, 2, 3), ("split", None, 1, 2), ("split", h, -1, 2), ("split", 0, 1, 2), ("split", h, 1, "2"), ("split",)):
             self.wrong(told, (((), end), ((), CASE), ((), CASE)))
         self.wrong(told, (((), ("split", h, 1, 2)), ((), CASE)))
+        self.wrong(told, (((), ("split", h, 1, 0)), ((), CASE)))
+        self.wrong(told, (((), ("split", h, 0, 1)), ((), CASE)))
+        self.wrong(told, (((), ("split", h, 1, 1)), ((), CASE)))
         self.wrong(told, (((), CASE), ((), CASE)))
         self.wrong(told, (((), ("split", h, 1, 2)), ((), CASE), ((), CASE), ((), CASE)))
         for value in NO_POLYNOMIALS:
@@ -292,6 +295,8 @@ class EndsTest(TreeTest):
         self.assertEqual(self.right(told, right[2])[3][1], ((b, c), (a,)))
         # A node named twice, by one split or by two; a node named by none; a node named by a later one.
         self.wrong(told, (((), ("split", a, 1, 2)), ((), ("split", b, 2, 3)), leaf_end, leaf_end))
+        self.wrong(told, (((), ("split", a, 1, 2)), ((), ("split", b, 3, 2)), leaf_end, leaf_end))
+        self.wrong(told, (((), ("split", a, 1, 2)), ((), ("split", b, 3, 1)), leaf_end, leaf_end))
         self.wrong(told, (((), ("split", a, 1, 2)), ((), ("split", b, 4, 3)), ((), ("split", b, 4, 5)), leaf_end, leaf_end, leaf_end))
         self.wrong(told, (((), ("split", a, 1, 3)), leaf_end, ((), ("split", b, 4, 5)), leaf_end, leaf_end, leaf_end))
         self.wrong(told, (((), ("split", a, 1, 4)), leaf_end, leaf_end, ((), ("split", b, 2, 5)), leaf_end, leaf_end))
