@@ -3,7 +3,7 @@
 import unittest
 
 from ratesay import remainders
-from ratesay.errors import BadEquations, BadPolynomial, BadRanking, BadSteps, TooGreat
+from ratesay.errors import BadEquations, BadPolynomial, BadRanking, BadSteps, TooGreat, TooMany
 from ratesay.polynomials import as_number, letters_of, number, plus, power, quotient, times
 from ratesay.rankings import initial, leader, separant
 from ratesay.rates import rates
@@ -363,6 +363,22 @@ class RestsTest(unittest.TestCase):
         self.assertEqual(self.check(read("x[20]"), equations, ranking), read("x"))
         self.assertEqual(self.check(((((("abcdefgh", 30), 1),), (1, 1)),), equations, ranking), read("x"))
         self.assertEqual(self.check(read("x[20] - 3"), polys("x"), ranking), read("-3"))
+
+    def test_what_follow_refuses_is_never_told(self):
+        wide = plus(times(linear(20), read("x")), read("-1"))
+        ranking = (("x",), ("b", "c", "d"))
+        # The rest of x^12 + 1 is the head to the power 12, and 1.
+        great = read("x^12 + 1")
+        for f, equations in ((((((("x", 21), 1),), (1, 1)),), polys("x")), (great, (wide,)), (read("x[3]^6"), (wide,))):
+            for rests in (partial_rest, whole_rest):
+                try:
+                    steps, rest = rests(f, equations, ranking)
+                except TooMany:
+                    continue
+                self.assertEqual(follow(f, equations, ranking, steps), rest)
+        with self.assertRaises(TooMany):
+            whole_rest(great, (wide,), ranking)
+        self.assertEqual(len(whole_rest(read("x^3 + 1"), (wide,), ranking)[1]), 1541)
 
     def test_each_function_stands_in_its_file(self):
         for name in "is_partly_reduced is_reduced partial_rest whole_rest follow identity".split():

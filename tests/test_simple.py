@@ -105,8 +105,12 @@ class CasesTest(unittest.TestCase):
             for function in self.functions():
                 with self.assertRaises(BadRanking):
                     function(SQUARE, ranking)
-                with self.assertRaises(BadCase):
-                    function(None, ranking)
+                # The form goes ahead of the ranking, the ranking ahead of (a) to (c).
+                for value in (None, (polys("x", "1"), ()), (polys("0"), ()), ((), polys("x", "2"))):
+                    with self.assertRaises(BadCase):
+                        function(value, ranking)
+                with self.assertRaises(BadRanking):
+                    function(system(["x", "x"]), ranking)
 
     def test_the_ranking_counts(self):
         value = system(["x - y"], ["y"])
