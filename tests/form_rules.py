@@ -233,9 +233,24 @@ class Checker(ast.NodeVisitor):
     def barred(self, node):
         self.fault(node, f"{type(node).__name__} is not used here")
 
-    visit_Global = visit_Nonlocal = visit_AsyncFunctionDef = visit_Await = visit_Lambda = barred
-    visit_Yield = visit_YieldFrom = visit_Try = visit_With = visit_Match = visit_NamedExpr = barred
-    visit_GeneratorExp = visit_SetComp = visit_Set = visit_AnnAssign = visit_Delete = barred
+    def visit_Delete(self, node):
+        if not all(isinstance(part, ast.Subscript) for part in node.targets):
+            self.fault(node, "L6: del")
+        self.generic_visit(node)
+
+    def visit_Try(self, node):
+        if node.finalbody or node.orelse:
+            self.fault(node, "L6: try")
+        for handler in node.handlers:
+            told = handler.type.elts if isinstance(handler.type, ast.Tuple) else [handler.type]
+            for part in told:
+                if not isinstance(part, ast.Name) or self.imports.get(part.id) != "ratesay.errors":
+                    self.fault(node, "L19: except")
+        self.generic_visit(node)
+
+    visit_Global = visit_Nonlocal = visit_AsyncFunctionDef = visit_Await = barred
+    visit_Yield = visit_YieldFrom = visit_With = visit_Match = visit_NamedExpr = barred
+    visit_GeneratorExp = visit_SetComp = visit_Set = visit_AnnAssign = barred
 
 
 def modules():

@@ -1,0 +1,278 @@
+"""Nodes that grow: what holds at a node, what is solved there, and the steps that placed it."""
+
+from ratesay.errors import TooMany
+from ratesay.factors import factors_of
+from ratesay.members import Member
+from ratesay.packing import sum_of_products
+from ratesay.polynomials import UNIT, as_number, letters_of, plus, primitive, quotient, scaled, times
+from ratesay.rankings import highest, key_of
+from ratesay.ratios import inverted, multiplied
+from ratesay.treesteps import power_product, power_work, row_work
+
+MOST_TERMS = 6000
+
+
+class Scope:
+    """What all branches of one search share: the ranking, what was worked out, the work done so far."""
+
+    def __init__(self, places, with_rates, most):
+        self.places = places
+        self.with_rates = with_rates
+        self.most = most
+        self.spent = 0
+        self.members = {}
+        self.factors = {}
+
+    def key(self, v):
+        """The key of a letter."""
+        return key_of(self.places, v)
+
+    def highest(self, p):
+        """The highest letter of p."""
+        return highest(p, self.places)
+
+    def member(self, p):
+        """p as an equation to divide by."""
+        if p not in self.members:
+            self.members[p] = Member(p, self.highest(p))
+        return self.members[p]
+
+    def pieces(self, p):
+        """The different factors of p that are easily found."""
+        if p not in self.factors:
+            self.factors[p] = factors_of(p)
+        return self.factors[p]
+
+    def spend(self, work):
+        """Gives up when the whole work is too great."""
+        self.spent += work
+        if self.spent > self.most:
+            raise TooMany()
+
+    def rank(self, p):
+        """What a polynomial is chosen by: the lowest leader, then the least degree and size."""
+        member = self.member(p)
+        return (self.key(member.leader), member.degree, len(p))
+
+
+class Branch:
+    """A node that grows."""
+
+    def __init__(self, equations, inequations, givens, number):
+        self.equations = equations
+        self.inequations = inequations
+        self.givens = givens
+        self.number = number
+        self.steps = []
+        self.end = None
+        self.solved = {}
+        self.kept = []
+        self.open_equations = []
+        self.open_inequations = []
+        self.parts = {}
+        self.rate_places = {}
+
+    def child(self, number):
+        """A branch that goes on from here."""
+        found = Branch(list(self.equations), list(self.inequations), self.givens, number)
+        found.solved = dict(self.solved)
+        found.kept = list(self.kept)
+        found.open_equations = list(self.open_equations)
+        found.open_inequations = list(self.open_inequations)
+        found.parts = {part: place for part, place in self.parts.items()}
+        found.rate_places = {pair: place for pair, place in self.rate_places.items()}
+        return found
+
+    def joins(self, step, p):
+        """Places p in E by a step; its place."""
+        self.steps.append(step)
+        self.equations.append(p)
+        return len(self.equations) - 1
+
+    def joins_others(self, step, p):
+        """Places p in N by a step; its place."""
+        self.steps.append(step)
+        self.inequations.append(p)
+        return len(self.inequations) - 1
+
+    def leaders(self):
+        """The dict from the names that lead to the orders of their solved leaders."""
+        return {v[0]: v[1] for v in self.solved}
+
+
+def root_branch(system):
+    """The branch with which a tree of the system begins."""
+    first, second = system
+    found = Branch(list(first), list(second), (tuple(first), tuple(second)), 0)
+    found.open_equations = list(range(len(first)))
+    found.open_inequations = list(range(len(second)))
+    return found
+
+
+def rate_place(scope, branch, place, j):
+    """The place in E of the j-th rate of E[place]."""
+    if j == 0:
+        return place
+    if (place, j) not in branch.rate_places:
+        low = rate_place(scope, branch, place, j - 1)
+        p = rate_of(scope, branch, place, j)
+        scope.spend(len(p))
+        branch.rate_places[(place, j)] = branch.joins(("rate", low), p)
+    return branch.rate_places[(place, j)]
+
+
+def rate_of(scope, branch, place, j):
+    """The j-th rate of E[place]."""
+    if j == 0:
+        return branch.equations[place]
+    found = scope.member(branch.equations[place]).rate_within(j, MOST_TERMS)
+    if found is None:
+        raise TooMany()
+    return found
+
+
+def place_sum(scope, branch, rows):
+    """The place in E of the sum of a list of pairs (place, multiplier)."""
+    told = tuple([(i, m) for i, m in rows if m])
+    scope.spend(row_work(branch.equations, told))
+    p = sum_of_products([(m, branch.equations[i]) for i, m in told])
+    if len(p) > MOST_TERMS:
+        raise TooMany()
+    return branch.joins(("sum", told), p)
+
+
+def place_without(scope, branch, place, g, powers):
+    """The place in E of g, E[place] being alike g times the product of powers."""
+    scope.spend(power_work(branch.inequations, powers) * len(g))
+    return branch.joins(("cancel", place, g, powers), g)
+
+
+def place_nonzero(scope, branch, powers, rows):
+    """The place in N of the product of powers plus the sum of rows."""
+    told = tuple([(i, m) for i, m in rows if m])
+    scope.spend(power_work(branch.inequations, powers) + row_work(branch.equations, told))
+    p = plus(power_product(branch.inequations, powers), sum_of_products([(m, branch.equations[i]) for i, m in told]))
+    if len(p) > MOST_TERMS:
+        raise TooMany()
+    return branch.joins_others(("nonzero", powers, told), p)
+
+
+def place_divisor(scope, branch, powers, g, h):
+    """The place in N of g, the product of powers being alike g h."""
+    scope.spend(power_work(branch.inequations, powers) + len(g) * len(h))
+    return branch.joins_others(("divisor", powers, g, h), g)
+
+
+def note(scope, branch, place):
+    """Notes the factors of N[place] as known not to be 0."""
+    p = branch.inequations[place]
+    if as_number(p) is not None:
+        return
+    for part in scope.pieces(p):
+        if part not in branch.parts:
+            at = place
+            if part != p:
+                at = place_divisor(scope, branch, ((place, 1),), part, quotient(p, part))
+            branch.parts[part] = at
+
+
+def stripped(branch, p):
+    """The triple (f, powers, rest): p is f times the product of powers, times rest; rest is primitive."""
+    f, rest = primitive(p)
+    powers = {}
+    letters = {v: True for v in letters_of(rest)}
+    for part, place in branch.parts.items():
+        if within(part, letters):
+            q = quotient(rest, part)
+            while q is not None:
+                powers[place] = powers.get(place, 0) + 1
+                rest = q
+                q = quotient(rest, part)
+    row = tuple([(place, powers[place]) for place in sorted(powers)])
+    if row:
+        rest = primitive(rest)[1]
+        whole = times(power_product(branch.inequations, row), rest)
+        f = multiplied(p[0][1], inverted(whole[0][1]))
+    return (f, row, rest)
+
+
+def within(part, letters):
+    """Whether all letters of a polynomial are in the dict."""
+    for monomial, _ in part:
+        for v, _ in monomial:
+            if v not in letters:
+                return False
+    return True
+
+
+def next_step(scope, branch, g):
+    """How g goes on to be reduced: (a, (place, j, m)), so that a g less m times the j-th rate is lower; or None."""
+    letters = letters_of(g)
+    if scope.with_rates:
+        orders = branch.leaders()
+        found = [(scope.key(v), v) for v in letters if v[0] in orders and v[1] > orders[v[0]]]
+        if found:
+            v = max(found)[1]
+            order = orders[v[0]]
+            return step_at(scope, branch, g, v, branch.solved[(v[0], order)], v[1] - order)
+    found = [(scope.key(v), v) for v in letters if v in branch.solved]
+    for _, v in sorted(found, reverse=True):
+        member = scope.member(branch.equations[branch.solved[v]])
+        if degree_in(g, v) >= member.degree:
+            return step_at(scope, branch, g, v, branch.solved[v], 0)
+    return None
+
+
+def degree_in(g, v):
+    """The highest exponent of v in g."""
+    top = 0
+    for monomial, _ in g:
+        for w, e in monomial:
+            if w == v and e > top:
+                top = e
+    return top
+
+
+def step_at(scope, branch, g, v, place, j):
+    """The step that lowers the degree of g in v by the j-th rate of the solved member at a place."""
+    member = scope.member(branch.equations[place])
+    head = member.head(j)
+    top = degree_in(g, v)
+    c = top_part(g, v, top)
+    low = top - (1 if j else member.degree)
+    a = UNIT
+    m = quotient(c, head)
+    if m is None:
+        a, m = lowest_multiples(branch, c, head)
+    return (a, (place, j, times(m, power_of(v, low))))
+
+
+def top_part(g, v, top):
+    """The coefficient of v to the power top in g."""
+    found = []
+    for monomial, f in g:
+        for k, (w, e) in enumerate(monomial):
+            if w == v and e == top:
+                found.append((monomial[:k] + monomial[k + 1:], f))
+    return tuple(sorted(found))
+
+
+def power_of(v, e):
+    """The letter v to the power e."""
+    if e == 0:
+        return UNIT
+    return ((((v, e),), (1, 1)),)
+
+
+def lowest_multiples(branch, c, head):
+    """The pair (a, m) with a c = m head, a a product of known polynomials."""
+    a, m = head, c
+    for part in branch.parts:
+        x, y = quotient(a, part), quotient(m, part)
+        while x is not None and y is not None:
+            a, m = x, y
+            x, y = quotient(a, part), quotient(m, part)
+    f = as_number(a)
+    if f is not None:
+        return (UNIT, scaled(m, inverted(f)))
+    return (a, m)

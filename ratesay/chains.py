@@ -1,0 +1,69 @@
+"""What two polynomials have in common as polynomials of one letter: resultants as sums of multiples."""
+
+from ratesay.polynomials import (
+    UNIT,
+    coefficients,
+    degree,
+    joined,
+    less,
+    plus,
+    pseudo,
+    quotient,
+    raised,
+    scaled,
+    times,
+)
+
+
+def resultant(g, f, v):
+    """The triple (r, a, b) with r = a g + b f free of v, r () if both have a common factor with v.
+
+    Both have v; the degree of f is not above that of g.
+    """
+    if degree(f, v) == 1:
+        k, q, r = pseudo(g, f, v)
+        return (r, raised(coefficients(f, v)[-1], k), scaled(q, (-1, 1)))
+    r, b = last_of_chain(g, f, v)
+    if not r:
+        return ((), (), ())
+    return (r, quotient(less(r, times(b, f)), g), b)
+
+
+def divided(g, p, v, k):
+    """The pair (q, r) with I to the power k, times g, = q p + r, I the highest coefficient of p by v."""
+    lead = coefficients(p, v)[-1]
+    d = degree(p, v)
+    q, r = (), g
+    left = k
+    while degree(r, v) >= d:
+        parts = coefficients(r, v)
+        factor = joined((*[() for _ in range(len(parts) - 1 - d)], parts[-1]), v)
+        q = plus(times(lead, q), factor)
+        r = less(times(lead, r), times(factor, p))
+        left -= 1
+    spare = raised(lead, left)
+    return (times(spare, q), times(spare, r))
+
+
+def last_of_chain(g, f, v):
+    """The pair (r, b): the last member of the chain of subresultants of g and f, and its multiple of f."""
+    r0, r1, b0, b1 = g, f, (), UNIT
+    step = degree(g, v) - degree(f, v)
+    turn = scaled(UNIT, (1 if step & 1 else -1, 1))
+    worth = scaled(UNIT, (-1, 1))
+    while degree(r1, v) > 0:
+        lead = coefficients(r1, v)[-1]
+        q, r = divided(r0, r1, v, step + 1)
+        b = less(times(raised(lead, step + 1), b0), times(q, b1))
+        r0, b0 = r1, b1
+        r1, b1 = quotient(r, turn), quotient(b, turn)
+        if not r1:
+            return ((), ())
+        against = scaled(lead, (-1, 1))
+        if step > 1:
+            worth = quotient(raised(against, step), raised(worth, step - 1))
+        elif step == 1:
+            worth = against
+        step = degree(r0, v) - degree(r1, v)
+        turn = times(against, raised(worth, step))
+    return (r1, b1)
