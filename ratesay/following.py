@@ -5,8 +5,9 @@ from ratesay.branches import Scope
 from ratesay.errors import TooMany
 from ratesay.identities import cost_of, identity_of
 from ratesay.members import members_of
-from ratesay.parting import advance, split
-from ratesay.searching import MOST_NODES, MOST_SPENT, case_of, noted_root, sorted_by_number, tree_of
+from ratesay.polynomials import UNIT
+from ratesay.searching import MOST_NODES, MOST_SPENT, MOST_TRIED, Growth, case_of
+from ratesay.tower_numbers import rest
 from ratesay.verdicts import brought_down, placed_zero
 
 MOST_COST = 400000
@@ -18,29 +19,20 @@ def answer_about(system, f, places):
     if not f:
         return ("yes", (((("sum", ()),), ("goal", len(system[0]), 1, ())),))
     scope = Scope(places, True, MOST_SPENT)
-    waiting = [noted_root(scope, system)]
-    found = []
+    growth = Growth(scope, system)
     given_up = False
-    count = 1
-    while waiting:
-        branch = waiting.pop()
-        ask = advance(scope, branch)
-        if ask is not None:
-            first, second = split(scope, branch, ask, count)
-            waiting.append(second)
-            waiting.append(first)
-            count += 2
-        elif branch.end[0] == "case":
+    while growth.waiting:
+        branch = growth.step()
+        if branch is not None and branch.end[0] == "case":
             paper = paper_at(scope, branch, system, f)
             if paper is not None:
                 return ("no", paper)
             given_up = given_up or branch.end[0] == "case"
-        found.append((branch.number, branch))
-        if count > MOST_NODES and not waiting or count > 4 * MOST_NODES:
+        if growth.count > MOST_TRIED:
             raise TooMany()
-    if given_up:
+    if given_up or growth.count > MOST_NODES:
         raise TooMany()
-    return ("yes", tree_of([branch for _, branch in sorted_by_number(found)]))
+    return ("yes", growth.tree())
 
 
 def paper_at(scope, branch, system, f):
@@ -48,34 +40,52 @@ def paper_at(scope, branch, system, f):
 
     If it is 0 at all, the leaf ends with the goal.
     """
+    # At most places a polynomial is not 0, so one is tried before f is reduced.
+    case = case_of(branch)
+    found = tried_paper(case, scope.places, system, f, UNIT)
+    if found is not None:
+        return found
     chain, r = brought_down(scope, branch, f)
     if not r:
         place = placed_zero(scope, branch, chain)
         branch.end = ("goal", place, 1, ())
         return None
+    return tried_paper(case, scope.places, system, f, r)
+
+
+def tried_paper(case, places, system, f, r):
+    """The paper that f is not 0 at some solution of a simple case at which r is not; None if none is found."""
     try:
-        return paper_of(case_of(branch), scope.places, system, f, r)
+        return paper_of(case, places, system, f, r)
     except TooMany:
         return None
 
 
 def paper_of(case, places, system, f, r):
-    """The paper that f, to which r belongs, is not 0 at some solution of a simple case of the system."""
+    """The paper that f is not 0 at some solution of a simple case of the system, at which r is not 0."""
     members = members_of(case[0], places)
     check_sizes(case)
-    identities = []
+    point = found_point(case, members, places, r)
+    start, turns = start_at(case, members, places, point, [*system[1], f])
+    homes = []
     for p in system[0]:
         s, rows = identity_of(case, members, places, p)
         for i, j, _ in rows:
             members[i].rate_within(j, 3 * MOST_PAIRS)
         if cost_of(members, rows) > MOST_COST:
             raise TooMany()
-        identities.append((s, rows))
-    point = found_point(case, members, places, r)
-    asked = [s for s, _ in identities] + [*system[1], f]
-    start, turns = start_at(case, members, places, point, asked)
-    homes = tuple([(s, rows, turns[k]) for k, (s, rows) in enumerate(identities)])
-    return (case, start, homes, tuple(turns[len(identities):]))
+        homes.append((s, rows))
+    told = [point.inverse_of(s) for s, _ in homes]
+    tower = point.tower
+    values = tuple([(v, rest(tower, u)) for v, u in start[1]])
+    start = (tower, values, with_rests(tower, start[2]), with_rests(tower, start[3]))
+    whole = tuple([(s, rows, rest(tower, u)) for (s, rows), u in zip(homes, told)])
+    return (case, start, whole, with_rests(tower, turns))
+
+
+def with_rests(tower, numbers):
+    """Numbers of a tower, as numbers of a part of it."""
+    return tuple([rest(tower, u) for u in numbers])
 
 
 def check_sizes(case):

@@ -12,6 +12,7 @@ from ratesay.simple import obligations
 from ratesay.verdicts import placed_nonzero, verdict
 
 MOST_NODES = 400
+MOST_TRIED = 1600
 MOST_SPENT = 2900000
 
 
@@ -23,45 +24,66 @@ def noted_root(scope, system):
     return found
 
 
+class Growth:
+    """A tree that grows: its nodes so far, and the branches that wait, those of little weight first."""
+
+    def __init__(self, scope, system):
+        self.scope = scope
+        self.count = 1
+        self.nodes = []
+        self.waiting = [(0, 0)]
+        self.branches = {0: noted_root(scope, system)}
+
+    def step(self):
+        """Works at the branch of least weight; the branch if it has ended without a split, otherwise None."""
+        weight, number = min(self.waiting)
+        self.waiting.remove((weight, number))
+        branch = self.branches.pop(number)
+        self.nodes.append((number, branch))
+        ask = advance(self.scope, branch)
+        if ask is None:
+            return branch
+        first, second = split(self.scope, branch, ask, self.count)
+        for child, more in ((first, size_of(ask)), (second, 1)):
+            self.waiting.append((weight + more, self.count))
+            self.branches[self.count] = child
+            self.count += 1
+        return None
+
+    def tree(self):
+        """The tree, when no branch waits."""
+        return tree_of(self.ordered())
+
+    def ordered(self):
+        """The list of all nodes, in their order."""
+        table = {number: branch for number, branch in self.nodes}
+        return [table[number] for number in sorted(table)]
+
+
+def size_of(h):
+    """How heavy it is to go on with the equation h."""
+    return len(h) * max([sum([e for _, e in monomial]) for monomial, _ in h])
+
+
 def grown(scope, system):
     """The list of all nodes of a tree of the system, by their numbers."""
-    waiting = [noted_root(scope, system)]
-    found = []
-    count = 1
-    while waiting:
-        branch = waiting.pop()
-        ask = advance(scope, branch)
-        if ask is not None:
-            if count + 2 > MOST_NODES:
-                raise TooMany()
-            first, second = split(scope, branch, ask, count)
-            waiting.append(second)
-            waiting.append(first)
-            count += 2
-        found.append((branch.number, branch))
-    return [branch for _, branch in sorted_by_number(found)]
-
-
-def sorted_by_number(rows):
-    """The pairs (number, branch), ascending by the numbers."""
-    table = {number: branch for number, branch in rows}
-    return [(number, table[number]) for number in sorted(table)]
+    growth = Growth(scope, system)
+    while growth.waiting:
+        growth.step()
+        if growth.count > MOST_NODES:
+            raise TooMany()
+    return growth.ordered()
 
 
 def first_leaf(scope, system):
     """The first open leaf that is found, or None if there is none."""
-    waiting = [noted_root(scope, system)]
-    count = 1
-    while waiting:
-        branch = waiting.pop()
-        ask = advance(scope, branch)
-        if ask is not None:
-            first, second = split(scope, branch, ask, count)
-            waiting.append(second)
-            waiting.append(first)
-            count += 2
-        elif branch.end[0] == "case":
+    growth = Growth(scope, system)
+    while growth.waiting:
+        branch = growth.step()
+        if branch is not None and branch.end[0] == "case":
             return branch
+        if growth.count > MOST_TRIED:
+            raise TooMany()
     return None
 
 

@@ -19,12 +19,13 @@ from ratesay.branches import (
     stripped,
 )
 from ratesay.chains import resultant
-from ratesay.polynomials import UNIT, as_number, degree, less, number, quotient, scaled, times
+from ratesay.polynomials import UNIT, as_number, degree, less, letters_of, number, quotient, scaled, times
 from ratesay.ratios import inverted
 from ratesay.treesteps import power_product
 
-MOST_PRODUCTS = 60000
+# Resultants are worked out of what has at most so many pairs and degrees, multiplied.
 MOST_CHAIN = 4000
+MOST_ALONE = 1600
 
 
 def brought_down(scope, branch, h):
@@ -90,7 +91,10 @@ def part_verdict(scope, branch, part):
 def common(g, p, w):
     """The resultant of g and p with its multipliers, or None if it may be too great."""
     m, n = degree(g, w), degree(p, w)
-    if n < 1 or n > m or len(g) * len(p) * m * n > MOST_CHAIN:
+    if n < 1 or n > m:
+        return None
+    alone = letters_of(g) == (w,) and letters_of(p) == (w,)
+    if m * n > MOST_ALONE if alone else len(g) * len(p) * m * n > MOST_CHAIN:
         return None
     return resultant(g, p, w)
 
