@@ -1,10 +1,10 @@
 """Nodes that grow: what holds at a node, what is solved there, and the steps that placed it."""
 
 from ratesay.errors import TooMany
-from ratesay.factors import factors_of
+from ratesay.factors import factors_of, is_surely_prime
 from ratesay.members import Member
 from ratesay.packing import sum_of_products
-from ratesay.polynomials import UNIT, as_number, letters_of, plus, primitive, quotient, scaled, times
+from ratesay.polynomials import UNIT, as_number, common_divisor, letters_of, plus, primitive, quotient, scaled, times
 from ratesay.rankings import highest, key_of
 from ratesay.ratios import inverted, multiplied
 from ratesay.treesteps import power_product, power_work, row_work
@@ -22,6 +22,7 @@ class Scope:
         self.spent = 0
         self.members = {}
         self.factors = {}
+        self.primes = {}
 
     def key(self, v):
         """The key of a letter."""
@@ -42,6 +43,12 @@ class Scope:
         if p not in self.factors:
             self.factors[p] = factors_of(p)
         return self.factors[p]
+
+    def is_prime(self, p):
+        """Whether a found factor surely has no factors."""
+        if p not in self.primes:
+            self.primes[p] = is_surely_prime(p)
+        return self.primes[p]
 
     def spend(self, work):
         """Gives up when the whole work is too great."""
@@ -164,16 +171,43 @@ def place_divisor(scope, branch, powers, g, h):
 
 
 def note(scope, branch, place):
-    """Notes the factors of N[place] as known not to be 0."""
+    """Notes the factors of N[place] as known not to be 0; no two noted ones have a common factor."""
     p = branch.inequations[place]
     if as_number(p) is not None:
         return
-    for part in scope.pieces(p):
-        if part not in branch.parts:
-            at = place
-            if part != p:
-                at = place_divisor(scope, branch, ((place, 1),), part, quotient(p, part))
-            branch.parts[part] = at
+    waiting = [(part, place) for part in scope.pieces(p)]
+    while waiting:
+        q, at = waiting.pop()
+        if q in branch.parts or as_number(q) is not None:
+            continue
+        other, common = shared(scope, branch, q)
+        if other is None:
+            branch.parts[q] = divisor_of(scope, branch, at, q)
+            continue
+        if other != common:
+            low = branch.parts.pop(other)
+            waiting.append((common, low))
+            waiting.append((primitive(quotient(other, common))[1], low))
+        waiting.append((primitive(quotient(q, common))[1], at))
+
+
+def divisor_of(scope, branch, place, q):
+    """The place in N of a polynomial q that divides N[place]."""
+    p = branch.inequations[place]
+    if p == q:
+        return place
+    return place_divisor(scope, branch, ((place, 1),), q, quotient(p, q))
+
+
+def shared(scope, branch, q):
+    """A noted part and the factor that it has in common with q, (None, None) if there is none."""
+    sure = scope.is_prime(q)
+    for part in branch.parts:
+        if not sure or not scope.is_prime(part):
+            common = common_divisor(q, part)
+            if as_number(common) is None:
+                return (part, common)
+    return (None, None)
 
 
 def stripped(branch, p):

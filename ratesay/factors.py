@@ -94,6 +94,12 @@ def factors_of(p):
 
 def pieces_of(p):
     """A list of polynomials that p has as factors; of one alone if none is found."""
+    low = lowest_exponents(p)
+    if low and p[1:]:
+        letters = [((((v, 1),), (1, 1)),) for v in low]
+        return [*letters, without_letters(p, low)]
+    if low:
+        return [((((v, 1),), (1, 1)),) for v in low]
     v = easiest_letter(p)
     top = degree(p, v)
     content = content_by(p, v)
@@ -113,6 +119,29 @@ def pieces_of(p):
     if len(letters_of(p)) == 1:
         return pieces_by_roots(p, v)
     return [p]
+
+
+def lowest_exponents(p):
+    """The dict from the letters that divide p to the highest exponents with which they do."""
+    found = {v: e for v, e in p[0][0]}
+    for monomial, _ in p[1:]:
+        here = {v: e for v, e in monomial}
+        found = {v: min(e, here[v]) for v, e in found.items() if v in here}
+    return found
+
+
+def without_letters(p, low):
+    """p divided by letters with exponents."""
+    rows = []
+    for monomial, f in p:
+        left = [(v, e - low.get(v, 0)) for v, e in monomial]
+        rows.append((tuple([(v, e) for v, e in left if e]), f))
+    return tuple(sorted(rows))
+
+
+def is_surely_prime(p):
+    """Whether a factor that was found surely has no factors: there is a letter of a degree up to 2."""
+    return degree(p, easiest_letter(p)) <= 2
 
 
 def without(p, q):

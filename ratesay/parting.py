@@ -277,7 +277,6 @@ def treat_inequation(scope, branch):
         return None
     if as_number(q) is not None:
         return None
-    note(scope, branch, at)
     if has_parts(scope, branch, at):
         return None
     return plain_inequation(scope, branch, at)
@@ -288,10 +287,11 @@ def has_parts(scope, branch, place):
     q = branch.inequations[place]
     if as_number(q) is not None:
         return False
-    parts = scope.pieces(q)
-    if len(parts) == 1 and primitive(q)[1] == parts[0]:
+    note(scope, branch, place)
+    _, powers, _ = stripped(branch, q)
+    if len(powers) == 1 and powers[0][1] == 1:
         return False
-    branch.open_inequations.extend([branch.parts[part] for part in parts])
+    branch.open_inequations.extend([at for at, _ in powers])
     return True
 
 
