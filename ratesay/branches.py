@@ -10,6 +10,8 @@ from ratesay.ratios import inverted, multiplied
 from ratesay.treesteps import power_product, power_work, row_work
 
 MOST_TERMS = 6000
+# Products of known polynomials of more work than this are worked out one after the other.
+MOST_AT_ONCE = 400
 
 
 class Scope:
@@ -78,6 +80,7 @@ class Branch:
         self.open_inequations = []
         self.parts = {}
         self.rate_places = {}
+        self.doubt = None
 
     def child(self, number):
         """A branch that goes on from here."""
@@ -150,12 +153,37 @@ def place_sum(scope, branch, rows):
 
 def place_without(scope, branch, place, g, powers):
     """The place in E of g, E[place] being alike g times the product of powers."""
-    scope.spend(power_work(branch.inequations, powers) * len(g))
+    work = power_work(branch.inequations, powers) * len(g)
+    if work > MOST_AT_ONCE and sum([e for _, e in powers]) > 1:
+        # One factor after the other makes less work than all at once.
+        j, e = powers[-1]
+        left = (*powers[:-1], (j, e - 1)) if e > 1 else powers[:-1]
+        low = quotient(branch.equations[place], branch.inequations[j])
+        at = place_without(scope, branch, place, primitive(low)[1], ((j, 1),))
+        return place_without(scope, branch, at, g, left)
+    scope.spend(work)
     return branch.joins(("cancel", place, g, powers), g)
+
+
+def lighter(scope, branch, powers):
+    """A power row for the same product, of which the work is not too great."""
+    if power_work(branch.inequations, powers) <= MOST_AT_ONCE or sum([e for _, e in powers]) < 2:
+        return powers
+    flat = sorted([(len(branch.inequations[j]), j) for j, e in powers for _ in range(e)])
+    at = flat[0][1]
+    for _, j in flat[1:]:
+        pair = ((min(at, j), 1), (max(at, j), 1)) if at != j else ((j, 2),)
+        scope.spend(power_work(branch.inequations, pair))
+        p = times(branch.inequations[at], branch.inequations[j])
+        if len(p) > MOST_TERMS:
+            raise TooMany()
+        at = branch.joins_others(("nonzero", pair, ()), p)
+    return ((at, 1),)
 
 
 def place_nonzero(scope, branch, powers, rows):
     """The place in N of the product of powers plus the sum of rows."""
+    powers = lighter(scope, branch, powers)
     told = tuple([(i, m) for i, m in rows if m])
     scope.spend(power_work(branch.inequations, powers) + row_work(branch.equations, told))
     p = plus(power_product(branch.inequations, powers), sum_of_products([(m, branch.equations[i]) for i, m in told]))
@@ -166,6 +194,7 @@ def place_nonzero(scope, branch, powers, rows):
 
 def place_divisor(scope, branch, powers, g, h):
     """The place in N of g, the product of powers being alike g h."""
+    powers = lighter(scope, branch, powers)
     scope.spend(power_work(branch.inequations, powers) + len(g) * len(h))
     return branch.joins_others(("divisor", powers, g, h), g)
 
@@ -222,12 +251,8 @@ def stripped(branch, p):
                 powers[place] = powers.get(place, 0) + 1
                 rest = q
                 q = quotient(rest, part)
-    row = tuple([(place, powers[place]) for place in sorted(powers)])
-    if row:
-        rest = primitive(rest)[1]
-        whole = times(power_product(branch.inequations, row), rest)
-        f = multiplied(p[0][1], inverted(whole[0][1]))
-    return (f, row, rest)
+    g, rest = primitive(rest)
+    return (multiplied(f, g), tuple([(place, powers[place]) for place in sorted(powers)]), rest)
 
 
 def within(part, letters):

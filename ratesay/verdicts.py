@@ -168,9 +168,9 @@ def unchained(scope, branch, row):
     return place_divisor(scope, branch, ((high, 1),), before, b)
 
 
-def placed_zero(scope, branch, chain):
-    """The place in E of what a chain brings down to 0."""
-    below = None
+def placed_zero(scope, branch, chain, last=None):
+    """The place in E of what a chain brings down to 0, or to what stands at the place last in E."""
+    below = last
     for _, before, a, refs, f, powers, _ in reversed(chain):
         rows = [(rate_place(scope, branch, place, j), m) for place, j, m in refs]
         if below is not None:
@@ -180,3 +180,15 @@ def placed_zero(scope, branch, chain):
             _, known, _ = stripped(branch, a)
             below = place_without(scope, branch, below, before, known)
     return below
+
+
+def placed_by(scope, branch, h, place):
+    """The place in E of a polynomial h that is 0 as E[place] is, if that is easily seen, otherwise None."""
+    chain, g = brought_down(scope, branch, h)
+    last = None
+    if g:
+        q = quotient(g, branch.equations[place])
+        if q is None:
+            return None
+        last = place_sum(scope, branch, [(place, q)])
+    return placed_zero(scope, branch, chain, last)
