@@ -10,6 +10,10 @@ from ratesay.ratios import inverted, multiplied
 from ratesay.treesteps import power_product, power_work, row_work
 
 MOST_TERMS = 6000
+# The bits of 4,000 digits.
+MOST_BITS = 13280
+# What finding may try: about as many products of pairs as take a minute.
+MOST_TOIL = 20000000
 # Products of known polynomials of more work than this are worked out one after the other.
 MOST_AT_ONCE = 400
 
@@ -22,6 +26,7 @@ class Scope:
         self.with_rates = with_rates
         self.most = most
         self.spent = 0
+        self.tried = 0
         self.members = {}
         self.factors = {}
         self.primes = {}
@@ -43,6 +48,7 @@ class Scope:
     def pieces(self, p):
         """The different factors of p that are easily found."""
         if p not in self.factors:
+            self.toil(len(p) * len(p))
             self.factors[p] = factors_of(p)
         return self.factors[p]
 
@@ -57,6 +63,21 @@ class Scope:
         self.spent += work
         if self.spent > self.most:
             raise TooMany()
+
+    def toil(self, amount):
+        """Gives up when what was tried on the way is too much, though it may not stand in the tree."""
+        self.tried += amount
+        if self.tried > MOST_TOIL:
+            raise TooMany()
+
+    def weigh(self, p):
+        """Gives up when p is beyond what may stand in a tree, or too much was tried."""
+        if not p:
+            return
+        bits = widest(p)
+        if len(p) > MOST_TERMS or bits > MOST_BITS:
+            raise TooMany()
+        self.toil(len(p) * (1 + bits // 50))
 
     def rank(self, p):
         """What a polynomial is chosen by: the lowest leader, then the least degree and size."""
@@ -110,6 +131,11 @@ class Branch:
         return {v[0]: v[1] for v in self.solved}
 
 
+def widest(p):
+    """The bits of the widest integer in p."""
+    return max([max(abs(f[0]), f[1]).bit_length() for _, f in p])
+
+
 def root_branch(system):
     """The branch with which a tree of the system begins."""
     first, second = system
@@ -146,8 +172,7 @@ def place_sum(scope, branch, rows):
     told = tuple([(i, m) for i, m in rows if m])
     scope.spend(row_work(branch.equations, told))
     p = sum_of_products([(m, branch.equations[i]) for i, m in told])
-    if len(p) > MOST_TERMS:
-        raise TooMany()
+    scope.weigh(p)
     return branch.joins(("sum", told), p)
 
 
@@ -175,8 +200,7 @@ def lighter(scope, branch, powers):
         pair = ((min(at, j), 1), (max(at, j), 1)) if at != j else ((j, 2),)
         scope.spend(power_work(branch.inequations, pair))
         p = times(branch.inequations[at], branch.inequations[j])
-        if len(p) > MOST_TERMS:
-            raise TooMany()
+        scope.weigh(p)
         at = branch.joins_others(("nonzero", pair, ()), p)
     return ((at, 1),)
 
@@ -187,8 +211,7 @@ def place_nonzero(scope, branch, powers, rows):
     told = tuple([(i, m) for i, m in rows if m])
     scope.spend(power_work(branch.inequations, powers) + row_work(branch.equations, told))
     p = plus(power_product(branch.inequations, powers), sum_of_products([(m, branch.equations[i]) for i, m in told]))
-    if len(p) > MOST_TERMS:
-        raise TooMany()
+    scope.weigh(p)
     return branch.joins_others(("nonzero", powers, told), p)
 
 

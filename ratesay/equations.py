@@ -134,7 +134,7 @@ def is_contradiction(scope, branch, place, w):
     """Whether the resultant with the solved member of the leader w is known not to be 0; then the branch ends."""
     p = branch.equations[place]
     other = branch.solved[w]
-    found = common(branch.equations[other], p, w)
+    found = common(scope, branch.equations[other], p, w)
     if found is None or not found[0]:
         return False
     r, a, b = found
@@ -147,20 +147,20 @@ def is_contradiction(scope, branch, place, w):
     return True
 
 
-def discriminant(p, w, separant):
+def discriminant(scope, p, w, separant):
     """The triple (r, a, b) with r = a p + b separant free of w, r () if p has multiple factors."""
     parts = coefficients(p, w)
     if len(parts) == 3:
         r = less(times(parts[1], parts[1]), scaled(times(parts[0], parts[2]), (4, 1)))
         return (r, scaled(parts[2], (-4, 1)), separant)
-    return common(p, separant, w)
+    return common(scope, p, separant, w)
 
 
 def separated(scope, branch, place, w):
     """("nonzero", ..) if the separant of an equation is placed as not 0; ("zero", ..) if the equation was replaced."""
     p = branch.equations[place]
     separant = partial(p, w)
-    found = discriminant(p, w, separant)
+    found = discriminant(scope, p, w, separant)
     if found is None:
         return asked_separant(scope, branch, place, separant)
     r, a, b = found

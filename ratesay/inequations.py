@@ -84,7 +84,7 @@ def against_member(scope, branch, place, w):
     q = branch.inequations[place]
     other = branch.solved[w]
     g = branch.equations[other]
-    found = common(g, q, w)
+    found = common(scope, g, q, w)
     word, chain = ("zero", None) if found is None or not found[0] else verdict(scope, branch, found[0])
     if word == "nonzero":
         return None

@@ -55,7 +55,7 @@ def settle(scope, branch, doubt, at):
     g = branch.equations[place]
     if other is None:
         separant = partial(g, w)
-        r, a, _ = discriminant(g, w, separant)
+        r, a, _ = discriminant(scope, g, w, separant)
         low = placed_by(scope, branch, r, at)
         if low is not None:
             square = place_sum(scope, branch, [(place, scaled(a, (-1, 1))), (low, UNIT)])

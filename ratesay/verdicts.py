@@ -17,6 +17,7 @@ from ratesay.branches import (
     rate_of,
     rate_place,
     stripped,
+    widest,
 )
 from ratesay.chains import resultant
 from ratesay.polynomials import UNIT, as_number, degree, less, letters_of, number, quotient, scaled, times
@@ -26,6 +27,7 @@ from ratesay.treesteps import power_product
 # Resultants are worked out of what has at most so many pairs and degrees, multiplied.
 MOST_CHAIN = 4000
 MOST_ALONE = 1600
+MOST_BITS = 12000
 
 
 def brought_down(scope, branch, h):
@@ -40,8 +42,9 @@ def brought_down(scope, branch, h):
             break
         a, (place, j, m) = step
         rate = rate_of(scope, branch, place, j)
-        scope.spend(len(a) * len(g) + len(m) * len(rate))
+        scope.toil(len(a) * len(g) + len(m) * len(rate) + len(g) * len(branch.parts))
         r = less(times(a, g), times(m, rate))
+        scope.weigh(r)
         f, powers, rest = stripped(branch, r) if r else ((1, 1), (), ())
         chain.append(("step", g, a, ((place, j, m),), f, powers, rest))
         g = rest
@@ -75,11 +78,10 @@ def part_verdict(scope, branch, part):
     if w not in branch.solved:
         return ("split", part)
     place = branch.solved[w]
-    found = common(branch.equations[place], part, w)
+    found = common(scope, branch.equations[place], part, w)
     if found is None or not found[0]:
         return ("split", part)
     r, a, b = found
-    scope.spend(len(a) * len(branch.equations[place]) + len(b) * len(part))
     word, rest = verdict(scope, branch, r)
     if word == "zero":
         return ("split", part)
@@ -88,7 +90,7 @@ def part_verdict(scope, branch, part):
     return ("nonzero", [("chain", part, place, a, b, r, rest)])
 
 
-def common(g, p, w):
+def common(scope, g, p, w):
     """The resultant of g and p with its multipliers, or None if it may be too great."""
     m, n = degree(g, w), degree(p, w)
     if n < 1 or n > m:
@@ -96,6 +98,10 @@ def common(g, p, w):
     alone = letters_of(g) == (w,) and letters_of(p) == (w,)
     if m * n > MOST_ALONE if alone else len(g) * len(p) * m * n > MOST_CHAIN:
         return None
+    bits = m * widest(p) + n * widest(g)
+    if bits > MOST_BITS:
+        return None
+    scope.toil(len(g) * len(p) * m * n * (1 + bits // 500))
     return resultant(g, p, w)
 
 
