@@ -137,9 +137,10 @@ def refutation(scope, system, solved):
 
 def backing_of(case, ranking):
     """A backing of a case, or None if the case is not simple."""
+    asked = obligations(case, ranking)
     places = places_of(ranking)
     found = []
-    for word, at, system in obligations(case, ranking):
+    for _, _, system in asked:
         scope = Scope(places, False, MOST_SPENT)
         count = len(system[0]) - 1
         solved = {scope.highest(p): k for k, p in enumerate(system[0][:count])}
