@@ -23,10 +23,15 @@ def resultant(g, f, v):
     if degree(f, v) == 1:
         k, q, r = pseudo(g, f, v)
         return (r, raised(coefficients(f, v)[-1], k), scaled(q, (-1, 1)))
-    r, b = last_of_chain(g, f, v)
+    r, b = chain_of(g, f, v)[-1]
     if not r:
         return ((), (), ())
-    return (r, quotient(less(r, times(b, f)), g), b)
+    return (r, other_multiple(g, f, r, b), b)
+
+
+def other_multiple(g, f, r, b):
+    """The polynomial a with r = a g + b f."""
+    return quotient(less(r, times(b, f)), g)
 
 
 def divided(g, p, v, k):
@@ -45,20 +50,22 @@ def divided(g, p, v, k):
     return (times(spare, q), times(spare, r))
 
 
-def last_of_chain(g, f, v):
-    """The pair (r, b): the last member of the chain of subresultants of g and f, and its multiple of f."""
+def chain_of(g, f, v):
+    """The list of (r, b): the subresultants of g and f below f, down to one free of v, and their multiples of f."""
     r0, r1, b0, b1 = g, f, (), UNIT
     step = degree(g, v) - degree(f, v)
     turn = scaled(UNIT, (1 if step & 1 else -1, 1))
     worth = scaled(UNIT, (-1, 1))
+    found = []
     while degree(r1, v) > 0:
         lead = coefficients(r1, v)[-1]
         q, r = divided(r0, r1, v, step + 1)
         b = less(times(raised(lead, step + 1), b0), times(q, b1))
         r0, b0 = r1, b1
         r1, b1 = quotient(r, turn), quotient(b, turn)
+        found.append((r1, b1))
         if not r1:
-            return ((), ())
+            return found
         against = scaled(lead, (-1, 1))
         if step > 1:
             worth = quotient(raised(against, step), raised(worth, step - 1))
@@ -66,4 +73,4 @@ def last_of_chain(g, f, v):
             worth = against
         step = degree(r0, v) - degree(r1, v)
         turn = times(against, raised(worth, step))
-    return (r1, b1)
+    return found

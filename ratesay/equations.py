@@ -22,7 +22,7 @@ from ratesay.polynomials import (
     times,
 )
 from ratesay.ratios import inverted
-from ratesay.verdicts import common, part_verdict, placed_nonzero, placed_zero, verdict
+from ratesay.verdicts import common, common_part, part_verdict, placed_nonzero, placed_zero, verdict
 
 
 def lowest_place(scope, row, places):
@@ -113,8 +113,10 @@ def plain_equation(scope, branch, place):
     """Treats an equation without known factors: it is solved for its leader, if all is known of it that must be."""
     p = branch.equations[place]
     w = scope.highest(p)
-    if w in branch.solved and is_contradiction(scope, branch, place, w):
-        return None
+    if w in branch.solved:
+        word, found = compared(scope, branch, place, w)
+        if word != "none":
+            return found
     member = scope.member(p)
     word, found = verdict(scope, branch, member.initial)
     if word == "nonzero":
@@ -130,21 +132,39 @@ def plain_equation(scope, branch, place):
     return found
 
 
-def is_contradiction(scope, branch, place, w):
-    """Whether the resultant with the solved member of the leader w is known not to be 0; then the branch ends."""
+def compared(scope, branch, place, w):
+    """Treats an equation beside the solved member of its leader: ("none", None) if it shall take its place.
+
+    Otherwise the branch was ended, an equation joined, or there is a polynomial to split by.
+    """
     p = branch.equations[place]
     other = branch.solved[w]
-    found = common(scope, branch.equations[other], p, w)
+    g = branch.equations[other]
+    found = common(scope, g, p, w)
     if found is None or not found[0]:
-        return False
+        return ("none", None)
     r, a, b = found
     word, chain = verdict(scope, branch, r)
-    if word != "nonzero":
-        return False
-    low = placed_nonzero(scope, branch, r, chain)
-    high = place_sum(scope, branch, [(other, a), (place, b)])
-    branch.end = ("contradiction", high, ((low, 1),))
-    return True
+    if word == "nonzero":
+        low = placed_nonzero(scope, branch, r, chain)
+        high = place_sum(scope, branch, [(other, a), (place, b)])
+        branch.end = ("contradiction", high, ((low, 1),))
+        return ("ended", None)
+    if scope.member(p).degree < 2:
+        return ("none", None)
+    if word == "split":
+        branch.open_equations.append(place_sum(scope, branch, [(other, a), (place, b)]))
+        branch.open_equations.append(place)
+        return ("joined", None)
+    word, found = common_part(scope, branch, g, p, w)
+    if word == "none":
+        return (word, None)
+    branch.open_equations.append(place)
+    if word == "split":
+        return (word, found)
+    r, a, b = found
+    branch.open_equations.append(place_sum(scope, branch, [(other, a), (place, b)]))
+    return ("joined", None)
 
 
 def discriminant(scope, p, w, separant):
@@ -190,12 +210,29 @@ def multiple_roots(scope, branch, place, w, chain):
     p = branch.equations[place]
     separant = partial(p, w)
     if len(coefficients(p, w)) > 3:
-        word, found = asked_separant(scope, branch, place, separant)
-        return (word, found)
+        return by_common_part(scope, branch, place, w)
     low = placed_zero(scope, branch, chain)
     square = place_sum(scope, branch, [(place, scaled(coefficients(p, w)[2], (4, 1))), (low, UNIT)])
     branch.open_equations.append(branch.joins(("root", square, separant, 2), separant))
     return ("zero", chain)
+
+
+def by_common_part(scope, branch, place, w):
+    """What is known of the separant of an equation of a degree above 2 whose discriminant is 0."""
+    p = branch.equations[place]
+    separant = partial(p, w)
+    word, found = common_part(scope, branch, p, separant, w)
+    if word == "none":
+        return asked_separant(scope, branch, place, separant)
+    if word == "split":
+        return (word, found)
+    h, a, b = found
+    word, chain = verdict(scope, branch, h)
+    if word == "nonzero":
+        low = placed_nonzero(scope, branch, h, chain)
+        high = place_nonzero(scope, branch, ((low, 1),), [(place, scaled(a, (-1, 1)))])
+        note(scope, branch, place_divisor(scope, branch, ((high, 1),), separant, b))
+    return (word, chain)
 
 
 def insert(scope, branch, place, w):

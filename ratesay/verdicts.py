@@ -19,8 +19,8 @@ from ratesay.branches import (
     stripped,
     widest,
 )
-from ratesay.chains import resultant
-from ratesay.polynomials import UNIT, as_number, degree, less, letters_of, number, quotient, scaled, times
+from ratesay.chains import chain_of, other_multiple, resultant
+from ratesay.polynomials import UNIT, as_number, coefficients, degree, less, letters_of, number, quotient, scaled, times
 from ratesay.ratios import inverted
 from ratesay.treesteps import power_product
 
@@ -92,17 +92,43 @@ def part_verdict(scope, branch, part):
 
 def common(scope, g, p, w):
     """The resultant of g and p with its multipliers, or None if it may be too great."""
+    return resultant(g, p, w) if may_be_chained(scope, g, p, w) else None
+
+
+def may_be_chained(scope, g, p, w):
+    """Whether the subresultants of g and p may be worked out; then they count as tried."""
     m, n = degree(g, w), degree(p, w)
     if n < 1 or n > m:
-        return None
+        return False
     alone = letters_of(g) == (w,) and letters_of(p) == (w,)
     if m * n > MOST_ALONE if alone else len(g) * len(p) * m * n > MOST_CHAIN:
-        return None
+        return False
     bits = m * widest(p) + n * widest(g)
     if bits > MOST_BITS:
-        return None
+        return False
     scope.toil(len(g) * len(p) * m * n * (1 + bits // 500))
-    return resultant(g, p, w)
+    return True
+
+
+def common_part(scope, branch, g, p, w):
+    """What g and p have in common where their resultant is 0: ("found", (r, a, b)), ("split", h) or ("none", None).
+
+    r = a g + b p has the leader w and a highest coefficient that is placed as not 0; all subresultants below it
+    are 0. There is none if that may be too great, or if it is p.
+    """
+    if not may_be_chained(scope, g, p, w):
+        return ("none", None)
+    for r, b in reversed(chain_of(g, p, w)):
+        if degree(r, w) < 1:
+            continue
+        lead = coefficients(r, w)[-1]
+        word, found = verdict(scope, branch, lead)
+        if word == "split":
+            return (word, found)
+        if word == "nonzero":
+            placed_nonzero(scope, branch, lead, found)
+            return ("found", (r, other_multiple(g, p, r, b), b))
+    return ("none", None)
 
 
 def placed_nonzero(scope, branch, h, chain):
