@@ -106,7 +106,7 @@ class Branch:
     def child(self, number):
         """A branch that goes on from here."""
         found = Branch(list(self.equations), list(self.inequations), self.givens, number)
-        found.solved = dict(self.solved)
+        found.solved = {v: place for v, place in self.solved.items()}
         found.kept = list(self.kept)
         found.open_equations = list(self.open_equations)
         found.open_inequations = list(self.open_inequations)

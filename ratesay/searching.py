@@ -116,7 +116,7 @@ def refutation(scope, system, solved):
     """
     first, second = system
     branch = Branch(list(first), list(second), system, 0)
-    branch.solved = dict(solved)
+    branch.solved = {v: place for v, place in solved.items()}
     for k in range(len(second)):
         note(scope, branch, k)
     h = first[-1]

@@ -2,11 +2,11 @@
 
 from math import factorial
 
-from ratesay.courses import Course, extend, highest_orders, parts_along, raise_lengths
+from ratesay.courses import extend, highest_orders, parts_along, raise_lengths
 from ratesay.errors import BadNumber, BadPolynomial, BadRates, BadStart, BadTower, TooGreat
 from ratesay.forms import is_count, is_name, is_pair
 from ratesay.members import orders_of
-from ratesay.points import start_table
+from ratesay.points import is_course_zero, start_table
 from ratesay.polynomials import is_polynomial, scaled
 from ratesay.simple import looked_at_case
 from ratesay.tower_numbers import is_number_in, is_tower_value
@@ -119,23 +119,8 @@ def are_rates(case, ranking, start, free, rows):
             return False
     values = {name: list(numbers) for name, numbers in rows}
     for member in members:
-        if not is_solved(member, start[0], values):
+        if not is_course_zero(member, start[0], values):
             return False
-    return True
-
-
-def is_solved(member, tower, values):
-    """Whether rows tell all that the rates of a member ask, and it is 0 along them."""
-    name, order = member.leader
-    spare = len(values[name]) - 1 - order
-    for other, e in highest_orders(member.p).items():
-        if e + spare >= len(values[other]):
-            return False
-    course = Course(member.p, tower, values)
-    for j in range(spare + 1):
-        if course.part(j):
-            return False
-        course.keep(j)
     return True
 
 

@@ -12,6 +12,7 @@ from ratesay.polynomials import degree, less, letter
 from ratesay.rankings import highest, is_ranking, places_of
 from ratesay.refusals import is_refusal
 from ratesay.remains import lower_part, told_cases, two_blocks
+from ratesay.renaming import renamed
 from ratesay.sets import check_set, excluding
 from ratesay.simple import case_names, looked_at_case
 from ratesay.trees import is_shown
@@ -69,15 +70,6 @@ def copies_of(system, x, ys):
             k += 1
         found.append((name, f"c{k}"))
     return tuple(found)
-
-
-def renamed(p, table):
-    """The polynomial with other names for some of its names."""
-    found = []
-    for monomial, f in p:
-        row = [((table.get(v[0], v[0]), v[1]), e) for v, e in monomial]
-        found.append((tuple(sorted(row)), f))
-    return tuple(sorted(found))
 
 
 def twice(polynomials, table):
