@@ -97,30 +97,33 @@ def letters_asked(case, r, places, names):
     return [v for _, v in sorted([(key_of(places, v), v) for v in seen])]
 
 
-def found_point(case, members, places, r):
-    """A point of a simple case at which r, reduced by it, is not 0."""
+def found_point(case, members, places, r, spread):
+    """A point of a simple case at which r, reduced by it, is not 0.
+
+    Without spread, 0 or 1, the numbers that can be chosen are about 0, with it they are unlike.
+    """
     heads = {member.leader: member for member in members}
     highs = high_parts(r, places)
     kept = {}
     for m in case[1]:
         kept.setdefault(highest(m, places), []).append(m)
     point = Point()
-    for v in letters_asked(case, r, places, sorted(places)):
+    for k, v in enumerate(letters_asked(case, r, places, sorted(places))):
         if v in heads:
             choose_root(point, heads[v], highs.get(v))
         else:
             rows = list(kept.get(v, []))
             if v in highs:
                 rows.append(highs[v])
-            choose_number(point, v, rows)
+            choose_number(point, v, rows, spread * (k + 2))
     return point
 
 
-def choose_number(point, v, rows):
-    """Gives a letter that leads no equation a number at which some polynomials are not 0."""
+def choose_number(point, v, rows, base):
+    """Gives a letter that leads no equation a number, about base, at which some polynomials are not 0."""
     t = 0
     while True:
-        point.numbers[v] = number((t, 1))
+        point.numbers[v] = number((base + t, 1))
         worth = UNIT
         for p in rows:
             worth = product(point.tower, worth, point.value(p))

@@ -40,32 +40,33 @@ def paper_at(scope, branch, system, f):
 
     If it is 0 at all, the leaf ends with the goal.
     """
-    # At most places a polynomial is not 0, so one is tried before f is reduced.
+    # At most places a polynomial is not 0, so two are tried before f is reduced.
     case = case_of(branch)
-    found = tried_paper(case, scope.places, system, f, UNIT)
-    if found is not None:
-        return found
+    for spread in (0, 1):
+        found = tried_paper(case, scope.places, system, f, UNIT, spread)
+        if found is not None:
+            return found
     chain, r = brought_down(scope, branch, f)
     if not r:
         place = placed_zero(scope, branch, chain)
         branch.end = ("goal", place, 1, ())
         return None
-    return tried_paper(case, scope.places, system, f, r)
+    return tried_paper(case, scope.places, system, f, r, 0)
 
 
-def tried_paper(case, places, system, f, r):
+def tried_paper(case, places, system, f, r, spread):
     """The paper that f is not 0 at some solution of a simple case at which r is not; None if none is found."""
     try:
-        return paper_of(case, places, system, f, r)
+        return paper_of(case, places, system, f, r, spread)
     except TooMany:
         return None
 
 
-def paper_of(case, places, system, f, r):
+def paper_of(case, places, system, f, r, spread):
     """The paper that f is not 0 at some solution of a simple case of the system, at which r is not 0."""
     members = members_of(case[0], places)
     check_sizes(case)
-    point = found_point(case, members, places, r)
+    point = found_point(case, members, places, r, spread)
     start, turns = start_at(case, members, places, point, [*system[1], f])
     homes = []
     for p in system[0]:

@@ -3,11 +3,11 @@
 from ratesay.beginning import found_point, rest_in_case, start_at
 from ratesay.checks import check_polynomial, check_ranked, check_system
 from ratesay.courses import value_of
-from ratesay.errors import BadPolynomial, BadStart
+from ratesay.errors import BadPolynomial, BadStart, TooMany
 from ratesay.following import answer_about
 from ratesay.forms import is_pair
 from ratesay.points import extended_table, start_table
-from ratesay.polynomials import names_of
+from ratesay.polynomials import UNIT, names_of
 from ratesay.rankings import check_names
 from ratesay.refusals import is_refusal
 from ratesay.simple import case_names, looked_at_case
@@ -39,11 +39,25 @@ def start_of(case, ranking, f):
     members, places = looked_at_case(case, ranking)
     check_polynomial(f)
     check_ranked(f, places)
+    # At most places f is not 0 unless it is 0 at all, so two are tried before it is reduced.
+    for spread in (0, 1):
+        found = tried_start(case, members, places, f, spread)
+        if found is not None:
+            return found
     r = rest_in_case(case, places, f)
     if not r:
         return None
-    point = found_point(case, members, places, r)
-    start, turns = start_at(case, members, places, point, [f])
+    start, turns = start_at(case, members, places, found_point(case, members, places, r, 0), [f])
+    return (start, turns[0])
+
+
+def tried_start(case, members, places, f, spread):
+    """The pair (start, inverse) of f at some point of a simple case, None if f is 0 there."""
+    try:
+        point = found_point(case, members, places, UNIT, spread)
+        start, turns = start_at(case, members, places, point, [f])
+    except TooMany:
+        return None
     return (start, turns[0])
 
 
