@@ -4,10 +4,21 @@ from ratesay.errors import TooMany
 from ratesay.factors import factors_of, is_surely_prime
 from ratesay.members import Member
 from ratesay.packing import sum_of_products
-from ratesay.polynomials import UNIT, as_number, common_divisor, letters_of, plus, primitive, quotient, scaled, times
+from ratesay.polynomials import (
+    UNIT,
+    as_number,
+    common_divisor,
+    letters_of,
+    plus,
+    primitive,
+    quotient,
+    raised,
+    scaled,
+    times,
+)
 from ratesay.rankings import highest, key_of
 from ratesay.ratios import inverted, multiplied
-from ratesay.treesteps import power_product, power_work, row_work
+from ratesay.treesteps import MOST_EXPONENT, power_product, power_work, row_work
 
 MOST_TERMS = 6000
 # The bits of 4,000 digits.
@@ -179,20 +190,28 @@ def place_sum(scope, branch, rows):
 def place_without(scope, branch, place, g, powers):
     """The place in E of g, E[place] being alike g times the product of powers."""
     work = power_work(branch.inequations, powers) * len(g)
-    if work > MOST_AT_ONCE and sum([e for _, e in powers]) > 1:
+    if powers and not is_light(powers, work):
         # One factor after the other makes less work than all at once.
         j, e = powers[-1]
-        left = (*powers[:-1], (j, e - 1)) if e > 1 else powers[:-1]
-        low = quotient(branch.equations[place], branch.inequations[j])
-        at = place_without(scope, branch, place, primitive(low)[1], ((j, 1),))
-        return place_without(scope, branch, at, g, left)
+        many = 1 if work > MOST_AT_ONCE else min(e, MOST_EXPONENT)
+        left = (*powers[:-1], (j, e - many)) if e > many else powers[:-1]
+        low = quotient(branch.equations[place], raised(branch.inequations[j], many))
+        at = place_without(scope, branch, place, primitive(low)[1], ((j, many),))
+        return place_without(scope, branch, at, g, left) if left else at
     scope.spend(work)
     return branch.joins(("cancel", place, g, powers), g)
 
 
+def is_light(powers, work):
+    """Whether a power row may stand as it is in a step of some work."""
+    if max([e for _, e in powers], default=0) > MOST_EXPONENT:
+        return False
+    return work <= MOST_AT_ONCE or sum([e for _, e in powers]) < 2
+
+
 def lighter(scope, branch, powers):
-    """A power row for the same product, of which the work is not too great."""
-    if power_work(branch.inequations, powers) <= MOST_AT_ONCE or sum([e for _, e in powers]) < 2:
+    """A power row for the same product, of which the work and the exponents are not too great."""
+    if is_light(powers, power_work(branch.inequations, powers)):
         return powers
     flat = sorted([(len(branch.inequations[j]), j) for j, e in powers for _ in range(e)])
     at = flat[0][1]

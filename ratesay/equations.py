@@ -10,6 +10,7 @@ from ratesay.branches import (
     rate_place,
     stripped,
 )
+from ratesay.errors import TooMany
 from ratesay.polynomials import (
     UNIT,
     as_number,
@@ -22,6 +23,7 @@ from ratesay.polynomials import (
     times,
 )
 from ratesay.ratios import inverted
+from ratesay.treesteps import MOST_EXPONENT
 from ratesay.verdicts import common, common_part, part_verdict, placed_nonzero, placed_zero, verdict
 
 
@@ -94,6 +96,8 @@ def root_place(scope, branch, place, part):
         k += 1
     if k == 1:
         return place
+    if k > MOST_EXPONENT:
+        raise TooMany()
     return branch.joins(("root", place, part, k), part)
 
 
