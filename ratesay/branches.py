@@ -18,7 +18,7 @@ from ratesay.polynomials import (
 )
 from ratesay.rankings import highest, key_of
 from ratesay.ratios import inverted, multiplied
-from ratesay.treesteps import MOST_EXPONENT, power_product, power_work, row_work
+from ratesay.treesteps import MOST_EXPONENT, power_product, power_work, rate_work, row_work
 
 MOST_TERMS = 6000
 # The bits of 4,000 digits.
@@ -163,7 +163,7 @@ def rate_place(scope, branch, place, j):
     if (place, j) not in branch.rate_places:
         low = rate_place(scope, branch, place, j - 1)
         p = rate_of(scope, branch, place, j)
-        scope.spend(len(p))
+        scope.spend(rate_work(branch.equations[low]))
         branch.rate_places[(place, j)] = branch.joins(("rate", low), p)
     return branch.rate_places[(place, j)]
 

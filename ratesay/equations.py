@@ -22,7 +22,7 @@ from ratesay.polynomials import (
     scaled,
     times,
 )
-from ratesay.ratios import inverted
+from ratesay.ratios import capped_power, inverted
 from ratesay.treesteps import MOST_EXPONENT
 from ratesay.verdicts import common, common_part, part_verdict, placed_nonzero, placed_zero, verdict
 
@@ -98,6 +98,7 @@ def root_place(scope, branch, place, part):
         return place
     if k > MOST_EXPONENT:
         raise TooMany()
+    scope.spend(capped_power(len(part), k, scope.most))
     return branch.joins(("root", place, part, k), part)
 
 

@@ -2,6 +2,7 @@
 
 from ratesay.branches import Branch, Scope, note, root_branch
 from ratesay.errors import TooMany
+from ratesay.homes import are_led_to_zero
 from ratesay.members import members_of
 from ratesay.parting import advance, split
 from ratesay.polynomials import as_number
@@ -162,6 +163,9 @@ def home_of(case, ranking, givens):
         if rest:
             raise TooMany()
         rows.append(tuple(steps))
+    if not are_led_to_zero(givens[0], members_of(equations, places), rows):
+        # The steps are right, so they are beyond the bounds of homes.
+        raise TooMany()
     trees = []
     for q in givens[1]:
         scope = Scope(places, True, MOST_SPENT)
