@@ -59,7 +59,8 @@ class Scope:
     def pieces(self, p):
         """The different factors of p that are easily found."""
         if p not in self.factors:
-            self.toil(len(p) * len(p))
+            # Common divisors of many pairs, letters and digits take the longest of all.
+            self.toil(len(p) * len(p) * len(letters_of(p)) * (1 + widest(p) // 30))
             self.factors[p] = factors_of(p)
         return self.factors[p]
 
