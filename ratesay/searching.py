@@ -129,11 +129,14 @@ def refutation(scope, system, solved):
             place = placed_nonzero(scope, branch, h, found)
             branch.end = ("contradiction", len(first) - 1, ((place, 1),))
             return tree_of([branch])
-    branches = grown(scope, system)
-    for node in branches:
-        if node.end[0] == "case":
+    growth = Growth(scope, system)
+    while growth.waiting:
+        node = growth.step()
+        if node is not None and node.end[0] == "case":
             return None
-    return tree_of(branches)
+        if growth.count > MOST_NODES:
+            raise TooMany()
+    return growth.tree()
 
 
 def backing_of(case, ranking):
