@@ -1,6 +1,6 @@
 """What remains of a system for some of its functions."""
 
-from ratesay.checks import check_system
+from ratesay.checks import check_system, is_system
 from ratesay.errors import BadRanking
 from ratesay.finding import cases_of
 from ratesay.forms import is_pair
@@ -54,6 +54,16 @@ def told_cases(system, ranking, paper):
     return cases
 
 
+def are_systems(value):
+    """Whether any value is a tuple of systems."""
+    if type(value) is not tuple:
+        return False
+    for part in value:
+        if not is_system(part):
+            return False
+    return True
+
+
 def remain(system, upper):
     """The pair (parts, paper): the lower parts of cases of the system, and a paper of these cases."""
     ranking = checked_blocks(system, upper)
@@ -64,7 +74,7 @@ def remain(system, upper):
 def is_remain(system, upper, value):
     """Whether any value is a pair of the lower parts of cases of the system, and a paper of these cases."""
     ranking = checked_blocks(system, upper)
-    if not is_pair(value):
+    if not is_pair(value) or not are_systems(value[0]):
         return False
     cases = told_cases(system, ranking, value[1])
     if cases is None:

@@ -251,4 +251,11 @@ def is_freedom(system, names, value):
     if not is_pair(value):
         return False
     cases = told_cases(system, ranking, value[1])
-    return cases is not None and value[0] == freedom_in(cases, ranking)
+    return cases is not None and is_freedom_value(value[0], freedom_in(cases, ranking))
+
+
+def is_freedom_value(value, found):
+    """Whether any value is a freedom; True and False are no integers."""
+    if found is None:
+        return value is None
+    return is_pair(value) and is_count(value[0], 0) and is_count(value[1], 0) and value == found

@@ -109,6 +109,14 @@ class RemainTest(unittest.TestCase):
         self.assertIs(is_remain(pair, ("c",), value), False)
         self.assertIs(is_remain(system(["a*x - b", "x' - 2*c"]), ("x",), value), False)
 
+    def test_true_is_no_integer(self):
+        pair = system(["x*y - 1"])
+        parts, paper = remain(pair, ("x",))
+        self.assertEqual(parts, (((), polys("y")),))
+        other = ((), ((((((("y", 0), True),), (1, 1)),)),))
+        self.assertEqual((other,), parts)
+        self.assertIs(is_remain(pair, ("x",), ((other,), paper)), False)
+
     def test_mutated(self):
         rng = rng_of(50)
         pair = system(["a*x - b"])

@@ -309,6 +309,9 @@ class FreedomTest(unittest.TestCase):
                     (answer, (paper[0], ())), (answer, ((), ())), *ANYTHING]:
             self.assertIs(is_freedom(pair, ("x", "y"), bad), False)
         self.assertIs(is_freedom(system(["x*y - 1", "x' - 1"]), ("x", "y"), value), False)
+        self.assertEqual(answer, (0, 1))
+        for same in ((False, 1), (0, True), [0, 1], (0, 1.0)):
+            self.assertIs(is_freedom(pair, ("x", "y"), (same, paper)), False)
         self.assertIs(is_freedom(pair, ("x", "y", "z"), value), False)
         more = freedom(pair, ("x", "y", "z"))
         self.assertEqual(more[0], (1, 1))
