@@ -5,7 +5,7 @@ from math import lcm
 from ratesay.errors import BadPlanted
 from ratesay.forms import is_fraction, is_name, is_pair
 from ratesay.polynomials import names_of
-from ratesay.ratios import ZERO
+from ratesay.ratios import ZERO, integer_power
 
 
 def is_function(value):
@@ -63,37 +63,44 @@ def rated(row, k):
     return found
 
 
-def product_of_rows(row, other):
-    """The integers of a product."""
-    if not row or not other:
-        return []
-    found = [0 for _ in range(len(row) + len(other) - 1)]
-    for i, n in enumerate(row):
-        if n:
-            for j, m in enumerate(other):
-                found[i + j] += n * m
+def worth_of(row, shift):
+    """The integer that a function with integers as coefficients comes to at the time 2 to the power shift."""
+    found = 0
+    for n in reversed(row):
+        found = (found << shift) + n
     return found
+
+
+def terms_of(p, table):
+    """The list of (integer, rows) of p times some integer: the functions of a term with their exponents."""
+    terms = []
+    scale = 1
+    for monomial, f in p:
+        below = f[1]
+        rows = []
+        for (name, k), e in monomial:
+            integers, part = table[name]
+            rows.append((rated(integers, k), e))
+            below *= integer_power(part, e)
+        terms.append((f[0], below, rows))
+        scale = lcm(scale, below)
+    return [(n * (scale // below), rows) for n, below, rows in terms]
 
 
 def is_zero_at(p, table):
     """Whether a polynomial is 0 at functions."""
-    terms = []
-    scale = 1
-    for monomial, f in p:
-        row, below = [f[0]], f[1]
-        for (name, k), e in monomial:
-            integers, part = table[name]
-            high = rated(integers, k)
-            for _ in range(e):
-                row = product_of_rows(row, high)
-                below *= part
-        terms.append((row, below))
-        scale = lcm(scale, below)
-    total = {}
-    for row, below in terms:
-        for at, n in enumerate(row):
-            total[at] = total.get(at, 0) + n * (scale // below)
-    for n in total.values():
-        if n:
-            return False
-    return True
+    terms = terms_of(p, table)
+    bound = 0
+    for n, rows in terms:
+        most = abs(n)
+        for row, e in rows:
+            most *= integer_power(sum([abs(c) for c in row]), e)
+        bound += most
+    # At a time above twice all coefficients of what p comes to, that is 0 only if it is 0 at all times.
+    shift = bound.bit_length() + 1
+    total = 0
+    for n, rows in terms:
+        for row, e in rows:
+            n *= integer_power(worth_of(row, shift), e)
+        total += n
+    return total == 0
