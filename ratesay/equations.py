@@ -128,10 +128,11 @@ def plain_equation(scope, branch, place):
         placed_nonzero(scope, branch, member.initial, found)
         if member.degree > 1:
             word, found = separated(scope, branch, place, w)
-        if word == "nonzero":
-            insert(scope, branch, place, w)
-            return None
+    if word == "nonzero":
+        insert(scope, branch, place, w)
+        return None
     if word == "zero":
+        # The equation is reduced, so only its discriminant can be 0: another one has joined in its stead.
         return None
     branch.open_equations.append(place)
     return found
