@@ -5,7 +5,7 @@ from ratesay.forms import is_count, is_integer, is_name, is_pair
 from ratesay.generalruns import Run, rate_letter, value_with
 from ratesay.polynomials import as_number, is_letter, is_polynomial, less, letters_of, names_of, times
 from ratesay.ratios import capped_power
-from ratesay.renaming import renamed
+from ratesay.renaming import with_names
 
 MOST_NAMES = 12
 MOST_RUNS = 4
@@ -194,7 +194,7 @@ def with_digit(rows, table):
     """Rows (name, (n, d)) with other names for some names."""
     found = []
     for name, pair in rows:
-        found.append((table.get(name, name), tuple([renamed(p, table) for p in pair])))
+        found.append((table.get(name, name), tuple([with_names(p, table) for p in pair])))
     return found
 
 

@@ -1,7 +1,7 @@
 """Polynomials with other names for some of their names."""
 
 
-def renamed(p, table):
+def with_names(p, table):
     """The polynomial with the names of a dict replaced by what the dict tells."""
     found = []
     for monomial, f in p:

@@ -12,7 +12,7 @@ from ratesay.polynomials import degree, less, letter
 from ratesay.rankings import highest, is_ranking, places_of
 from ratesay.refusals import is_refusal
 from ratesay.remains import lower_part, told_cases, two_blocks
-from ratesay.renaming import renamed
+from ratesay.renaming import with_names
 from ratesay.sets import check_set, excluding
 from ratesay.simple import case_names, looked_at_case
 from ratesay.trees import is_shown
@@ -76,7 +76,7 @@ def twice(polynomials, table):
     """Polynomials, and behind them those with other names that do not stand there yet."""
     found = list(polynomials)
     for p in polynomials:
-        q = renamed(p, table)
+        q = with_names(p, table)
         if q not in found:
             found.append(q)
     return tuple(found)

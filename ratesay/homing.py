@@ -1,0 +1,96 @@
+"""Finding homes: steps that lead the equations of a system to 0 by those of a case, within the bounds of homes."""
+
+from ratesay.errors import TooMany
+from ratesay.members import MOST_STEP, step_work, stepped
+from ratesay.polynomials import coefficients, degree, letters_of, quotient, times
+from ratesay.rankings import key_of
+from ratesay.remainders import letter_power
+from ratesay.treesteps import MOST_WORK, Budget, rate_work
+
+
+class Homing:
+    """Steps with the equations of a case; the work of all of them is counted."""
+
+    def __init__(self, members, places):
+        self.members = members
+        self.places = places
+        self.numbers = {member.leader[0]: i for i, member in enumerate(members)}
+        self.budget = Budget()
+        self.steps = []
+
+    def spend(self, work):
+        """Gives up when the work is beyond the bounds."""
+        if not self.budget.spend(work):
+            raise TooMany()
+
+    def rate(self, i, j):
+        """The j-th rate of a member."""
+        member = self.members[i]
+        if j > MOST_STEP:
+            raise TooMany()
+        while len(member.rates) <= j:
+            self.spend(rate_work(member.rates[-1]))
+            member.grow()
+        return member.rates[j]
+
+    def reducible(self, g):
+        """The list of (key, letter, i, j), from the highest letter down: the j-th rate of member i lowers g there."""
+        found = []
+        for v in letters_of(g):
+            if v[0] in self.numbers:
+                i = self.numbers[v[0]]
+                member = self.members[i]
+                j = v[1] - member.leader[1]
+                if j > 0 or j == 0 and degree(g, v) >= member.degree:
+                    found.append((key_of(self.places, v), v, i, j))
+        return sorted(found, reverse=True)
+
+    def lowered(self, g, row, e, factor):
+        """What a step makes of g that multiplies by e heads, factor being that of the highest power of a letter."""
+        _, v, i, j = row
+        top = degree(g, v) - (1 if j else self.members[i].degree)
+        m = times(factor, letter_power(v, top))
+        head, rate = self.members[i].head(j), self.rate(i, j)
+        self.spend(step_work(g, head, e, m, rate, MOST_WORK))
+        self.steps.append((i, j, e, m))
+        return stepped(g, head, e, m, rate)
+
+    def free_step(self, g, rows):
+        """What a step without a factor makes of g, None if there is none."""
+        for row in rows:
+            _, v, i, j = row
+            q = quotient(coefficients(g, v)[-1], self.members[i].head(j))
+            if q is not None:
+                return self.lowered(g, row, 0, q)
+        return None
+
+    def lightest(self, g, rows):
+        """The row by which g is lowered with the least factors."""
+        found = []
+        for k, (_, v, i, j) in enumerate(rows):
+            found.append((degree(g, v) * len(self.members[i].head(j)), k))
+        return rows[min(found)[1]]
+
+    def steps_of(self, p):
+        """The tuple of the steps that lead p to 0."""
+        self.steps = []
+        g = p
+        while g:
+            rows = self.reducible(g)
+            if not rows:
+                raise TooMany()
+            low = self.free_step(g, rows)
+            if low is None:
+                row = self.lightest(g, rows)
+                low = self.lowered(g, row, 1, coefficients(g, row[1])[-1])
+            g = low
+        return tuple(self.steps)
+
+
+def home_steps(members, places, equations):
+    """The tuple of the steps that lead each equation to 0; None if that is beyond the bounds."""
+    homing = Homing(members, places)
+    try:
+        return tuple([homing.steps_of(p) for p in equations])
+    except TooMany:
+        return None

@@ -1,0 +1,190 @@
+"""The equations of a general case: for each leader a least relation with lower letters."""
+
+from ratesay.descents import descended
+from ratesay.gradings import Grading
+from ratesay.leaders import leaders_of
+from ratesay.models import system_of
+from ratesay.polynomials import degree
+from ratesay.rankings import highest, places_of
+from ratesay.relations import Points, Search, written
+from ratesay.samples import EXPONENT
+from ratesay.weights import Line, divided, trimmed
+
+# Relations with more monomials than these are not looked for.
+FEW = 120
+SOME = 240
+MANY = 420
+# So many further relations tell whether the first one is of the least degree.
+FURTHER = 3
+# What elimination may try at first, and where no relation is found.
+QUICK = 1500000
+SLOW = 30000000
+# Equations of at most so many pairs need not be made less.
+SHORT = 6
+
+
+class Finder:
+    """Finds the relations of one model."""
+
+    def __init__(self, model):
+        self.model = model
+        self.points = Points(model, EXPONENT)
+        self.line = Line(model, 9)
+        self.weights = {}
+        self.grading = Grading(model)
+
+    def weight(self, v):
+        """What a letter weighs."""
+        if v not in self.weights:
+            self.weights[v] = max(1, self.line.degree(v))
+        return self.weights[v]
+
+    def search(self, letters, top):
+        """The search for relations of the last one of some letters, of degrees up to top, None for any."""
+        weights = {v: self.weight(v) for v in letters}
+        return Search(self.points, letters, weights, {v: self.grading.grade(v) for v in letters}, top)
+
+    def polynomial(self, letters, relation):
+        """The polynomial of a relation, or None."""
+        return None if relation is None else written(self.model, letters, relation)
+
+    def least(self, lower, v, top, most):
+        """A least relation of v, of a degree up to top, with lower letters, or None."""
+        letters = [*lower, v]
+        return self.polynomial(letters, self.search(letters, top).next(most))
+
+    def relation(self, lower, others, v):
+        """A relation of least degree of v with free lower letters and algebraic ones, or None."""
+        if not others:
+            return self.least(lower, v, None, MANY)
+        letters = [*lower, *others]
+        found = self.least(letters, v, 1, FEW)
+        if found is not None:
+            return found
+        top, first = self.least_degree([*letters, v])
+        if first is not None:
+            return self.polynomial([*letters, v], first)
+        return self.least(letters, v, top, SOME)
+
+    def least_degree(self, letters):
+        """The pair of the least degree of a relation, and the first one if it has that degree."""
+        search = self.search(letters, None)
+        first = search.next(SOME)
+        if first is None:
+            return (1, None)
+        top = degree_in(first)
+        row = self.at_point(letters, first)
+        for _ in range(FURTHER):
+            further = search.next(SOME)
+            if further is None or len(row) < 3:
+                break
+            row = common_row(row, self.at_point(letters, further), self.points.p)
+        least = len(row) - 1
+        return (least, first if top == least else None)
+
+    def at_point(self, letters, relation):
+        """The coefficients of a relation by its letter at one point."""
+        p = self.points.p
+        found = [0 for _ in range(degree_in(relation) + 1)]
+        for monomial, n in relation.items():
+            for w, e in zip(letters[:-1], monomial):
+                for _ in range(e):
+                    n = n * self.points.worth(0, w) % p
+            found[monomial[-1]] = (found[monomial[-1]] + n) % p
+        return trimmed(found)
+
+
+def degree_in(relation):
+    """The degree of a relation in the last letter."""
+    return max([monomial[-1] for monomial in relation])
+
+
+def common_row(a, b, p):
+    """The greatest common divisor of two lists of coefficients."""
+    while b:
+        a, b = b, divided(a, b, p)[1]
+    return a
+
+
+class Triangle:
+    """The equations of a general case of a model: several ones for each leader, from which may be chosen."""
+
+    def __init__(self, model, ranking):
+        self.model = model
+        self.places = places_of(ranking)
+        self.leaders = leaders_of(model, ranking)
+        self.finder = Finder(model)
+        self.found = {}
+        self.known = self.descent(QUICK)
+        self.tried = self.known != {}
+
+    def descent(self, most):
+        """The dict from leaders to equations that elimination finds; {} if it finds none."""
+        found = descended(self.model, self.places, system_of(self.model)[0], most)
+        if found is None:
+            return {}
+        return {highest(p, self.places): p for p in found}
+
+    def algebraic(self, at):
+        """The leaders ahead of one that hang on some of its free letters."""
+        lower = self.leaders[at][1]
+        return [w for w, free in self.leaders[:at] if [u for u in free if u in lower]]
+
+    def equation(self, at):
+        """An equation of the leader of a place, of the least degree, or None."""
+        if at not in self.found:
+            self.found[at] = self.looked_for(at)
+        return self.found[at]
+
+    def looked_for(self, at):
+        """An equation of the leader of a place, of the least degree, or None."""
+        v, lower = self.leaders[at]
+        others = self.algebraic(at)
+        p = self.known.get(v)
+        if p is not None and (not others or degree(p, v) == 1):
+            # Where all lower letters are free, what elimination leaves is of the least degree.
+            if len(p) <= SHORT:
+                return p
+            q = self.finder.least([*lower, *others], v, degree(p, v), min(MANY, 40 + 2 * len(p)))
+            return p if q is None or len(q) > len(p) else q
+        q = self.finder.relation(lower, others, v)
+        if q is None:
+            self.try_again()
+        return self.known.get(v) if q is None else q
+
+    def try_again(self):
+        """Lets elimination take longer, once."""
+        if not self.tried:
+            self.tried = True
+            self.known = self.descent(SLOW)
+
+    def lower_equation(self, at):
+        """An equation of the leader of a place, without algebraic letters of upper blocks if that can be, or None."""
+        p = self.equation(at)
+        if p is None:
+            return None
+        v, lower = self.leaders[at]
+        others = self.algebraic(at)
+        lowest = min([self.places[w[0]][0] for w in others], default=0)
+        below = [w for w in others if self.places[w[0]][0] == lowest]
+        if below == others or self.places[v[0]][0] == lowest:
+            return p
+        top = degree(p, v)
+        q = self.finder.least([*lower, *below], v, top, SOME)
+        return q if q is not None and degree(q, v) == top else p
+
+    def choice(self, way):
+        """The tuple of the equations of a general case, ascending, found in one of three ways; or None.
+
+        The more promising ways go first.
+        """
+        found = []
+        for at, (v, _) in enumerate(self.leaders):
+            if way == 0:
+                p = self.lower_equation(at)
+            else:
+                p = self.equation(at) if way == 1 else self.known.get(v)
+            if p is None:
+                return None
+            found.append(p)
+        return tuple(found)
