@@ -32,7 +32,7 @@ MOST_DEGREE = 6
 
 def closed_list(T, fs):
     """A closed list of a told system with some polynomials among its members, None if none is found."""
-    for way in (resting_list, common_list, spanned_list, multiple_list, list_of_laws):
+    for way in (resting_list, common_list, spanned_list, divided_list, multiple_list, list_of_laws):
         found = way(T, fs)
         if found is not None:
             return found
@@ -135,6 +135,39 @@ def with_rows(T, members, n):
         if row is None:
             return None
         rows.append(row)
+    return (tuple(members), UNIT, tuple(rows))
+
+
+def divided_list(T, fs):
+    """The closed list in which each rate is a multiple of one member, the further members being laws of low degree."""
+    least = max([degree_of(f) for f in fs])
+    for d in range(1, max(2, least) + 1):
+        count = count_to(len(T[0]), d)
+        if count > MOST_MONOMIALS:
+            return None
+        laws = law_space(T, d, count + 4)
+        found = list_by_quotients(T, fs, laws) if laws else None
+        if found is not None:
+            return found
+    return None
+
+
+def list_by_quotients(T, fs, laws):
+    """The closed list of some polynomials and some of some laws in which each rate is a multiple of one member."""
+    members = list(fs)
+    table = start_table(T)
+    factors = []
+    while len(factors) < len(members):
+        p = members[len(factors)]
+        rate = along(T[0], p)
+        found = [(q, quotient(rate, q)) for q in [*members, *laws] if q]
+        found = [row for row in found if row[1] is not None]
+        if not found or value_at(p, table) != ZERO:
+            return None
+        if found[0][0] not in members:
+            members.append(found[0][0])
+        factors.append(found[0])
+    rows = [tuple([factor if p == q else () for p in members]) for q, factor in factors]
     return (tuple(members), UNIT, tuple(rows))
 
 
