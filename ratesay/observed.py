@@ -10,7 +10,7 @@ from ratesay.polynomials import is_letter, is_polynomial, less, letters_of, part
 from ratesay.samples import EXPONENT, POINTS, Sample
 from ratesay.variations import changed, varied
 
-MOST_PAIRS = 40000
+MOST_PAIRS = 5000
 
 
 def own_names(model):
@@ -73,9 +73,11 @@ def is_spanned(model, letters, z):
 
 def gradient(run, names, v):
     """The pair (row, d): the partial derivatives of a letter are the polynomials of the row, divided by d."""
+    for k in range(v[1]):
+        # The next rate has several times as many pairs.
+        if len(run.letter_value((v[0], k))[0]) > MOST_PAIRS:
+            raise TooMany()
     n, powers = run.letter_value(v)
-    if len(n) > MOST_PAIRS:
-        raise TooMany()
     used = [k for k, e in enumerate(powers) if e]
     ones = tuple([1 if e else 0 for e in powers])
     below = run.bottom(ones)
