@@ -1,0 +1,166 @@
+"""Fractions that are kept along explicit equations: determinants of rates, found and judged."""
+
+from math import gcd
+
+from ratesay.errors import TooMany
+from ratesay.explicits import along, is_own, is_start_for, letters_in, names_in
+from ratesay.flows import Flow, ModularFlow
+from ratesay.linear import EXPONENTS, Echelon, integer_row, kernel, prime_of
+from ratesay.monomials import combination, monomials_to
+from ratesay.packing import sum_of_products
+from ratesay.polynomials import UNIT, alike, as_number, common_divisor, quotient, scaled, times
+from ratesay.ratios import ONE
+from ratesay.samples import fixed_value
+
+# Points of so many little integers are tried ahead of others.
+LITTLE = 40
+FURTHER = 4
+GREATEST = 1000
+MOST_PAIRS = 6000
+MOST_COMMON = 60000
+
+
+def is_kept_quotient(g, p, q):
+    """Whether p / q is kept along g."""
+    return times(along(g, p), q) == times(p, along(g, q))
+
+
+def kept_base(g, slope, n):
+    """The told base of the own polynomials of degree at most n whose rate is slope times them."""
+    monomials = monomials_to(letters_in(g), n)
+    table = {}
+    for column, monomial in enumerate(monomials):
+        v = ((monomial, ONE),)
+        for other, f in sum_of_products([(along(g, v), UNIT), (scaled(slope, (-1, 1)), v)]):
+            table.setdefault(other, {})[column] = f
+    vectors = kernel([integer_row(row) for row in table.values()], len(monomials))
+    return tuple([combination(monomials, vector) for vector in vectors])
+
+
+def little_points(count):
+    """Points of integers: little ones first, then others."""
+    found = []
+    for k in range(LITTLE):
+        found.append([(k * (at + 1) + k // 3 * at + at * at) % 11 for at in range(count)])
+    for seed in range(FURTHER):
+        found.append([fixed_value(seed, at, 0, prime_of(EXPONENTS[0])) % GREATEST for at in range(count)])
+    return found
+
+
+def columns_at(g, monomials, point, many):
+    """The rows, modulo a prime, of the first coefficients of the functions of monomials that begin at a point."""
+    flow = ModularFlow((g, tuple([(n, 1) for n in point])), prime_of(EXPONENTS[0]))
+    flow.reach(many)
+    return [{column: flow.part(monomial, k) for column, monomial in enumerate(monomials)} for k in range(many)]
+
+
+def rank_of(rows):
+    """The rank of rows modulo a prime."""
+    echelon = Echelon(prime_of(EXPONENTS[0]))
+    for row in rows:
+        echelon.take(row)
+    return len(echelon.rows)
+
+
+def is_independent_at(g, monomials, point):
+    """Whether the determinant of the monomials is seen not to be 0 at a point of integers."""
+    return rank_of(columns_at(g, monomials, point, len(monomials))) == len(monomials)
+
+
+def fraction_paper(g, n):
+    """A paper whether there is a kept fraction of degree at most n that is no number."""
+    monomials = monomials_to(letters_in(g), n)
+    for point in little_points(len(g)):
+        if is_independent_at(g, monomials, point):
+            return ("none", tuple([(c, 1) for c in point]))
+    for p in kept_base(g, (), n):
+        if as_number(p) is None:
+            return ("some", p, UNIT)
+    return determinant_paper(g, monomials)
+
+
+def determinant_paper(g, monomials):
+    """The paper of a kept fraction made of determinants, where that of all monomials is 0."""
+    point = little_points(len(g))[-1]
+    count = 2
+    while is_independent_at(g, monomials[:count], point):
+        count += 1
+    rows = [[((monomial, ONE),) for monomial in monomials[:count]]]
+    for _ in range(count - 2):
+        rows.append([along(g, p) for p in rows[-1]])
+    minors = minors_of(rows, count)
+    below = minors[count - 1]
+    found = [(len(p), k) for k, p in enumerate(minors[:-1]) if p and not alike(p, below)]
+    for _, k in sorted(found):
+        p, q = without_common(minors[k], below)
+        if is_kept_quotient(g, p, q):
+            return ("some", p, q)
+    raise TooMany()
+
+
+def minors_of(rows, count):
+    """The list of the determinants of rows without one of count columns each, up to their signs."""
+    table = {(): UNIT}
+    for row in rows:
+        table = grown(table, row, count)
+    return [table[tuple([k for k in range(count) if k != column])] for column in range(count)]
+
+
+def grown(table, row, count):
+    """The determinants with one row and one column more, by the tuples of their columns."""
+    sums = {}
+    for columns, p in table.items():
+        for k in range(count):
+            if k not in columns:
+                place = len([column for column in columns if column > k])
+                whole = tuple(sorted([*columns, k]))
+                q = scaled(row[k], (-1, 1)) if place & 1 else row[k]
+                sums.setdefault(whole, []).append((p, q))
+    found = {}
+    for columns, pairs in sums.items():
+        found[columns] = sum_of_products(pairs)
+        if len(found[columns]) > MOST_PAIRS:
+            raise TooMany()
+    return found
+
+
+def without_common(p, q):
+    """p and q without their greatest common divisor, if that is easily found."""
+    if len(p) * len(q) > MOST_COMMON:
+        return (p, q)
+    try:
+        common = common_divisor(p, q)
+    except TooMany:
+        return (p, q)
+    p, q = quotient(p, common), quotient(q, common)
+    scale = gcd_of(q)
+    return (scaled(p, scale), scaled(q, scale))
+
+
+def gcd_of(q):
+    """A fraction that takes a common divisor out of the numerators of q."""
+    common = 0
+    for _, f in q:
+        common = gcd(common, f[0])
+    return (1, common) if q[-1][1][0] > 0 else (-1, common)
+
+
+def is_none_paper(g, n, point):
+    """Whether any value is a point at which the determinant of the monomials of degree at most n is not 0."""
+    if not is_start_for(g, point):
+        return False
+    monomials = monomials_to(letters_in(g), n)
+    flow = Flow((g, point))
+    flow.reach(len(monomials))
+    rows = []
+    for k in range(len(monomials)):
+        rows.append(integer_row({column: flow.part(monomial, k) for column, monomial in enumerate(monomials)}))
+    return not kernel(rows, len(monomials))
+
+
+def is_some_paper(g, p, q):
+    """Whether any values are a kept fraction that is no number."""
+    names = names_in(g)
+    if not is_own(names, p) or not is_own(names, q) or not p or not q or alike(p, q):
+        return False
+    return is_kept_quotient(g, p, q)
