@@ -5,7 +5,7 @@ from math import lcm
 from ratesay.errors import BadPlanted
 from ratesay.forms import is_fraction, is_name, is_pair
 from ratesay.polynomials import names_of
-from ratesay.ratios import ZERO, integer_power
+from ratesay.ratios import ZERO, integer_power, reduced
 
 
 def is_function(value):
@@ -72,7 +72,7 @@ def worth_of(row, shift):
 
 
 def terms_of(p, table):
-    """The list of (integer, rows) of p times some integer: the functions of a term with their exponents."""
+    """The pair (list, scale): the list has the (integer, rows) of p times scale, the functions with their exponents."""
     terms = []
     scale = 1
     for monomial, f in p:
@@ -84,12 +84,11 @@ def terms_of(p, table):
             below *= integer_power(part, e)
         terms.append((f[0], below, rows))
         scale = lcm(scale, below)
-    return [(n * (scale // below), rows) for n, below, rows in terms]
+    return ([(n * (scale // below), rows) for n, below, rows in terms], scale)
 
 
-def is_zero_at(p, table):
-    """Whether a polynomial is 0 at functions."""
-    terms = terms_of(p, table)
+def packed_worth(terms):
+    """The pair (integer, shift): what terms come to at the time 2 to the power shift, great enough to tell them."""
     bound = 0
     for n, rows in terms:
         most = abs(n)
@@ -103,4 +102,23 @@ def is_zero_at(p, table):
         for row, e in rows:
             n *= integer_power(worth_of(row, shift), e)
         total += n
-    return total == 0
+    return (total, shift)
+
+
+def is_zero_at(p, table):
+    """Whether a polynomial is 0 at functions."""
+    return packed_worth(terms_of(p, table)[0])[0] == 0
+
+
+def function_at(p, table):
+    """The coefficients of the function that a polynomial comes to at functions."""
+    terms, scale = terms_of(p, table)
+    total, shift = packed_worth(terms)
+    found = []
+    while total:
+        n = total & ((1 << shift) - 1)
+        if n >> (shift - 1):
+            n -= 1 << shift
+        found.append(reduced(n, scale))
+        total = (total - n) >> shift
+    return tuple(found)

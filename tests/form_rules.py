@@ -75,6 +75,9 @@ def bound_names(function):
     return found
 
 
+SPECIAL = {"__init__", "__eq__", "__ne__", "__len__"}
+
+
 class Checker(ast.NodeVisitor):
     """Goes through one file."""
 
@@ -173,7 +176,9 @@ class Checker(ast.NodeVisitor):
                 if part.attr in methods:
                     self.fault(part, f"L18: {part.attr}")
         for name in methods:
-            if name in VALUE_NAMES or (name.startswith("__") and name != "__init__") or name in BARRED:
+            if name in SPECIAL:
+                continue
+            if name in VALUE_NAMES or name.startswith("__") or name in BARRED:
                 self.fault(node, f"L26: {name}")
         self.generic_visit(node)
 
