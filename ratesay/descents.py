@@ -20,7 +20,7 @@ from ratesay.samples import Oracle
 
 MOST_PAIRS = 20000
 # Common divisors take longer than products.
-COMMON = 1000
+COMMON = 5
 MOST_PARTED = 400
 # Of initials and coefficients of at most so many pairs common divisors are taken.
 SMALL = 40

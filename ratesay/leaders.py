@@ -16,9 +16,9 @@ class Directions:
         self.inputs = inputs
         self.samples = []
 
-    def worth(self, k, v):
-        """The change of a letter in the k-th direction."""
-        while len(self.samples) <= k:
+    def worths(self, v, count):
+        """The list of the changes of a letter in the first so many directions."""
+        while len(self.samples) < count:
             given = {}
             seed = len(self.samples) + 10
             for place, name in enumerate(self.own):
@@ -27,7 +27,7 @@ class Directions:
                 for order in range(MOST_ORDER + 1):
                     given[(changed(name), order)] = fixed_value(seed, place, order + 1, self.p)
             self.samples.append(Sample(self.model, 0, EXPONENT, given))
-        return self.samples[k].worth((changed(v[0]), v[1]))
+        return [sample.worth((changed(v[0]), v[1])) for sample in self.samples[:count]]
 
 
 # Orders of letters in general cases are looked for up to this.

@@ -5,12 +5,18 @@ Monomials are tuples of exponents here; the last letter is the one for which a r
 
 from ratesay.linear import fraction_of, inverse_modulo
 from ratesay.polynomials import primitive
-from ratesay.samples import EXPONENT, Sample
+from ratesay.samples import Sample
 
 # The points of relations are others than those of oracles.
 FIRST_SEED = 1000
+# The exponent of the Mersenne prime modulo which relations are looked for.
+COARSE = 61
 # Integers of relations with more digits than these primes tell are not looked for.
-FINE = (127, 521, 1279, 2203, 4423)
+FINE = (61, 127, 521, 1279, 2203, 4423)
+CHECKED = 521
+# What sums of so many products of residues ask for more, in bits.
+SPARE = 14
+FIRST_ROOM = 6
 # Searches end when they have seen so many monomials.
 MOST_SEEN = 20000
 
@@ -38,70 +44,92 @@ class Monomials:
         self.points = points
         self.p = points.p
         self.letters = letters
-        self.tables = []
+        self.rows = {}
+        self.columns = [[] for _ in letters]
 
-    def worth(self, k, monomial):
-        """The value of a monomial at the k-th point."""
-        while len(self.tables) <= k:
-            self.tables.append({})
-        table = self.tables[k]
-        if monomial not in table:
-            found = 1
-            for v, e in zip(self.letters, monomial):
-                if e:
-                    found = found * self.power(k, v, e) % self.p
-            table[monomial] = found
-        return table[monomial]
+    def worths(self, monomial, count):
+        """The list of the values of a monomial at the first so many points, or more."""
+        row = self.rows.setdefault(monomial, [])
+        size = len(row)
+        if size < count:
+            place = max([k for k, e in enumerate(monomial) if e], default=None)
+            if place is None:
+                row.extend([1 for _ in range(count - size)])
+            else:
+                lower = self.worths((*monomial[:place], monomial[place] - 1, *monomial[place + 1:]), count)
+                letters = self.letter_values(place, count)
+                row.extend([n * m % self.p for n, m in zip(lower[size:count], letters[size:count])])
+        return row
 
-    def power(self, k, v, e):
-        """The value of a letter to a power at the k-th point."""
-        table = self.tables[k]
-        if (v, e) not in table:
-            low = self.points.worth(k, v)
-            table[(v, e)] = low if e == 1 else self.power(k, v, e - 1) * low % self.p
-        return table[(v, e)]
+    def letter_values(self, place, count):
+        """The list of the values of a letter at the first so many points, or more."""
+        row = self.columns[place]
+        while len(row) < count:
+            row.append(self.points.worth(len(row), self.letters[place]))
+        return row
 
 
 class Elimination:
-    """Things without a relation between their values, as far as they were added; one point after the other is used."""
+    """Things without a relation between their values, as far as they were added; one point after the other is used.
+
+    The values at many points stand in one great integer, a field of bits for each point, so that a multiple of
+    all of them is added at once.
+    """
 
     def __init__(self, source):
         self.source = source
         self.p = source.p
+        self.digits = (2 * self.p.bit_length() + SPARE) // 4 + 1
+        self.bits = 4 * self.digits
+        self.room = 0
         self.things = []
         self.factors = []
         self.turns = []
-        self.columns = []
+        # The k-th row has the values of the k-th member of the basis from the k-th point on; there it is 1.
+        self.rows = []
 
-    def column(self, k):
-        """The values of the basis at the k-th point, k being at most the number of its members."""
-        while len(self.columns) <= k:
-            at = len(self.columns)
-            found = []
-            for thing, row, turn in zip(self.things[:at], self.factors, self.turns):
-                low = sum([f * n for f, n in zip(row, found)])
-                found.append((self.source.worth(at, thing) - low) * turn % self.p)
-            self.columns.append(found)
-        return self.columns[k]
+    def packed(self, numbers):
+        """The integer in which numbers stand, the first one lowest."""
+        return int("".join([f"{n:x}".zfill(self.digits) for n in reversed(numbers)]), 16)
 
-    def parts(self, thing):
-        """The pair of the multiples of the basis that make up a thing, and what is left of it at the next point."""
-        found = []
-        for k in range(len(self.things)):
-            low = sum([f * n for f, n in zip(found, self.column(k))])
-            found.append((self.source.worth(k, thing) - low) % self.p)
-        k = len(self.things)
-        low = sum([f * n for f, n in zip(found, self.column(k))])
-        return (found, (self.source.worth(k, thing) - low) % self.p)
+    def unpacked(self, total, count):
+        """The list of the residues of so many numbers that stand in an integer."""
+        text = f"{total:x}".zfill(count * self.digits)
+        ends = [len(text) - k * self.digits for k in range(count)]
+        return [int(text[end - self.digits:end], 16) % self.p for end in ends]
+
+    def grow(self):
+        """Makes room for further points."""
+        old = self.room
+        self.room = old + old // 2 + FIRST_ROOM
+        parts = []
+        for thing, row, turn in zip(self.things, self.factors, self.turns):
+            left = self.packed(self.source.worths(thing, self.room)[old:self.room])
+            for n, part in zip(row, parts):
+                left += (self.p - n) * part
+            parts.append(self.packed([n * turn % self.p for n in self.unpacked(left, self.room - old)]))
+        for k, part in enumerate(parts):
+            self.rows[k] += part << (self.bits * (old - k))
 
     def take(self, thing):
         """Adds a thing; None, or the dict of its relation with those before it."""
-        row, left = self.parts(thing)
-        if left == 0:
-            return self.relation(thing, row)
+        if len(self.things) == self.room:
+            self.grow()
+        left = self.packed(self.source.worths(thing, self.room)[:self.room])
+        mask = (1 << self.bits) - 1
+        found = []
+        for row in self.rows:
+            n = (left & mask) % self.p
+            found.append(n)
+            left = (left + (self.p - n) * row) >> self.bits
+        numbers = self.unpacked(left, self.room - len(self.things))
+        if numbers[0] == 0:
+            return self.relation(thing, found)
+        turn = inverse_modulo(numbers[0], self.p)
         self.things.append(thing)
-        self.factors.append(row)
-        self.turns.append(inverse_modulo(left, self.p))
+        self.factors.append(found)
+        self.turns.append(turn)
+        self.rows.append(self.packed([n * turn % self.p for n in numbers]))
         return None
 
     def relation(self, thing, row):
@@ -180,7 +208,7 @@ class Search:
     def next(self, most):
         """The dict of the next relation in which the letter stands; None if it would have too many monomials."""
         toil = 0
-        while self.seen < MOST_SEEN and toil < most * most * most:
+        while self.seen < MOST_SEEN and 3 * toil < most * most * most:
             monomial = self.next_monomial()
             if monomial is None:
                 return None
@@ -191,7 +219,7 @@ class Search:
             if grade not in self.eliminations:
                 self.eliminations[grade] = Elimination(self.source)
             size = len(self.eliminations[grade].things)
-            toil += 3 * size * size + 300
+            toil += size * size + 20 * size + 600
             found = self.eliminations[grade].take(monomial)
             if found is None:
                 self.offer(monomial)
@@ -213,10 +241,10 @@ def polynomial_of(letters, table):
 
 def written(model, letters, relation):
     """The polynomial of a relation modulo the first prime; None if its integers have too many digits."""
-    p = prime_number(EXPONENT)
+    p = prime_number(COARSE)
     monomials = list(relation)
     for exponent in FINE:
-        if exponent != EXPONENT:
+        if exponent != COARSE:
             p = prime_number(exponent)
             relation = relation_modulo(Points(model, exponent), letters, monomials)
             if relation is None:
@@ -224,7 +252,7 @@ def written(model, letters, relation):
         found = {monomial: fraction_of(n, p) for monomial, n in relation.items()}
         if None not in list(found.values()):
             q = polynomial_of(letters, found)
-            if Sample(model, 0, FINE[1], {}).value(q) == 0:
+            if Sample(model, 0, CHECKED, {}).value(q) == 0:
                 return q
     return None
 

@@ -13,8 +13,8 @@ from ratesay.verdicts import brought_down
 
 # Polynomials of more pairs are not parted into factors.
 MOST_PARTED = 40
-# Letters are eliminated from polynomials of not too many pairs and degrees, multiplied.
-MOST_CHAIN = 250000
+# So many products of pairs may be made to eliminate letters.
+MOST_WORK = 60000000
 
 
 class Showing:
@@ -24,15 +24,14 @@ class Showing:
         self.places = places
         self.equations = equations
         self.scope = Scope(places, False, MOST_SPENT)
+        self.work = Scope(places, False, MOST_WORK)
         self.inequations = []
         self.found = {}
 
     def common(self, g, p, w):
         """The triple (r, a, b) with r = a g + b p free of the letter w."""
         if (g, p) not in self.found:
-            if len(g) * len(p) * degree(g, w) * degree(p, w) > MOST_CHAIN:
-                raise TooMany()
-            self.found[(g, p)] = eliminated(g, p, w)
+            self.found[(g, p)] = eliminated(g, p, w, self.work)
         return self.found[(g, p)]
 
     def branch(self, system):
@@ -97,13 +96,13 @@ class Showing:
         return tree_of([branch])
 
 
-def eliminated(g, p, w):
+def eliminated(g, p, w, scope):
     """The triple (r, a, b) with r = a g + b p free of the letter w, p of a lower degree than g."""
     parts = coefficients(g, w)
     if len(parts) == 3 and p == partial(g, w):
         r = less(times(parts[1], parts[1]), scaled(times(parts[0], parts[2]), (4, 1)))
         return (r, scaled(parts[2], (-4, 1)), p)
-    return resultant(g, p, w)
+    return resultant(g, p, w, scope)
 
 
 def shown_case(equations, ranking, places, others):

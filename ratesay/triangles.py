@@ -6,14 +6,13 @@ from ratesay.leaders import leaders_of
 from ratesay.models import system_of
 from ratesay.polynomials import degree
 from ratesay.rankings import highest, places_of
-from ratesay.relations import Points, Search, written
-from ratesay.samples import EXPONENT
+from ratesay.relations import COARSE, Points, Search, written
 from ratesay.weights import Line, divided, trimmed
 
 # Relations with more monomials than these are not looked for.
-FEW = 120
-SOME = 240
-MANY = 420
+FEW = 200
+SOME = 420
+MANY = 850
 # So many further relations tell whether the first one is of the least degree.
 FURTHER = 3
 # What elimination may try at first, and where no relation is found.
@@ -28,7 +27,7 @@ class Finder:
 
     def __init__(self, model):
         self.model = model
-        self.points = Points(model, EXPONENT)
+        self.points = Points(model, COARSE)
         self.line = Line(model, 9)
         self.weights = {}
         self.grading = Grading(model)
@@ -125,10 +124,18 @@ class Triangle:
             return {}
         return {highest(p, self.places): p for p in found}
 
-    def algebraic(self, at):
-        """The leaders ahead of one that hang on some of its free letters."""
-        lower = self.leaders[at][1]
-        return [w for w, free in self.leaders[:at] if [u for u in free if u in lower]]
+    def concerned(self, at):
+        """The pair of the lists of the free letters and of the leaders on which the leader of a place may hang."""
+        lower = list(self.leaders[at][1])
+        others = []
+        size = -1
+        while size < len(others):
+            size = len(others)
+            for w, free in self.leaders[:at]:
+                if w not in others and [u for u in free if u in lower]:
+                    others.append(w)
+                    lower.extend([u for u in free if u not in lower])
+        return (lower, others)
 
     def equation(self, at):
         """An equation of the leader of a place, of the least degree, or None."""
@@ -138,8 +145,8 @@ class Triangle:
 
     def looked_for(self, at):
         """An equation of the leader of a place, of the least degree, or None."""
-        v, lower = self.leaders[at]
-        others = self.algebraic(at)
+        v = self.leaders[at][0]
+        lower, others = self.concerned(at)
         p = self.known.get(v)
         if p is not None and (not others or degree(p, v) == 1):
             # Where all lower letters are free, what elimination leaves is of the least degree.
@@ -163,8 +170,8 @@ class Triangle:
         p = self.equation(at)
         if p is None:
             return None
-        v, lower = self.leaders[at]
-        others = self.algebraic(at)
+        v = self.leaders[at][0]
+        lower, others = self.concerned(at)
         lowest = min([self.places[w[0]][0] for w in others], default=0)
         below = [w for w in others if self.places[w[0]][0] == lowest]
         if below == others or self.places[v[0]][0] == lowest:
