@@ -1,5 +1,6 @@
 """The equations of a general case by elimination: the lowest equation is solved first, whole factors go at once."""
 
+from ratesay.branches import widest
 from ratesay.errors import TooMany
 from ratesay.factors import factors_of
 from ratesay.members import Member
@@ -20,8 +21,11 @@ from ratesay.samples import Oracle
 
 MOST_PAIRS = 20000
 # Common divisors take longer than products.
-COMMON = 5
+COMMON = 40
 MOST_PARTED = 400
+# Factors and common divisors of polynomials with greater values take too long.
+MOST_VOLUME = 1000000
+GREATEST_VOLUME = 4000000
 # Of initials and coefficients of at most so many pairs common divisors are taken.
 SMALL = 40
 
@@ -155,7 +159,7 @@ class Descent:
             raise TooMany()
         content = ()
         for _, c in sorted([(len(c), c) for c in coefficients(p, w) if c]):
-            if len(content) * len(c) * COMMON > self.most:
+            if len(content) * len(c) * COMMON > self.most or content and volume(content) > GREATEST_VOLUME:
                 raise TooMany()
             content = common_divisor(content, c)
             if as_number(content) is not None:
@@ -165,7 +169,7 @@ class Descent:
                 return self.chosen(content)
             self.note(content)
             p = primitive(quotient(p, content))[1]
-        if len(p) > MOST_PARTED:
+        if len(p) > MOST_PARTED or volume(p) > MOST_VOLUME:
             return p
         parts = factors_of(p)
         if parts == [p]:
@@ -177,6 +181,14 @@ class Descent:
             if (len(q), q) not in zero:
                 self.note(q)
         return min(zero)[1]
+
+
+def volume(p):
+    """About how many bits a value of p has that tells p."""
+    found = widest(p)
+    for v in letters_of(p):
+        found *= degree(p, v) + 1
+    return found
 
 
 def descended(model, places, equations, most):
