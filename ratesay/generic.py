@@ -1,14 +1,13 @@
 """The general case of a model, and what it tells: output equations, values, models with the same equations."""
 
-from ratesay.conditions import either_of, of_system
-from ratesay.errors import BadOutputs, BadRanking, TooMany
+from ratesay.errors import BadOutputs, BadRanking, TooGreat, TooMany
 from ratesay.homes import is_home
 from ratesay.homing import home_steps
 from ratesay.members import members_of
 from ratesay.models import input_output_ranking, names_in, ranking_for, ranking_over_parameters, system_of
+from ratesay.outputs import cover_each_other, is_little, outputs_left
 from ratesay.polynomials import coefficients, degree, is_polynomial, less, letter, letters_of, partial, primitive, times
 from ratesay.rankings import highest, is_ranking, places_of
-from ratesay.remains import remain
 from ratesay.samples import Oracle
 from ratesay.sets import is_equal
 from ratesay.showings import shown_case
@@ -213,18 +212,6 @@ def is_apart(first, second, f):
     return Oracle(first).is_zero(f) != Oracle(second).is_zero(f)
 
 
-def outputs_left(model):
-    """The union that tells which outputs and inputs belong to a run of a model."""
-    equations, inequations = system_of(model)
-    # What quantities are asks nothing of the others.
-    system = (equations[:len(equations) - len(model[4])], inequations)
-    upper = tuple([x for x, _ in model[0]]) + model[1]
-    union = ()
-    for part in remain(system, upper)[0]:
-        union = either_of(union, of_system(part))
-    return union
-
-
 def same_outputs(first, second):
     """Whether the same outputs and inputs belong to runs of two models."""
     check_alike(first, second)
@@ -234,4 +221,16 @@ def same_outputs(first, second):
     except TooMany:
         # What remains may be found all the same.
         pass
-    return is_equal(outputs_left(first), outputs_left(second))
+    little = is_little(first) and is_little(second)
+    if little:
+        try:
+            return cover_each_other(first, second)
+        except (TooMany, TooGreat):
+            # What remains of each may be found all the same.
+            pass
+    try:
+        return is_equal(outputs_left(first), outputs_left(second))
+    except TooMany:
+        if little:
+            raise TooMany()
+        return cover_each_other(first, second)
