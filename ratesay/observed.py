@@ -3,7 +3,7 @@
 from ratesay.errors import BadName, TooMany
 from ratesay.forms import is_pair
 from ratesay.generalruns import Run
-from ratesay.linear import Echelon
+from ratesay.linear import TARGET, Echelon, solved_modulo
 from ratesay.matrices import reduction_of, without_content
 from ratesay.packing import sum_of_products
 from ratesay.polynomials import is_letter, is_polynomial, less, letters_of, partial, scaled, times
@@ -62,13 +62,16 @@ def independent_letters(model):
     return found
 
 
-def is_spanned(model, letters, z):
-    """Whether the row of z is a combination of those of letters."""
+def spanning(model, letters, z):
+    """The letters among some, with independent rows, of whose rows the row of z is a combination; None if of none."""
     slopes = Slopes(model, 0)
-    echelon = Echelon(slopes.p)
-    for v in [*letters, (z, 0)]:
-        grown = echelon.take({k: n for k, n in enumerate(slopes.row(v))}) is not None
-    return not grown
+    rows = []
+    for k in range(len(own_names(model))):
+        row = {column: slopes.row(v)[k] for column, v in enumerate(letters)}
+        row[TARGET] = slopes.row((z, 0))[k]
+        rows.append(row)
+    found = solved_modulo(rows, slopes.p)
+    return None if found is None else [v for column, v in enumerate(letters) if found.get(column)]
 
 
 def gradient(run, names, v):
@@ -99,11 +102,10 @@ def observed(model, z):
     names = own_names(model)
     letters = independent_letters(model)
     run = Run(model)
-    rows = [gradient(run, names, v) for v in letters]
     last = gradient(run, names, (z, 0))
-    if is_spanned(model, letters, z):
-        return finite_paper(letters, rows, last)
-    return free_paper(rows, last, len(names))
+    found = spanning(model, letters, z)
+    rows = [gradient(run, names, v) for v in (letters if found is None else found)]
+    return free_paper(rows, last, len(names)) if found is None else finite_paper(found, rows, last)
 
 
 def finite_paper(letters, rows, last):
