@@ -8,7 +8,7 @@ from ratesay.generic import (
     general_case, is_general, is_same, is_told, output_equation, same_equations, same_outputs, values_of,
 )
 from ratesay.models import holds_in_runs, input_output_ranking, ranking_for, ranking_over_parameters, runs_of, system_of
-from ratesay.polynomials import UNIT, letter, plus, primitive, put, scaled
+from ratesay.polynomials import UNIT, letter, plus, primitive, put, scaled, times
 from ratesay.rankings import leader
 from ratesay.rates import rate
 from ratesay.remainders import whole_rest
@@ -250,6 +250,36 @@ class TwoModelsTest(unittest.TestCase):
         self.assertIs(same_outputs(SMALL, STEADY), True)
         self.assertIs(same_outputs(STEADY, (told(x="0"), (), (), told(y="x^2"), ())), True)
         self.assertIs(same_outputs(STEADY, (told(x="0"), (), (), told(y=("x^2 - 1", "x")), ())), True)
+
+    def test_same_outputs_of_changed_models(self):
+        rng = rng_of(18)
+        for _ in range(6):
+            model = light_model(rng, 4)
+            model = (model[0], model[1], (), model[3], ()) if not model[2] else None
+            if model is None:
+                continue
+            change = ((("x", 0), read("-2*x")), *[((p, 0), read(f"{p} + 1")) for p in model[1]])
+            state, output = [(put(n, change), put(d, change)) for _, (n, d) in (model[0][0], model[3][0])]
+            other = ((("x", (scaled(state[0], (-1, 2)), state[1])),), model[1], (), (("y", output),), ())
+            self.assertIs(same_outputs(model, other), True)
+            # The output 0 may belong to runs of just one of them.
+            nowhere = (model[0], model[1], (), (("y", (plus(times(output[0], output[0]), UNIT), UNIT)),), ())
+            if same_equations(model, nowhere)[0] == "unlike":
+                self.assertIs(same_outputs(model, nowhere), False)
+
+    def test_outputs_that_differ_at_single_runs(self):
+        for first, second, right in (("x^2", "x", True), (("1", "x"), "x", False), (("x^2 + 1", "x"), "x", True), (("x - 1", "x"), "x", False),
+                                     (("x", "x^2 + 1"), "x", True), ("x^3 - x", "x + 5", True)):
+            models = [(told(x="0"), (), (), told(y=text), ()) for text in (first, second)]
+            self.assertIs(same_outputs(*models), right, (first, second))
+            self.assertIs(same_outputs(*models[::-1]), right)
+        for first, second, right in (("p^2*x", "p*x", True), ("p^2*x + x", "p*x", True), ("p*x", "p*x + x", True)):
+            models = [(told(x=text), ("p",), (), told(y="x"), ()) for text in (first, second)]
+            self.assertIs(same_outputs(*models), right)
+        # y = 0 has no run of the second one.
+        quotients = [(told(x="p*x"), ("p",), (), told(y=row), ()) for row in ("x", ("1", "x"))]
+        self.assertEqual(same_equations(*quotients)[0], "same")
+        self.assertIs(same_outputs(*quotients), False)
 
     def test_another_order(self):
         first = (told(x="u*x + v"), ("p",), ("u", "v"), told(y="x", z="p*x"), ())
