@@ -3,7 +3,7 @@
 from ratesay.descents import descended
 from ratesay.gradings import Grading
 from ratesay.leaders import leaders_of
-from ratesay.models import system_of
+from ratesay.models import names_in, system_of
 from ratesay.polynomials import degree
 from ratesay.rankings import highest, places_of
 from ratesay.relations import COARSE, Points, Search, written
@@ -110,19 +110,42 @@ class Triangle:
 
     def __init__(self, model, ranking):
         self.model = model
+        self.ranking = ranking
         self.places = places_of(ranking)
         self.leaders = leaders_of(model, ranking)
         self.finder = Finder(model)
         self.found = {}
-        self.known = self.descent(QUICK)
+        self.merged = {}
+        self.known = self.descent(self.places, QUICK)
         self.tried = self.known != {}
 
-    def descent(self, most):
+    def descent(self, places, most):
         """The dict from leaders to equations that elimination finds; {} if it finds none."""
-        found = descended(self.model, self.places, system_of(self.model)[0], most)
+        found = descended(self.model, places, system_of(self.model)[0], most)
         if found is None:
             return {}
-        return {highest(p, self.places): p for p in found}
+        return {highest(p, places): p for p in found}
+
+    def borrowed(self, v):
+        """An equation of a leader that elimination finds for another ranking, with upper blocks as one, or None."""
+        place = [n for n, block in enumerate(self.ranking) if v[0] in block][0]
+        found = []
+        for n in (place, place + 1):
+            for p in self.merged_equations(n):
+                if highest(p, self.places) == v:
+                    found.append((degree(p, v), len(p), p))
+        return min(found)[2] if found else None
+
+    def merged_equations(self, n):
+        """The list of the equations that elimination finds with the first n blocks as one."""
+        if n not in self.merged:
+            upper = [name for block in self.ranking[:n] for name in block]
+            whole = (tuple([name for name in names_in(self.model) if name in upper]), *self.ranking[n:])
+            if upper and whole != self.ranking:
+                self.merged[n] = list(self.descent(places_of(whole), QUICK).values())
+            else:
+                self.merged[n] = []
+        return self.merged[n]
 
     def concerned(self, at):
         """The pair of the lists of the free letters and of the leaders on which the leader of a place may hang."""
@@ -148,6 +171,8 @@ class Triangle:
         v = self.leaders[at][0]
         lower, others = self.concerned(at)
         p = self.known.get(v)
+        if p is None:
+            p = self.borrowed(v)
         if p is not None and (not others or degree(p, v) == 1):
             # Where all lower letters are free, what elimination leaves is of the least degree.
             if len(p) <= SHORT:
@@ -163,7 +188,7 @@ class Triangle:
         """Lets elimination take longer, once."""
         if not self.tried:
             self.tried = True
-            self.known = self.descent(SLOW)
+            self.known = self.descent(self.places, SLOW)
 
     def lower_equation(self, at):
         """An equation of the leader of a place, without algebraic letters of upper blocks if that can be, or None."""
