@@ -9,6 +9,7 @@ from ratesay.linear import inverse_modulo
 
 # Of a Mersenne prime, as in linear.
 EXPONENT = 127
+FURTHEST = 1000
 # Sums and powers of such an integer modulo a prime are as good as any numbers.
 BASE = 46802957128463719283746501928374650198
 POINTS = 2
@@ -100,7 +101,9 @@ class Sample:
         if v not in self.worths:
             name, k = v
             found = self.quotient(name, k) if name in self.told else self.number(name, k)
-            self.worths[v] = found * factorial(k) % self.p
+            # No series goes so far, so a high rate of an input may have any value.
+            high = name in self.inputs and k > FURTHEST
+            self.worths[v] = found if high else found * factorial(k) % self.p
         return self.worths[v]
 
     def power(self, v, e):

@@ -5,7 +5,7 @@ import unittest
 from ratesay.errors import BadName
 from ratesay.models import rate_form
 from ratesay.observed import is_observed, observed
-from ratesay.polynomials import UNIT, partial, plus, scaled, times
+from ratesay.polynomials import UNIT, letter, partial, plus, scaled, times
 from ratesay.texts import read
 from tests.helpers import ANYTHING, polys, random_polynomial, rng_of
 from tests.test_generic import CHAIN, GIVEN, PUSHED, SLOPED, SQUARE, STEADY
@@ -145,6 +145,9 @@ class ObservedTest(unittest.TestCase):
     def test_inputs_in_papers(self):
         self.assertEqual(is_observed(GIVEN, "q", ("finite", read("2*u[3]"), ((("y", 0), read("u[3]")),))), "finite")
         self.assertIsNone(is_observed(GIVEN, "q", ("finite", read("2*u[3]"), ((("y", 0), read("u[4]")),))))
+        high = letter("u", 10 ** 9)
+        self.assertEqual(is_observed(GIVEN, "q", ("finite", scaled(high, (2, 1)), ((("y", 0), high),))), "finite")
+        self.assertIsNone(is_observed(GIVEN, "q", ("finite", high, ((("y", 0), high),))))
         self.assertIsNone(is_observed(GIVEN, "q", ("finite", read("2*u[3]"), ((("y", 1), read("u[3]")),))))
 
     def test_bad_names(self):
