@@ -6,6 +6,7 @@ from ratesay.errors import TooMany
 from ratesay.explicits import along, is_own, is_start_for, letters_in, names_in
 from ratesay.flows import Flow, ModularFlow
 from ratesay.linear import EXPONENTS, Echelon, integer_row, kernel, prime_of
+from ratesay.minors import minors_of
 from ratesay.monomials import combination, monomials_to
 from ratesay.packing import sum_of_products
 from ratesay.polynomials import UNIT, alike, as_number, common_divisor, quotient, scaled, times
@@ -88,7 +89,7 @@ def determinant_paper(g, monomials):
     rows = [[((monomial, ONE),) for monomial in monomials[:count]]]
     for _ in range(count - 2):
         rows.append([along(g, p) for p in rows[-1]])
-    minors = minors_of(rows, count)
+    minors = minors_of(rows, count, MOST_PAIRS)
     below = minors[count - 1]
     found = [(len(p), k) for k, p in enumerate(minors[:-1]) if p and not alike(p, below)]
     for _, k in sorted(found):
@@ -96,32 +97,6 @@ def determinant_paper(g, monomials):
         if is_kept_quotient(g, p, q):
             return ("some", p, q)
     raise TooMany()
-
-
-def minors_of(rows, count):
-    """The list of the determinants of rows without one of count columns each, up to their signs."""
-    table = {(): UNIT}
-    for row in rows:
-        table = grown(table, row, count)
-    return [table[tuple([k for k in range(count) if k != column])] for column in range(count)]
-
-
-def grown(table, row, count):
-    """The determinants with one row and one column more, by the tuples of their columns."""
-    sums = {}
-    for columns, p in table.items():
-        for k in range(count):
-            if k not in columns:
-                place = len([column for column in columns if column > k])
-                whole = tuple(sorted([*columns, k]))
-                q = scaled(row[k], (-1, 1)) if place & 1 else row[k]
-                sums.setdefault(whole, []).append((p, q))
-    found = {}
-    for columns, pairs in sums.items():
-        found[columns] = sum_of_products(pairs)
-        if len(found[columns]) > MOST_PAIRS:
-            raise TooMany()
-    return found
 
 
 def without_common(p, q):

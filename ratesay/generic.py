@@ -1,21 +1,22 @@
 """The general case of a model, and what it tells: output equations, values, models with the same equations."""
 
+from ratesay.casefinding import first_equations, found_case
+from ratesay.certain import is_long_question, is_seen, is_zero_at_run
 from ratesay.errors import BadOutputs, BadRanking, TooGreat, TooMany
 from ratesay.homes import is_home
-from ratesay.homing import home_steps
+from ratesay.homing import is_led_away
+from ratesay.light import is_light
 from ratesay.members import members_of
 from ratesay.models import input_output_ranking, names_in, ranking_for, ranking_over_parameters, system_of
 from ratesay.outputs import cover_each_other, is_little, outputs_left
 from ratesay.polynomials import coefficients, degree, is_polynomial, less, letter, letters_of, partial, primitive, times
 from ratesay.rankings import highest, is_ranking, places_of
-from ratesay.samples import Oracle
 from ratesay.sets import is_equal
-from ratesay.showings import shown_case
 from ratesay.simple import is_case, is_shown_simple
 from ratesay.triangles import Triangle
+from ratesay.wide import is_case_of_run, may_be_general
 
 MOST_ORDER = 8
-WAYS = 3
 
 
 def check_ranking(model, ranking):
@@ -24,33 +25,6 @@ def check_ranking(model, ranking):
         raise BadRanking()
     if sorted([name for block in ranking for name in block]) != sorted(names_in(model)):
         raise BadRanking()
-
-
-def found_case(model, ranking):
-    """A general case of a model."""
-    triangle = Triangle(model, ranking)
-    tried = [None]
-    for way in range(WAYS):
-        equations = triangle.choice(way)
-        if equations not in tried:
-            tried.append(equations)
-            found = case_with(equations, system_of(model), ranking)
-            if found is not None:
-                return found
-    raise TooMany()
-
-
-def case_with(equations, system, ranking):
-    """A general case with some equations; None if it is not shown within the bounds."""
-    places = places_of(ranking)
-    steps = home_steps(members_of(equations, places), places, system[0])
-    if steps is None:
-        return None
-    try:
-        case, backing, trees = shown_case(equations, ranking, places, system[1])
-    except TooMany:
-        return None
-    return (case, backing, (steps, trees))
 
 
 def general_case(model, ranking):
@@ -73,16 +47,14 @@ def is_general_case(model, ranking, value):
     if type(value) is not tuple or len(value) != 3 or not is_case(value[0], ranking):
         return False
     case, backing, home = value
-    if not has_low_orders([*case[0], *case[1]]):
+    if not has_low_orders([*case[0], *case[1]]) or not may_be_general(model, members_of(case[0], places_of(ranking))):
         return False
-    oracle = Oracle(model)
     for p in case[0]:
-        if not oracle.is_zero(p):
+        if is_seen(model, p):
             return False
-    for p in case[1]:
-        if oracle.is_zero(p):
-            return False
-    return is_shown_simple(case, ranking, backing) and is_home(case, ranking, system_of(model), home)
+    if not is_shown_simple(case, ranking, backing) or not is_home(case, ranking, system_of(model), home):
+        return False
+    return is_case_of_run(model, ranking, case)
 
 
 def is_general(model, ranking, value):
@@ -95,13 +67,16 @@ def output_equation(model):
     """The output equation of a model with one output."""
     if len(model[3]) != 1:
         raise BadOutputs()
-    triangle = Triangle(model, ranking_over_parameters(model))
+    ranking = ranking_over_parameters(model)
+    triangle = Triangle(model, ranking)
     y = model[3][0][0]
     for at, (v, _) in enumerate(triangle.leaders):
         if v[0] == y:
             p = triangle.equation(at)
             if p is not None:
-                return primitive(p)[1]
+                p = primitive(p)[1]
+                check_zero(model, p, ranking)
+                return p
     raise TooMany()
 
 
@@ -127,11 +102,25 @@ def is_outside(model, p):
 
 def is_told(model, z, s, r):
     """Whether s z - r is 0 at every run and s is not, s and r having letters of outputs and inputs alone."""
-    ranking_for(model, z)
+    ranking = ranking_for(model, z)
     if not is_outside(model, s) or not is_outside(model, r):
         return False
-    oracle = Oracle(model)
-    return not oracle.is_zero(s) and oracle.is_zero(less(times(s, letter(z, 0)), r))
+    if is_zero_at_run(model, s, ranking):
+        return False
+    return is_zero_at_run(model, less(times(s, letter(z, 0)), r), ranking)
+
+
+def check_zero(model, f, ranking):
+    """TooMany unless a polynomial that is 0 at some points of a model surely is 0 at its general run.
+
+    Of light models it is taken for sure where telling it would take too long: there are not so many of them that one
+    could deceive as many points as a relation is found by.
+    """
+    if is_long_question(model, f):
+        if not is_light(model):
+            raise TooMany()
+    elif not is_zero_at_run(model, f, ranking):
+        raise TooMany()
 
 
 def check_alike(first, second):
@@ -148,34 +137,32 @@ def outer_members(model, equations):
     return [(p, highest(p, places)) for p in equations if is_outside(model, p)]
 
 
-def difference(oracle, members):
-    """A polynomial that tells the equations of members from those that an oracle knows; None if none does."""
-    for p, v in members:
-        if not oracle.is_zero(p):
+def difference(first, second):
+    """A polynomial that is 0 at all runs of the first model and not of the second one, found among equations, or None.
+
+    None is also told where those of the first model are 0 at some points of the second one and its heads are not.
+    """
+    ranking = input_output_ranking(first)
+    for p, v in outer_members(first, first_equations(first, ranking)):
+        if is_seen(second, p):
+            check_zero(first, p, ranking)
             return p
         for q in (coefficients(p, v)[-1], partial(p, v)):
-            if oracle.is_zero(q):
-                return q
+            if is_seen(first, q) and not is_seen(second, q):
+                return difference_by_head(first, second, q)
     return None
 
 
-def first_equations(model, ranking):
-    """The equations of a general case that are found first."""
-    triangle = Triangle(model, ranking)
-    for way in range(WAYS):
-        found = triangle.choice(way)
-        if found is not None:
-            return found
-    raise TooMany()
+def difference_by_head(first, second, q):
+    """A polynomial that is not 0 at all runs of the first model, if it is at those of the second one."""
+    check_zero(second, q, input_output_ranking(second))
+    return q
 
 
 def told_apart(first, second):
-    """A polynomial that is 0 at all runs of just one of two models, None if there is none."""
-    rows = []
-    for model in (first, second):
-        rows.append(outer_members(model, first_equations(model, input_output_ranking(model))))
-    f = difference(Oracle(second), rows[0])
-    return difference(Oracle(first), rows[1]) if f is None else f
+    """A polynomial that is 0 at all runs of just one of two models, None if none is found."""
+    f = difference(first, second)
+    return difference(second, first) if f is None else f
 
 
 def same_equations(first, second):
@@ -184,7 +171,30 @@ def same_equations(first, second):
     f = told_apart(first, second)
     if f is not None:
         return ("unlike", f)
-    return ("same", *[found_case(model, input_output_ranking(model)) for model in (first, second)])
+    found = [found_case(model, input_output_ranking(model)) for model in (first, second)]
+    if not have_same_equations(first, second, found[0][0], found[1][0]):
+        raise TooMany()
+    return ("same", *found)
+
+
+def have_same_equations(first, second, case, other):
+    """Whether models, whose general cases for the input-output rankings are told, have the same equations.
+
+    With the same numbers of free letters that are no inputs it is enough that the ones hold for the other model.
+    """
+    members = outer_members(first, case[0])
+    others = outer_members(second, other[0])
+    if sum([v[1] for _, v in members]) != sum([v[1] for _, v in others]):
+        return False
+    places = places_of(input_output_ranking(second))
+    divisors = members_of(tuple([p for p, _ in others]), places)
+    for p, v in members:
+        if is_seen(second, p) or not is_led_away(p, divisors, places):
+            return False
+        for q in (coefficients(p, v)[-1], partial(p, v)):
+            if not is_seen(second, q) and is_led_away(q, divisors, places):
+                return False
+    return True
 
 
 def is_same(first, second, value):
@@ -199,17 +209,21 @@ def is_same(first, second, value):
     for model, found in zip((first, second), value[1:]):
         if not is_general_case(model, input_output_ranking(model), found):
             return None
-    for model, found, other in ((first, value[1], second), (second, value[2], first)):
-        if difference(Oracle(other), outer_members(model, found[0][0])) is not None:
-            return None
-    return "same"
+    return "same" if have_same_equations(first, second, value[1][0], value[2][0]) else None
 
 
 def is_apart(first, second, f):
     """Whether any value is a polynomial in letters of outputs and inputs that is 0 at all runs of just one model."""
     if not is_polynomial(f) or not is_outside(first, f) or not has_low_orders([f]):
         return False
-    return Oracle(first).is_zero(f) != Oracle(second).is_zero(f)
+    seen = [model for model in (first, second) if is_seen(model, f)]
+    if len(seen) == 2:
+        return False
+    if seen:
+        other = second if seen[0] == first else first
+        return is_zero_at_run(other, f, input_output_ranking(other))
+    zeros = [is_zero_at_run(model, f, input_output_ranking(model)) for model in (first, second)]
+    return zeros[0] != zeros[1]
 
 
 def same_outputs(first, second):

@@ -9,24 +9,25 @@ from ratesay.treesteps import MOST_WORK, Budget, rate_work
 
 
 class Homing:
-    """Steps with the equations of a case; the work of all of them is counted."""
+    """Steps with the equations of a case; the work of all of them is counted if it is bounded."""
 
-    def __init__(self, members, places):
+    def __init__(self, members, places, is_bounded):
         self.members = members
         self.places = places
         self.numbers = {member.leader[0]: i for i, member in enumerate(members)}
+        self.is_bounded = is_bounded
         self.budget = Budget()
         self.steps = []
 
     def spend(self, work):
         """Gives up when the work is beyond the bounds."""
-        if not self.budget.spend(work):
+        if self.is_bounded and not self.budget.spend(work):
             raise TooMany()
 
     def rate(self, i, j):
         """The j-th rate of a member."""
         member = self.members[i]
-        if j > MOST_STEP:
+        if self.is_bounded and j > MOST_STEP:
             raise TooMany()
         while len(member.rates) <= j:
             self.spend(rate_work(member.rates[-1]))
@@ -71,26 +72,35 @@ class Homing:
             found.append((degree(g, v) * len(self.members[i].head(j)), k))
         return rows[min(found)[1]]
 
-    def steps_of(self, p):
-        """The tuple of the steps that lead p to 0."""
+    def rest(self, p):
+        """What the equations leave of p, all steps being kept."""
         self.steps = []
         g = p
-        while g:
-            rows = self.reducible(g)
-            if not rows:
-                raise TooMany()
+        rows = self.reducible(g)
+        while rows:
             low = self.free_step(g, rows)
             if low is None:
                 row = self.lightest(g, rows)
                 low = self.lowered(g, row, 1, coefficients(g, row[1])[-1])
             g = low
-        return tuple(self.steps)
+            rows = self.reducible(g)
+        return g
 
 
 def home_steps(members, places, equations):
     """The tuple of the steps that lead each equation to 0; None if that is beyond the bounds."""
-    homing = Homing(members, places)
+    homing = Homing(members, places, True)
+    found = []
     try:
-        return tuple([homing.steps_of(p) for p in equations])
+        for p in equations:
+            if homing.rest(p):
+                return None
+            found.append(tuple(homing.steps))
     except TooMany:
         return None
+    return tuple(found)
+
+
+def is_led_away(p, members, places):
+    """Whether equations leave nothing of p, however much work that is."""
+    return not Homing(members, places, False).rest(p)

@@ -1,21 +1,20 @@
 """Which states, parameters and quantities of a model have finitely many values: the rank test."""
 
 from ratesay.errors import BadName, TooMany
-from ratesay.forms import is_pair
 from ratesay.generalruns import Run
 from ratesay.linear import TARGET, Echelon, solved_modulo
-from ratesay.matrices import reduction_of, without_content
+from ratesay.minors import Parts, plain_row, product_of
 from ratesay.packing import sum_of_products
-from ratesay.polynomials import is_letter, is_polynomial, less, letters_of, partial, scaled, times
-from ratesay.samples import EXPONENT, POINTS, Sample
-from ratesay.variations import changed, varied
+from ratesay.polynomials import letter
+from ratesay.primes import divides_none, great_primes
+from ratesay.ranktest import is_finite, is_free
+from ratesay.samples import BITS, integers_of
+from ratesay.slopes import Slopes, asked_letters, gradient, own_names
+from ratesay.wedges import Wedge
 
 MOST_PAIRS = 5000
-
-
-def own_names(model):
-    """The list of the names of the states, then of the parameters."""
-    return [x for x, _ in model[0]] + list(model[1])
+# So many primes are tried.
+TRIED = 3
 
 
 def check_asked(model, z):
@@ -24,171 +23,110 @@ def check_asked(model, z):
         raise BadName(z)
 
 
-class Slopes:
-    """The partial derivatives of letters by the letters of states and parameters, at one point."""
+class Search:
+    """Looks for a paper about z.
 
-    def __init__(self, model, seed):
-        names = own_names(model)
-        whole = varied(model, False)
-        self.samples = []
-        for name in names:
-            given = {(changed(other), 0): 1 if other == name else 0 for other in names}
-            self.samples.append(Sample(whole, seed, EXPONENT, given))
-        self.p = self.samples[0].p
+    What is independent is told by the values at one point, modulo a prime; papers are looked through all the same.
+    """
 
-    def row(self, v):
-        """The list of the partial derivatives of a letter."""
-        return [sample.worth((changed(v[0]), v[1])) for sample in self.samples]
+    def __init__(self, model, z, p):
+        self.model = model
+        self.z = z
+        self.names = own_names(model)
+        self.run = Run(model)
+        self.slopes = Slopes(model, 0, p)
+        self.parts = Parts(self.known_polynomials())
 
-    def value(self, q):
-        """The value of a polynomial in letters of F."""
-        return self.samples[0].value(q)
+    def known_polynomials(self):
+        """The polynomials whose factors are likely to be common ones."""
+        states, _, _, outputs, _ = self.model
+        return [*self.run.bottoms, *[letter(name, 0) for name in self.names], *[n for _, (n, _) in [*states, *outputs]]]
 
+    def gradient(self, v):
+        """The pair (row, powers) of the partial derivatives of a letter."""
+        for k in range(v[1]):
+            # The next rate has several times as many pairs.
+            if len(self.run.letter_value((v[0], k))[0]) > MOST_PAIRS:
+                raise TooMany()
+        return gradient(self.run, self.names, v)
 
-def asked_letters(model):
-    """The list of the letters of the outputs by which is tested, those of low order first."""
-    many = len(own_names(model))
-    return [(a, j) for j in range(many) for a, _ in model[3]]
+    def independent_letters(self):
+        """Letters of the outputs whose rows of partial derivatives are independent and span all of them."""
+        echelon = Echelon(self.slopes.p)
+        found = []
+        for v in asked_letters(self.model):
+            if echelon.take({k: n for k, n in enumerate(self.slopes.row(v))}) is not None:
+                found.append(v)
+        return found
 
+    def spanning(self, letters):
+        """The letters among some of whose rows the row of z is a combination; None if of none."""
+        rows = []
+        for k, _ in enumerate(self.names):
+            row = {column: self.slopes.row(v)[k] for column, v in enumerate(letters)}
+            row[TARGET] = self.slopes.row((self.z, 0))[k]
+            rows.append(row)
+        found = solved_modulo(rows, self.slopes.p)
+        return None if found is None else [v for column, v in enumerate(letters) if found.get(column)]
 
-def independent_letters(model):
-    """Letters of the outputs whose rows of partial derivatives are independent and span all of them."""
-    slopes = Slopes(model, 0)
-    echelon = Echelon(slopes.p)
-    found = []
-    for v in asked_letters(model):
-        if echelon.take({k: n for k, n in enumerate(slopes.row(v))}) is not None:
-            found.append(v)
-    return found
+    def paper(self):
+        """A paper about z that is right; None if none is found."""
+        letters = self.independent_letters()
+        found = self.spanning(letters)
+        if found is None:
+            return self.free_paper([self.gradient(v)[0] for v in letters])
+        return self.finite_paper(found, [self.gradient(v) for v in found])
 
+    def finite_paper(self, letters, rows):
+        """The paper that the row of z is a combination of rows of letters, None if it is not."""
+        last = self.gradient((self.z, 0))
+        wedge = Wedge([row for row, _ in rows], len(self.names), self.parts)
+        found = wedge.combination(last[0])
+        if found is None:
+            return None
+        # The multipliers are those of rows without their denominators.
+        pairs = []
+        for c, (_, powers) in zip(found, [*rows, last]):
+            pairs.append(product_of(self.parts.parted(c), self.parts.parted(self.run.bottom(powers))))
+        found = plain_row(self.parts.taken(pairs)[0])
+        told = [(v, c) for v, c in zip(letters, found) if c]
+        return ("finite", found[-1], tuple(sorted(told)))
 
-def spanning(model, letters, z):
-    """The letters among some, with independent rows, of whose rows the row of z is a combination; None if of none."""
-    slopes = Slopes(model, 0)
-    rows = []
-    for k in range(len(own_names(model))):
-        row = {column: slopes.row(v)[k] for column, v in enumerate(letters)}
-        row[TARGET] = slopes.row((z, 0))[k]
-        rows.append(row)
-    found = solved_modulo(rows, slopes.p)
-    return None if found is None else [v for column, v in enumerate(letters) if found.get(column)]
+    def free_paper(self, rows):
+        """The paper that the row of z is no combination of rows, None if none is found."""
+        last, _ = self.gradient((self.z, 0))
+        wedge = Wedge(rows, len(self.names), self.parts)
+        found = []
+        for columns in self.column_choices(rows):
+            vector = wedge.kernel_vector(columns)
+            if sum_of_products(list(zip(last, vector))):
+                found.append((sum([len(p) for p in vector]), tuple(vector)))
+        if not found or not is_free(self.model, self.z, min(found)[1]):
+            return None
+        return ("free", min(found)[1])
 
-
-def gradient(run, names, v):
-    """The pair (row, d): the partial derivatives of a letter are the polynomials of the row, divided by d."""
-    for k in range(v[1]):
-        # The next rate has several times as many pairs.
-        if len(run.letter_value((v[0], k))[0]) > MOST_PAIRS:
-            raise TooMany()
-    n, powers = run.letter_value(v)
-    used = [k for k, e in enumerate(powers) if e]
-    ones = tuple([1 if e else 0 for e in powers])
-    below = run.bottom(ones)
-    row = []
-    for name in names:
-        w = (name, 0)
-        pairs = [(partial(n, w), below)]
-        for k in used:
-            others = tuple([1 if e and j != k else 0 for j, e in enumerate(powers)])
-            drop = times(partial(run.bottoms[k], w), run.bottom(others))
-            pairs.append((scaled(n, (-powers[k], 1)), drop))
-        row.append(sum_of_products(pairs))
-    return (row, run.bottom(tuple([e + one for e, one in zip(powers, ones)])))
+    def column_choices(self, rows):
+        """The tuples of columns, ascending, one more than rows, of which as many as rows are independent."""
+        echelon = Echelon(self.slopes.p)
+        first = []
+        weights = [(sum([len(row[k]) for row in rows]), k) for k, _ in enumerate(self.names)]
+        for _, k in sorted(weights):
+            values = {place: self.slopes.value(row[k]) for place, row in enumerate(rows)}
+            if echelon.take(values) is not None:
+                first.append(k)
+        return [tuple(sorted([*first, k])) for k, _ in enumerate(self.names) if k not in first]
 
 
 def observed(model, z):
     """A paper whether z has finitely many values at the outputs and inputs of the general run."""
     check_asked(model, z)
-    names = own_names(model)
-    letters = independent_letters(model)
-    run = Run(model)
-    last = gradient(run, names, (z, 0))
-    found = spanning(model, letters, z)
-    rows = [gradient(run, names, v) for v in (letters if found is None else found)]
-    return free_paper(rows, last, len(names)) if found is None else finite_paper(found, rows, last)
-
-
-def finite_paper(letters, rows, last):
-    """The paper that the row of z is a combination of rows of letters."""
-    whole = [*rows, last]
-    columns = [[row[k] for row, _ in whole] for k in range(len(last[0]))]
-    reduction = reduction_of(columns, len(rows))
-    found = reduction.vector(len(rows), len(whole))
-    # The parts of the vector belong to rows without their denominators.
-    found = without_content([times(c, d) for c, (_, d) in zip(found, whole)])
-    told = [(v, less((), c)) for v, c in zip(letters, found) if c]
-    return ("finite", found[-1], tuple(sorted(told)))
-
-
-def free_paper(rows, last, many):
-    """The paper that the row of z is no combination of rows."""
-    reduction = reduction_of([row for row, _ in rows], many)
-    found = []
-    for column in reduction.columns(many):
-        vector = reduction.vector(column, many)
-        if sum_of_products(list(zip(last[0], vector))):
-            found.append((sum([len(p) for p in vector]), column, vector))
-    return ("free", tuple(min(found)[2]))
-
-
-def is_in_field(model, p):
-    """Whether any value is a polynomial in letters of states and parameters of order 0, and of inputs."""
-    if not is_polynomial(p):
-        return False
-    own = own_names(model)
-    for name, k in letters_of(p):
-        if name not in model[2] and (k or name not in own):
-            return False
-    return True
-
-
-def are_finite_rows(model, value):
-    """Whether any value is a tuple of ((a, j), c), ascending, each once."""
-    if type(value) is not tuple:
-        return False
-    asked = asked_letters(model)
-    last = None
-    for row in value:
-        if not is_pair(row) or not is_letter(row[0]) or row[0] not in asked or not is_in_field(model, row[1]):
-            return False
-        if last is not None and not last < row[0]:
-            return False
-        last = row[0]
-    return True
-
-
-def is_finite(model, z, s, rows):
-    """Whether any values show that z has finitely many values."""
-    if not is_in_field(model, s) or not s or not are_finite_rows(model, rows):
-        return False
-    for seed in range(POINTS):
-        slopes = Slopes(model, seed)
-        left = [slopes.value(s) * n for n in slopes.row((z, 0))]
-        for v, c in rows:
-            worth = slopes.value(c)
-            left = [a - worth * n for a, n in zip(left, slopes.row(v))]
-        if [n for n in left if n % slopes.p]:
-            return False
-    return True
-
-
-def is_free(model, z, vector):
-    """Whether any value shows that z has more values than any number."""
-    if type(vector) is not tuple or len(vector) != len(own_names(model)):
-        return False
-    for p in vector:
-        if not is_in_field(model, p):
-            return False
-    moved = False
-    for seed in range(POINTS):
-        slopes = Slopes(model, seed)
-        worths = [slopes.value(p) for p in vector]
-        for v in asked_letters(model):
-            if sum([n * worth for n, worth in zip(slopes.row(v), worths)]) % slopes.p:
-                return False
-        if sum([n * worth for n, worth in zip(slopes.row((z, 0)), worths)]) % slopes.p:
-            moved = True
-    return moved
+    numbers = integers_of(model)
+    primes = [p for p in great_primes(BITS) if divides_none(p, numbers)]
+    for p in primes[:TRIED]:
+        found = Search(model, z, p).paper()
+        if found is not None:
+            return found
+    raise TooMany()
 
 
 def is_observed(model, z, value):

@@ -5,13 +5,14 @@ Monomials are tuples of exponents here; the last letter is the one for which a r
 
 from ratesay.linear import fraction_of, inverse_modulo
 from ratesay.polynomials import primitive
-from ratesay.samples import Sample
+from ratesay.primes import divides_none, great_primes
+from ratesay.samples import Sample, integers_of, prime_for
 
 # The points of relations are others than those of oracles.
 FIRST_SEED = 1000
-# The exponent of the Mersenne prime modulo which relations are looked for.
+# The bits of the prime modulo which relations are looked for.
 COARSE = 61
-# Integers of relations with more digits than these primes tell are not looked for.
+# Integers of relations with more digits than primes of so many bits tell are not looked for.
 FINE = (61, 127, 521, 1279, 2203, 4423)
 CHECKED = 521
 # What sums of so many products of residues ask for more, in bits.
@@ -24,17 +25,35 @@ MOST_SEEN = 20000
 class Points:
     """The values of letters at many points, modulo one prime."""
 
-    def __init__(self, model, exponent):
+    def __init__(self, model, p):
         self.model = model
-        self.exponent = exponent
-        self.p = (1 << exponent) - 1
+        self.p = p
         self.samples = []
 
     def worth(self, k, v):
         """The value of a letter at the k-th point."""
         while len(self.samples) <= k:
-            self.samples.append(Sample(self.model, FIRST_SEED + len(self.samples), self.exponent, {}))
+            self.samples.append(Sample(self.model, FIRST_SEED + len(self.samples), self.p, {}))
         return self.samples[k].worth(v)
+
+
+class PointSets:
+    """The points of one model modulo several primes."""
+
+    def __init__(self, model):
+        self.model = model
+        self.found = {}
+        self.check = Sample(model, 0, prime_for(model, CHECKED), {})
+
+    def points(self, p):
+        """The points modulo a prime."""
+        if p not in self.found:
+            self.found[p] = Points(self.model, p)
+        return self.found[p]
+
+    def checked(self, q):
+        """Whether a polynomial is 0 at one more point."""
+        return self.check.value(q) == 0
 
 
 class Monomials:
@@ -239,27 +258,31 @@ def polynomial_of(letters, table):
     return primitive(tuple(sorted(rows)))[1]
 
 
-def written(model, letters, relation):
-    """The polynomial of a relation modulo the first prime; None if its integers have too many digits."""
-    p = prime_number(COARSE)
+def written(sets, letters, relation, p):
+    """The polynomial of a relation modulo a prime; None if its integers have too many digits."""
     monomials = list(relation)
-    for exponent in FINE:
-        if exponent != COARSE:
-            p = prime_number(exponent)
-            relation = relation_modulo(Points(model, exponent), letters, monomials)
+    for q in fine_primes(sets.model, p):
+        if q != p:
+            relation = relation_modulo(sets.points(q), letters, monomials)
             if relation is None:
                 return None
-        found = {monomial: fraction_of(n, p) for monomial, n in relation.items()}
+        found = {monomial: fraction_of(n, q) for monomial, n in relation.items()}
         if None not in list(found.values()):
-            q = polynomial_of(letters, found)
-            if Sample(model, 0, CHECKED, {}).value(q) == 0:
-                return q
+            f = polynomial_of(letters, found)
+            if sets.checked(f):
+                return f
     return None
 
 
-def prime_number(exponent):
-    """A Mersenne prime."""
-    return (1 << exponent) - 1
+def fine_primes(model, p):
+    """The list of the primes by which integers of relations are told: p first, then greater ones."""
+    numbers = integers_of(model)
+    found = [p]
+    for least in FINE[1:]:
+        good = [q for q in great_primes(max(least, p.bit_length() + 1)) if q not in found and divides_none(q, numbers)]
+        if good:
+            found.append(good[0])
+    return found
 
 
 def relation_modulo(points, letters, monomials):

@@ -1,18 +1,19 @@
-"""Values at the general run of a model, modulo a great prime, its letters having fixed values.
+"""Values at the general run of a model, modulo a prime or a power of one, its letters having fixed values.
 
-What is not 0 there is not 0; what is 0 at several such points is 0, but for a chance that is as good as none.
+What is not 0 there is not 0; what is 0 there may be 0 or not.
 """
 
 from math import factorial
 
+from ratesay.errors import TooMany
 from ratesay.linear import inverse_modulo
+from ratesay.primes import divides_none, great_primes
 
-# Of a Mersenne prime, as in linear.
-EXPONENT = 127
 FURTHEST = 1000
 # Sums and powers of such an integer modulo a prime are as good as any numbers.
 BASE = 46802957128463719283746501928374650198
 POINTS = 2
+BITS = 127
 ROUNDS = 24
 
 
@@ -25,20 +26,50 @@ def fixed_value(seed, place, k, p):
     return found
 
 
+def turned(n, p):
+    """1 / n modulo a prime or a power of one; TooMany if there is none."""
+    found = inverse_modulo(n, p)
+    if found * n % p != 1:
+        raise TooMany()
+    return found
+
+
 def residues(q, p):
     """The list of (monomial, residue) of a polynomial."""
-    return [(monomial, f[0] * inverse_modulo(f[1], p) % p) for monomial, f in q]
+    return [(monomial, f[0] % p if f[1] == 1 else f[0] * turned(f[1], p) % p) for monomial, f in q]
+
+
+def integers_of(model):
+    """The list of the numerators and denominators in a model."""
+    states, _, _, outputs, quantities = model
+    found = {}
+    for _, pair in [*states, *outputs, *quantities]:
+        for p in pair:
+            for _, f in p:
+                found[f[0]] = True
+                found[f[1]] = True
+    return list(found)
+
+
+def prime_for(model, least):
+    """A great prime, of at least so many bits, that divides no integer of a model."""
+    numbers = integers_of(model)
+    for p in great_primes(least):
+        if divides_none(p, numbers):
+            return p
+    raise TooMany()
 
 
 class Sample:
     """The values of letters at one point, as far as they were asked.
 
     Series of the names are kept as lists of their coefficients. given tells coefficients that are not the fixed ones.
+    TooMany is raised where something that is 0 modulo the prime p is divided by.
     """
 
-    def __init__(self, model, seed, exponent, given):
+    def __init__(self, model, seed, p, given):
         states, parameters, inputs, outputs, quantities = model
-        self.p = (1 << exponent) - 1
+        self.p = p
         self.seed = seed
         self.given = given
         self.slopes = {x: (residues(n, self.p), residues(d, self.p)) for x, (n, d) in states}
@@ -49,6 +80,7 @@ class Sample:
         self.products = {}
         self.quotients = {name: [] for name in [*self.slopes, *self.told]}
         self.worths = {}
+        self.turns = {}
 
     def chosen(self, name, k):
         """The coefficient of t to the power k where it may be chosen."""
@@ -65,7 +97,7 @@ class Sample:
         row = self.numbers[name]
         while len(row) <= k:
             at = len(row)
-            row.append(self.quotient(name, at - 1) * inverse_modulo(at, self.p) % self.p)
+            row.append(self.quotient(name, at - 1) * turned(at, self.p) % self.p)
         return row[k]
 
     def part(self, monomial, k):
@@ -93,8 +125,15 @@ class Sample:
         while len(row) <= k:
             at = len(row)
             worth = self.coefficient(high, at) - sum([row[i] * self.coefficient(low, at - i) for i in range(at)])
-            row.append(worth * inverse_modulo(self.coefficient(low, 0), self.p) % self.p)
+            row.append(worth * self.turn(name) % self.p)
         return row[k]
+
+    def turn(self, name):
+        """1 / the value of the d of a state, an output or a quantity."""
+        if name not in self.turns:
+            _, low = self.slopes[name] if name in self.slopes else self.told[name]
+            self.turns[name] = turned(self.coefficient(low, 0), self.p)
+        return self.turns[name]
 
     def worth(self, v):
         """The value of a letter."""
@@ -123,7 +162,7 @@ class Sample:
         total = 0
         powers = {}
         for monomial, f in q:
-            found = f[0] if f[1] == 1 else f[0] * inverse_modulo(f[1], self.p)
+            found = f[0] if f[1] == 1 else f[0] * turned(f[1], self.p)
             for v, e in monomial:
                 if (v, e) not in powers:
                     powers[(v, e)] = self.power(v, e)
@@ -133,13 +172,14 @@ class Sample:
 
 
 class Oracle:
-    """Tells of polynomials whether they are 0 at the general run of a model."""
+    """Tells of polynomials whether they are 0 at two points of a model: what is not 0 there is not 0."""
 
     def __init__(self, model):
-        self.samples = [Sample(model, seed, EXPONENT, {}) for seed in range(POINTS)]
+        p = prime_for(model, BITS)
+        self.samples = [Sample(model, seed, p, {}) for seed in range(POINTS)]
 
     def is_zero(self, q):
-        """Whether a polynomial is 0 at the general run."""
+        """Whether a polynomial is 0 at both points."""
         for sample in self.samples:
             if sample.value(q):
                 return False

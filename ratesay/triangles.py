@@ -6,7 +6,8 @@ from ratesay.leaders import leaders_of
 from ratesay.models import names_in, system_of
 from ratesay.polynomials import degree
 from ratesay.rankings import highest, places_of
-from ratesay.relations import COARSE, Points, Search, written
+from ratesay.relations import COARSE, PointSets, Search, written
+from ratesay.samples import prime_for
 from ratesay.weights import Line, divided, trimmed
 
 # Relations with more monomials than these are not looked for.
@@ -27,7 +28,8 @@ class Finder:
 
     def __init__(self, model):
         self.model = model
-        self.points = Points(model, COARSE)
+        self.sets = PointSets(model)
+        self.points = self.sets.points(prime_for(model, COARSE))
         self.line = Line(model, 9)
         self.weights = {}
         self.grading = Grading(model)
@@ -45,7 +47,7 @@ class Finder:
 
     def polynomial(self, letters, relation):
         """The polynomial of a relation, or None."""
-        return None if relation is None else written(self.model, letters, relation)
+        return None if relation is None else written(self.sets, letters, relation, self.points.p)
 
     def least(self, lower, v, top, most):
         """A least relation of v, of a degree up to top, with lower letters, or None."""
