@@ -20,10 +20,10 @@ WORD = 240
 
 def is_seen(model, f):
     """Whether a polynomial is seen not to be 0 at the general run, at some points; False tells nothing."""
-    primes = Primes()
+    primes = Primes(0)
     for seed in range(TRIED):
         try:
-            if Sample(model, seed, primes.next(), {}).value(f):
+            if Sample(model, seed, primes.another(), {}).value(f):
                 return True
         except TooMany:
             # The prime divides what is divided by; there are others.

@@ -1,6 +1,6 @@
-"""Series of told functions: exactly, and modulo a great prime."""
+"""Series of told functions: exactly, and modulo a prime."""
 
-from ratesay.linear import inverse_modulo
+from ratesay.linear import turned
 from ratesay.ratios import ONE, ZERO, multiplied, summed
 
 
@@ -62,7 +62,10 @@ class Flow:
 
 
 class ModularFlow:
-    """The coefficients of the functions of a told system modulo a prime, as far as they were asked."""
+    """The coefficients of the functions of a told system modulo a prime, as far as they were asked.
+
+    TooMany is raised where something is divided by that the prime divides.
+    """
 
     def __init__(self, T, p):
         g, c = T
@@ -73,7 +76,7 @@ class ModularFlow:
 
     def residue(self, f):
         """A fraction modulo the prime."""
-        return f[0] * inverse_modulo(f[1], self.p) % self.p
+        return f[0] * turned(f[1], self.p) % self.p
 
     def residues(self, q):
         """The pairs (monomial, residue) of a polynomial."""
@@ -98,7 +101,7 @@ class ModularFlow:
         """Makes the coefficients of the names up to t to the power k known."""
         size = min([len(row) for row in self.numbers.values()])
         for at in range(size, k + 1):
-            turn = inverse_modulo(at, self.p)
+            turn = turned(at, self.p)
             found = []
             for name, rows in self.slopes.items():
                 worth = sum([n * self.part(monomial, at - 1) for monomial, n in rows]) * turn % self.p

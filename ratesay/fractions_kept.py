@@ -5,11 +5,12 @@ from math import gcd
 from ratesay.errors import TooMany
 from ratesay.explicits import along, is_own, is_start_for, letters_in, names_in
 from ratesay.flows import Flow, ModularFlow
-from ratesay.linear import EXPONENTS, Echelon, integer_row, kernel, prime_of
+from ratesay.linear import BITS, Echelon, integer_row, kernel
 from ratesay.minors import minors_of
 from ratesay.monomials import combination, monomials_to
 from ratesay.packing import sum_of_products
 from ratesay.polynomials import UNIT, alike, as_number, common_divisor, quotient, scaled, times
+from ratesay.primes import Primes, divides_none, great_primes
 from ratesay.ratios import ONE
 from ratesay.samples import fixed_value
 
@@ -44,54 +45,61 @@ def little_points(count):
     for k in range(LITTLE):
         found.append([(k * (at + 1) + k // 3 * at + at * at) % 11 for at in range(count)])
     for seed in range(FURTHER):
-        found.append([fixed_value(seed, at, 0, prime_of(EXPONENTS[0])) % GREATEST for at in range(count)])
+        found.append([fixed_value(seed, at, 0, great_primes(BITS)[0]) % GREATEST for at in range(count)])
     return found
 
 
-def columns_at(g, monomials, point, many):
+def columns_at(g, monomials, point, p):
     """The rows, modulo a prime, of the first coefficients of the functions of monomials that begin at a point."""
-    flow = ModularFlow((g, tuple([(n, 1) for n in point])), prime_of(EXPONENTS[0]))
+    many = len(monomials)
+    flow = ModularFlow((g, tuple([(n, 1) for n in point])), p)
     flow.reach(many)
     return [{column: flow.part(monomial, k) for column, monomial in enumerate(monomials)} for k in range(many)]
 
 
-def rank_of(rows):
-    """The rank of rows modulo a prime."""
-    echelon = Echelon(prime_of(EXPONENTS[0]))
-    for row in rows:
+def is_independent_at(g, monomials, point, p):
+    """Whether the determinant of the monomials is seen not to be 0 at a point of integers, modulo a prime."""
+    echelon = Echelon(p)
+    for row in columns_at(g, monomials, point, p):
         echelon.take(row)
-    return len(echelon.rows)
+    return len(echelon.rows) == len(monomials)
 
 
-def is_independent_at(g, monomials, point):
-    """Whether the determinant of the monomials is seen not to be 0 at a point of integers."""
-    return rank_of(columns_at(g, monomials, point, len(monomials))) == len(monomials)
+def prime_for(g):
+    """A prime that divides no integer in an explicit system."""
+    primes = Primes(BITS)
+    numbers = [n for _, q in g for _, f in q for n in f]
+    while True:
+        p = primes.another()
+        if divides_none(p, numbers):
+            return p
 
 
 def fraction_paper(g, n):
     """A paper whether there is a kept fraction of degree at most n that is no number."""
     monomials = monomials_to(letters_in(g), n)
+    p = prime_for(g)
     for point in little_points(len(g)):
-        if is_independent_at(g, monomials, point):
+        if is_independent_at(g, monomials, point, p):
             return ("none", tuple([(c, 1) for c in point]))
-    for p in kept_base(g, (), n):
-        if as_number(p) is None:
-            return ("some", p, UNIT)
-    return determinant_paper(g, monomials)
+    for q in kept_base(g, (), n):
+        if as_number(q) is None:
+            return ("some", q, UNIT)
+    return determinant_paper(g, monomials, p)
 
 
-def determinant_paper(g, monomials):
-    """The paper of a kept fraction made of determinants, where that of all monomials is 0."""
+def determinant_paper(g, monomials, prime):
+    """The paper of a kept fraction made of determinants, where that of all monomials is 0 at all points seen."""
     point = little_points(len(g))[-1]
     count = 2
-    while is_independent_at(g, monomials[:count], point):
+    while count < len(monomials) and is_independent_at(g, monomials[:count], point, prime):
         count += 1
     rows = [[((monomial, ONE),) for monomial in monomials[:count]]]
     for _ in range(count - 2):
         rows.append([along(g, p) for p in rows[-1]])
     minors = minors_of(rows, count, MOST_PAIRS)
     below = minors[count - 1]
-    found = [(len(p), k) for k, p in enumerate(minors[:-1]) if p and not alike(p, below)]
+    found = [(len(p), k) for k, p in enumerate(minors[:-1]) if p and below and not alike(p, below)]
     for _, k in sorted(found):
         p, q = without_common(minors[k], below)
         if is_kept_quotient(g, p, q):

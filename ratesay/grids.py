@@ -8,9 +8,10 @@ twice the amount of each coefficient, N itself is 0.
 """
 
 from ratesay.errors import TooMany
+from ratesay.linear import turned
 from ratesay.primes import Primes
 from ratesay.ratios import integer_power
-from ratesay.samples import Sample, fixed_value, turned
+from ratesay.samples import Sample, fixed_value
 from ratesay.sizes import WHOLE
 
 # Points are taken so many at once.
@@ -107,10 +108,10 @@ def is_zero_on(model, f, size, m, seed):
 
 def is_zero_by_grid(model, f, size):
     """Whether a polynomial, whose value has some size, is 0 at the general run."""
-    primes = Primes()
+    primes = Primes(0)
     seed = 0
     while True:
-        p = primes.next()
+        p = primes.another()
         seed += 1
         try:
             return is_zero_on(model, f, size, modulus_above(p, 2 * size[1]), seed)

@@ -1,12 +1,13 @@
 """All laws, up to a degree, of the functions of a told system."""
 
-from ratesay.closing import MOST_MONOMIALS, closed_list, law_space
+from ratesay.closing import MOST_MONOMIALS, closed_list, law_space, series_rows
 from ratesay.errors import TooMany
 from ratesay.explicits import check_to, check_told, letters_in, names_in
 from ratesay.flows import Flow, ModularFlow
 from ratesay.forms import is_count
-from ratesay.linear import EXPONENTS, Echelon, prime_of
+from ratesay.linear import BITS, Echelon, kernel
 from ratesay.monomials import count_to, degree_of, is_told_base, monomials_to
+from ratesay.primes import Primes
 from ratesay.timed import are_own, is_closed_list
 
 MOST_DEGREE = 4
@@ -40,21 +41,35 @@ def laws_to(T, d):
     return found_laws(T, d)[0]
 
 
-def power_of_rank(T, d, rank):
-    """The least power of t up to which the monomials of degree at most d have so many independent functions.
+def seen_power(T, d, rank):
+    """The least power of t up to which the functions have so many independent ones modulo some prime, or None.
 
-    None if it is above the bound.
+    The functions are those of the monomials of degree at most d; what is independent modulo a prime surely is.
     """
     monomials = monomials_to(letters_in(T[0]), d)
-    p = prime_of(EXPONENTS[0])
-    flow = ModularFlow(T, p)
-    echelon = Echelon(p)
-    for k in range(MOST_POWER + 1):
-        flow.reach(k)
-        echelon.take({column: flow.part(monomial, k) for column, monomial in enumerate(monomials)})
-        if len(echelon.rows) == rank:
-            return k
-    return None
+    primes = Primes(BITS)
+    while True:
+        try:
+            flow = ModularFlow(T, primes.another())
+            echelon = Echelon(flow.p)
+            for k in range(MOST_POWER + 1):
+                flow.reach(k)
+                echelon.take({column: flow.part(monomial, k) for column, monomial in enumerate(monomials)})
+                if len(echelon.rows) == rank:
+                    return k
+            return None
+        except TooMany:
+            # The prime divides what is divided by; there are others.
+            pass
+
+
+def has_rank(T, d, rank, power):
+    """Whether up to a power of t there are at least so many independent functions of monomials of degree at most d."""
+    seen = seen_power(T, d, rank)
+    if seen is not None and seen <= power:
+        return True
+    monomials = monomials_to(letters_in(T[0]), d)
+    return len(monomials) - len(kernel(series_rows(T, monomials, power), len(monomials))) >= rank
 
 
 def laws_paper(T, d):
@@ -62,9 +77,12 @@ def laws_paper(T, d):
     check_told(T)
     check_to(d, 1, MOST_DEGREE)
     base, triple = found_laws(T, d)
-    power = power_of_rank(T, d, count_to(len(T[0]), d) - len(base))
+    rank = count_to(len(T[0]), d) - len(base)
+    power = seen_power(T, d, rank)
     if power is None:
-        raise TooMany()
+        power = MOST_POWER
+        if not has_rank(T, d, rank, power):
+            raise TooMany()
     return ("laws", base, triple, power)
 
 
@@ -92,5 +110,5 @@ def is_laws_paper(T, d, value):
             return False
     elif not is_closed_list(T, triple) or [p for p in base if p not in triple[0]]:
         return False
-    found = power_of_rank(T, d, count_to(len(T[0]), d) - len(base))
-    return found is not None and found <= power
+    # There are not more, as the functions of the base are 0.
+    return has_rank(T, d, count_to(len(T[0]), d) - len(base), power)

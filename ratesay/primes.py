@@ -3,9 +3,10 @@
 from math import isqrt
 
 # The exponents of Mersenne primes: fractions with more digits ask for greater ones.
-EXPONENTS = (61, 89, 107, 127, 521, 607, 1279, 2203, 2281, 3217, 4253, 4423, 9689, 9941, 11213, 19937, 21701, 23209, 44497)
+EXPONENTS = (61, 89, 107, 127, 521, 607, 1279, 2203, 2281, 3217, 4253, 4423, 9689, 9941, 11213, 19937, 21701, 44497)
 # Little primes are looked for from here on; they are as many as are asked for.
 LEAST = 1000000007
+MOST_GREAT = 6
 
 
 def great_primes(bits):
@@ -32,13 +33,13 @@ def is_prime(n):
 
 
 class Primes:
-    """Tells one prime after the other, without an end."""
+    """Tells one prime after the other, without an end: some great ones with at least so many bits go first."""
 
-    def __init__(self):
-        self.great = great_primes(0)[:10]
+    def __init__(self, bits):
+        self.great = great_primes(bits)[:MOST_GREAT]
         self.last = LEAST
 
-    def next(self):
+    def another(self):
         """The next prime."""
         if self.great:
             return self.great.pop(0)

@@ -40,11 +40,11 @@ def are_finite_rows(model, value):
 
 def some_slopes(model):
     """The list of the partial derivatives at some points."""
-    primes = Primes()
+    primes = Primes(0)
     found = []
     for seed in range(TRIED):
         try:
-            found.append(Slopes(model, seed, primes.next()))
+            found.append(Slopes(model, seed, primes.another()))
         except TooMany:
             # The prime divides what is divided by; there are others.
             pass

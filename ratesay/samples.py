@@ -6,7 +6,7 @@ What is not 0 there is not 0; what is 0 there may be 0 or not.
 from math import factorial
 
 from ratesay.errors import TooMany
-from ratesay.linear import inverse_modulo
+from ratesay.linear import turned
 from ratesay.primes import divides_none, great_primes
 
 FURTHEST = 1000
@@ -23,14 +23,6 @@ def fixed_value(seed, place, k, p):
     # So many squares leave no relation of a low degree between the values for many seeds.
     for _ in range(ROUNDS):
         found = (found * found + BASE) % p
-    return found
-
-
-def turned(n, p):
-    """1 / n modulo a prime or a power of one; TooMany if there is none."""
-    found = inverse_modulo(n, p)
-    if found * n % p != 1:
-        raise TooMany()
     return found
 
 

@@ -5,13 +5,13 @@ if it has as many free letters: then nothing else is 0 at its solutions.
 """
 
 from ratesay.errors import TooMany
-from ratesay.linear import Echelon
+from ratesay.linear import Echelon, turned
 from ratesay.members import members_of
 from ratesay.models import names_in
 from ratesay.polynomials import letters_of, partial
 from ratesay.primes import Primes
 from ratesay.rankings import places_of
-from ratesay.samples import Sample, turned
+from ratesay.samples import Sample
 
 
 def orders_told(members):
@@ -46,13 +46,13 @@ def is_case_of_run(model, ranking, case):
     if sorted(free_names(model, members)) == sorted(model[2]):
         # Over the inputs there are as many free letters as states and parameters.
         return True
-    primes = Primes()
+    primes = Primes(0)
     seed = 0
     found = None
     while found is None:
         seed += 1
         try:
-            found = told_at_point(model, members, case, Sample(model, seed, primes.next(), {}))
+            found = told_at_point(model, members, case, Sample(model, seed, primes.another(), {}))
         except TooMany:
             # Something is divided by that is 0 at this point; there are others.
             pass

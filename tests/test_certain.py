@@ -23,7 +23,7 @@ from ratesay.texts import read, text_of
 from ratesay.triangles import leaders_of
 from ratesay.wide import is_case_of_run, may_be_general
 from tests.helpers import polys, random_polynomial, rng_of
-from tests.test_generic import CHAIN, GIVEN, GROWTH, PUSHED, SLOPED, SQUARE, STEADY, light_model
+from tests.test_generic import GIVEN, GROWTH, PUSHED, SLOPED, SQUARE, STEADY, light_model
 from tests.test_models import SMALL, WHOLE, told
 
 PRIMES = [2 ** 61 - 1, 2 ** 89 - 1, 2 ** 107 - 1, 2 ** 127 - 1]
@@ -39,9 +39,9 @@ def still(text):
 def points_of(model, count):
     """The values of x at the points that are tried first."""
     found = []
-    primes = Primes()
+    primes = Primes(0)
     for seed in range(count):
-        p = primes.next()
+        p = primes.another()
         found.append((Sample(model, seed, p, {}).worth(("x", 0)), p))
     return found
 
@@ -50,8 +50,8 @@ class PrimesTest(unittest.TestCase):
     def test_primes(self):
         self.assertEqual(great_primes(0), [2 ** e - 1 for e in EXPONENTS])
         self.assertEqual(great_primes(128)[0], 2 ** 521 - 1)
-        primes = Primes()
-        found = [primes.next() for _ in range(14)]
+        primes = Primes(0)
+        found = [primes.another() for _ in range(14)]
         self.assertEqual(len(set(found)), 14)
         for p in found:
             self.assertEqual(pow(3, p - 1, p), 1)
@@ -64,7 +64,7 @@ class PrimesTest(unittest.TestCase):
 class ZeroTest(unittest.TestCase):
     def test_known_ones(self):
         rng = rng_of(90)
-        for model in (GROWTH, SQUARE, CHAIN, PUSHED, STEADY, SLOPED, GIVEN, SMALL, WHOLE):
+        for model in (GROWTH, SQUARE, PUSHED, STEADY, SLOPED, GIVEN, SMALL, WHOLE):
             ranking = input_output_ranking(model)
             names = [name for block in ranking for name in block]
             fs = [*system_of(model)[0], *general_case(model, ranking)[0][0]]
@@ -188,7 +188,7 @@ class GeneralCaseTest(unittest.TestCase):
                 self.assertGreater(n, 2 ** 127)
 
     def test_equations_are_led_away(self):
-        for model in (CHAIN, PUSHED, SQUARE):
+        for model in (GIVEN, PUSHED, SQUARE):
             ranking = input_output_ranking(model)
             places = places_of(ranking)
             members = members_of(general_case(model, ranking)[0][0], places)
@@ -294,7 +294,7 @@ class RankTest(unittest.TestCase):
             self.assertIsNone(is_observed(one, z, ("finite", s, paper[2])))
         two = (told(x=("p*q - p^2", "-8 - w*x + x"), w=("1 + 4*q*w + 3*x", "9 + 5*p")), ("p", "q"), (), told(y="-3*w*x"), ())
         self.assertEqual(is_observed(two, "x", observed(two, "x")), "finite")
-        three = (told(x=("2 - p*w", "3 + x"), w="p*x"), ("p", "q", "r"), (), told(y=("q*x", "r + w")), ())
+        three = (told(x=("2 - p*w", "x"), w="p*x"), ("p", "q", "r"), (), told(y=("q*x", "r")), ())
         for z in ("x", "p", "q"):
             paper = observed(three, z)
             self.assertEqual(is_observed(three, z, paper), paper[0])
