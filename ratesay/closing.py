@@ -30,9 +30,21 @@ MOST_MONOMIALS = 130
 MOST_DEGREE = 6
 
 
+def quick_list(T, fs):
+    """A closed list of a told system with some polynomials among its members, if one is found at once, or None."""
+    for way in (resting_list, common_list, spanned_list):
+        found = way(T, fs)
+        if found is not None:
+            return found
+    return None
+
+
 def closed_list(T, fs):
     """A closed list of a told system with some polynomials among its members, None if none is found."""
-    for way in (resting_list, common_list, spanned_list, divided_list, multiple_list, list_of_laws):
+    found = quick_list(T, fs)
+    if found is not None:
+        return found
+    for way in (divided_list, multiple_list, list_of_laws):
         found = way(T, fs)
         if found is not None:
             return found

@@ -5,6 +5,7 @@ from ratesay.certain import is_long_question, is_seen, is_zero_at_run
 from ratesay.errors import BadOutputs, BadRanking, TooGreat, TooMany
 from ratesay.homes import is_home
 from ratesay.homing import is_led_away
+from ratesay.irreducible import is_seen_irreducible
 from ratesay.light import is_light
 from ratesay.members import members_of
 from ratesay.models import input_output_ranking, names_in, ranking_for, ranking_over_parameters, system_of
@@ -75,6 +76,9 @@ def output_equation(model):
             p = triangle.equation(at)
             if p is not None:
                 p = primitive(p)[1]
+                # What is found by values is the least relation, what elimination leaves may have factors.
+                if not triangle.is_least(at) and not is_seen_irreducible(p, v):
+                    raise TooMany()
                 check_zero(model, p, ranking)
                 return p
     raise TooMany()

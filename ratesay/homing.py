@@ -7,11 +7,18 @@ from ratesay.rankings import key_of
 from ratesay.remainders import letter_power
 from ratesay.treesteps import MOST_WORK, Budget, rate_work
 
+RATES = 0
+FACTORS = 1
+
 
 class Homing:
-    """Steps with the equations of a case; the work of all of them is counted if it is bounded."""
+    """Steps with the equations of a case; the work of all of them is counted if it is bounded.
 
-    def __init__(self, members, places, is_bounded):
+    The way tells which letter goes first where factors are needed.
+    """
+
+    def __init__(self, members, places, is_bounded, way):
+        self.way = way
         self.members = members
         self.places = places
         self.numbers = {member.leader[0]: i for i, member in enumerate(members)}
@@ -65,8 +72,11 @@ class Homing:
                 return self.lowered(g, row, 0, q)
         return None
 
-    def lightest(self, g, rows):
-        """The row by which g is lowered with the least factors."""
+    def chosen(self, g, rows):
+        """The row by which g is lowered: rates go first, or what asks for the least factors."""
+        if self.way == RATES:
+            rates = [row for row in rows if row[3]]
+            return rates[0] if rates else rows[0]
         found = []
         for k, (_, v, i, j) in enumerate(rows):
             found.append((degree(g, v) * len(self.members[i].head(j)), k))
@@ -80,7 +90,7 @@ class Homing:
         while rows:
             low = self.free_step(g, rows)
             if low is None:
-                row = self.lightest(g, rows)
+                row = self.chosen(g, rows)
                 low = self.lowered(g, row, 1, coefficients(g, row[1])[-1])
             g = low
             rows = self.reducible(g)
@@ -89,7 +99,15 @@ class Homing:
 
 def home_steps(members, places, equations):
     """The tuple of the steps that lead each equation to 0; None if that is beyond the bounds."""
-    homing = Homing(members, places, True)
+    for way in (RATES, FACTORS):
+        found = home_steps_by(Homing(members, places, True, way), equations)
+        if found is not None:
+            return found
+    return None
+
+
+def home_steps_by(homing, equations):
+    """The tuple of the steps that lead each equation to 0 in one way; None if that is beyond the bounds."""
     found = []
     try:
         for p in equations:
@@ -103,4 +121,4 @@ def home_steps(members, places, equations):
 
 def is_led_away(p, members, places):
     """Whether equations leave nothing of p, however much work that is."""
-    return not Homing(members, places, False).rest(p)
+    return not Homing(members, places, False, RATES).rest(p)

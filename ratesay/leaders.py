@@ -1,6 +1,6 @@
 """Which letters lead in the general case of a model, told by how letters change with the general run."""
 
-from ratesay.relations import Elimination
+from ratesay.relations import FIRST_ROOM, Elimination
 from ratesay.samples import BITS, Sample, fixed_value, prime_for
 from ratesay.variations import changed, varied
 
@@ -36,7 +36,7 @@ MOST_ORDER = 8
 
 def leaders_of(model, ranking):
     """The list of (leader, letters) of a model's general case, ascending: the leader hangs on these lower letters."""
-    elimination = Elimination(Directions(model))
+    elimination = Elimination(Directions(model), FIRST_ROOM)
     top = highest_order(model)
     found = []
     for n in range(len(ranking) - 1, -1, -1):

@@ -2,16 +2,19 @@
 
 from math import isqrt
 
-# The exponents of Mersenne primes: fractions with more digits ask for greater ones.
-EXPONENTS = (61, 89, 107, 127, 521, 607, 1279, 2203, 2281, 3217, 4253, 4423, 9689, 9941, 11213, 19937, 21701, 44497)
+# Pairs (e, k) with primes 2^e - k, all of the form 4 n + 3: fractions with more digits ask for greater ones.
+GREAT = (
+    (61, 1), (89, 1), (107, 1), (127, 1), (192, 237), (256, 189), (384, 317), (521, 1), (607, 1), (1279, 1), (2203, 1),
+    (2281, 1), (3217, 1), (4253, 1), (4423, 1), (9689, 1), (9941, 1), (11213, 1), (19937, 1), (21701, 1), (44497, 1),
+)
 # Little primes are looked for from here on; they are as many as are asked for.
 LEAST = 1000000007
 MOST_GREAT = 6
 
 
 def great_primes(bits):
-    """The list of the Mersenne primes told above with at least so many bits."""
-    return [(1 << exponent) - 1 for exponent in EXPONENTS if exponent >= bits]
+    """The list of the primes told above with at least so many bits."""
+    return [(1 << e) - k for e, k in GREAT if e >= bits]
 
 
 def divides_none(p, numbers):

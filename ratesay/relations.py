@@ -13,11 +13,13 @@ FIRST_SEED = 1000
 # The bits of the prime modulo which relations are looked for.
 COARSE = 61
 # Integers of relations with more digits than primes of so many bits tell are not looked for.
-FINE = (61, 127, 521, 1279, 2203, 4423)
+FINE = (61, 127, 256, 521, 1279, 2203, 4423)
 CHECKED = 521
 # What sums of so many products of residues ask for more, in bits.
 SPARE = 14
 FIRST_ROOM = 6
+# So many points more than monomials show a relation.
+FURTHER = 3
 # Searches end when they have seen so many monomials.
 MOST_SEEN = 20000
 
@@ -95,12 +97,13 @@ class Elimination:
     all of them is added at once.
     """
 
-    def __init__(self, source):
+    def __init__(self, source, room):
         self.source = source
         self.p = source.p
         self.digits = (2 * self.p.bit_length() + SPARE) // 4 + 1
         self.bits = 4 * self.digits
         self.room = 0
+        self.first_room = room
         self.things = []
         self.factors = []
         self.turns = []
@@ -120,7 +123,7 @@ class Elimination:
     def grow(self):
         """Makes room for further points."""
         old = self.room
-        self.room = old + old // 2 + FIRST_ROOM
+        self.room = old + old // 2 + self.first_room
         parts = []
         for thing, row, turn in zip(self.things, self.factors, self.turns):
             left = self.packed(self.source.worths(thing, self.room)[old:self.room])
@@ -236,7 +239,7 @@ class Search:
             self.seen += 1
             grade = self.grade(monomial)
             if grade not in self.eliminations:
-                self.eliminations[grade] = Elimination(self.source)
+                self.eliminations[grade] = Elimination(self.source, FIRST_ROOM)
             size = len(self.eliminations[grade].things)
             toil += size * size + 20 * size + 600
             found = self.eliminations[grade].take(monomial)
@@ -287,7 +290,7 @@ def fine_primes(model, p):
 
 def relation_modulo(points, letters, monomials):
     """The dict of the relation of the first one of some monomials with the others, which have none; or None."""
-    elimination = Elimination(Monomials(points, letters))
+    elimination = Elimination(Monomials(points, letters), len(monomials) + FURTHER)
     for monomial in monomials[1:]:
         if elimination.take(monomial) is not None:
             return None

@@ -1,6 +1,6 @@
 """Functions told by explicit equations and a start: their series, and which are 0 for all times."""
 
-from ratesay.closing import closed_list
+from ratesay.closing import closed_list, quick_list
 from ratesay.errors import BadPolynomial, TooMany
 from ratesay.explicits import (
     along,
@@ -15,17 +15,21 @@ from ratesay.explicits import (
     start_table,
     value_at,
 )
-from ratesay.flows import Flow
+from ratesay.flows import Flow, ModularFlow
 from ratesay.forms import is_count, is_pair
 from ratesay.monomials import count_to
 from ratesay.multiples import multipliers_of, multipliers_within
 from ratesay.packing import sum_of_products
 from ratesay.polynomials import UNIT, is_polynomial, less, times
+from ratesay.primes import great_primes
 from ratesay.ratios import ZERO
 
 MOST_RATES = 12
 MOST_POWER = 24
 MOST_ORDER = 40
+# Most functions that are not 0 have an order up to this.
+EARLY_ORDER = 10
+BITS = 127
 # What is not 0 up to this order is looked through in vain for a closed list.
 FURTHEST_ORDER = 80
 MOST_PAIRS = 3000
@@ -118,14 +122,44 @@ def is_closed(T, value):
     return is_closed_list(T, value)
 
 
-def zero_paper(T, f):
-    """A paper whether the function of an own polynomial is 0."""
-    flow = Flow(T)
-    k = flow.first_of(f, MOST_ORDER)
+def is_seen(T, f):
+    """Whether the function of an own polynomial is seen not to be 0, modulo a prime; False tells nothing."""
+    try:
+        flow = ModularFlow(T, great_primes(BITS)[0])
+        rows = flow.residues(f)
+    except TooMany:
+        # The prime divides what is divided by.
+        return False
+    for k in range(FURTHEST_ORDER + 1):
+        flow.reach(k)
+        if sum([n * flow.part(monomial, k) for monomial, n in rows]) % flow.p:
+            return True
+    return False
+
+
+def early_paper(T, f):
+    """A paper whether the function of an own polynomial is 0, if one is found at once, or None."""
+    k = Flow(T).first_of(f, EARLY_ORDER)
     if k is not None:
         return ("order", k)
     if not f:
         return ("zero", ((),), UNIT, (((),),))
+    found = None if is_seen(T, f) else quick_list(T, (f,))
+    return None if found is None else ("zero", *found)
+
+
+def zero_paper(T, f):
+    """A paper whether the function of an own polynomial is 0."""
+    found = early_paper(T, f)
+    return later_paper(T, f) if found is None else found
+
+
+def later_paper(T, f):
+    """A paper whether the function of an own polynomial is 0, if none is found at once."""
+    flow = Flow(T)
+    k = flow.first_of(f, MOST_ORDER)
+    if k is not None:
+        return ("order", k)
     if flow.first_of(f, FURTHEST_ORDER) is not None:
         raise TooMany()
     found = closed_list(T, (f,))
@@ -168,9 +202,12 @@ def is_same(T, f, h):
     check_own(T[0], f)
     check_own(T[0], h)
     f = less(f, h)
+    found = early_paper(T, f)
+    if found is not None:
+        return found[0] == "zero"
     if Flow(T).first_of(f, FURTHEST_ORDER) is not None:
         return False
-    return zero_paper(T, f)[0] == "zero"
+    return later_paper(T, f)[0] == "zero"
 
 
 def check_members(g, ps):

@@ -1,19 +1,28 @@
 """The equations of a general case: for each leader a least relation with lower letters."""
 
 from ratesay.descents import descended
+from ratesay.errors import TooMany
+from ratesay.fibers import Fiber, is_fixable, relation_by_fibers
 from ratesay.gradings import Grading
 from ratesay.leaders import leaders_of
+from ratesay.irreducible import is_seen_irreducible, is_seen_least
 from ratesay.models import names_in, system_of
 from ratesay.polynomials import degree
 from ratesay.rankings import highest, places_of
 from ratesay.relations import COARSE, PointSets, Search, written
+from ratesay.rows import divided, trimmed
 from ratesay.samples import prime_for
-from ratesay.weights import Line, divided, trimmed
+from ratesay.weights import Line
 
 # Relations with more monomials than these are not looked for.
 FEW = 200
 SOME = 420
 MANY = 850
+# Relations with more monomials are looked for at fixed values of a letter first.
+LOW = 160
+MOST_IN_FIBERS = 200
+# Relations with so many monomials are found at once.
+QUICK_LOOK = 40
 # So many further relations tell whether the first one is of the least degree.
 FURTHER = 3
 # What elimination may try at first, and where no relation is found.
@@ -52,12 +61,37 @@ class Finder:
     def least(self, lower, v, top, most):
         """A least relation of v, of a degree up to top, with lower letters, or None."""
         letters = [*lower, v]
-        return self.polynomial(letters, self.search(letters, top).next(most))
+        relation = self.search(letters, top).next(LOW if most == MANY else most)
+        if relation is None:
+            found = self.least_by_fibers(letters, top)
+            if found is not None:
+                return found
+            if most == MANY:
+                relation = self.search(letters, top).next(most)
+        return self.polynomial(letters, relation)
+
+    def least_by_fibers(self, letters, top):
+        """A relation of the last one of some letters, found at fixed values of another one, or None."""
+        places = [k for k, v in enumerate(letters[:-1]) if is_fixable(self.model, v)]
+        if len(letters) < 3 or not places:
+            return None
+        place = max([(self.weight(letters[k]), -k) for k in places])[1] * -1
+        rest = [*letters[:place], *letters[place + 1:]]
+        try:
+            fiber = Fiber(self.model, self.points.p, letters[place], 0)
+            search = Search(fiber, rest, {v: self.weight(v) for v in rest}, {v: () for v in rest}, top)
+            first = search.next(MOST_IN_FIBERS)
+            found = None if first is None else relation_by_fibers(self.model, letters, place, first)
+        except TooMany:
+            return None
+        return found if found is not None and self.sets.checked(found) else None
+
+    def first_relation(self, letters):
+        """The polynomial of the first relation of the last one of some letters, if it is a short one, or None."""
+        return self.polynomial(letters, self.search(letters, None).next(QUICK_LOOK))
 
     def relation(self, lower, others, v):
         """A relation of least degree of v with free lower letters and algebraic ones, or None."""
-        if not others:
-            return self.least(lower, v, None, MANY)
         letters = [*lower, *others]
         found = self.least(letters, v, 1, FEW)
         if found is not None:
@@ -117,6 +151,7 @@ class Triangle:
         self.leaders = leaders_of(model, ranking)
         self.finder = Finder(model)
         self.found = {}
+        self.firsts = {}
         self.merged = {}
         self.known = self.descent(self.places, QUICK)
         self.tried = self.known != {}
@@ -176,15 +211,41 @@ class Triangle:
         if p is None:
             p = self.borrowed(v)
         if p is not None and (not others or degree(p, v) == 1):
-            # Where all lower letters are free, what elimination leaves is of the least degree.
-            if len(p) <= SHORT:
+            if len(p) <= SHORT and (others or is_seen_irreducible(p, v)):
                 return p
-            q = self.finder.least([*lower, *others], v, degree(p, v), min(MANY, 40 + 2 * len(p)))
-            return p if q is None or len(q) > len(p) else q
-        q = self.finder.relation(lower, others, v)
+            q = self.finder.least([*lower, *others], v, degree(p, v), min(MANY - 1, 40 + 2 * len(p)))
+            if q is None or others and len(q) > len(p):
+                return p
+        else:
+            q = self.least_relation(at, lower, others)
         if q is None:
             self.try_again()
-        return self.known.get(v) if q is None else q
+            return self.known.get(v)
+        # Where all lower letters are free, the first relation is the one that divides all others.
+        self.firsts[at] = not others
+        return q
+
+    def least_relation(self, at, lower, others):
+        """A relation of the leader of a place, of the least degree, with some letters; or None."""
+        v = self.leaders[at][0]
+        if not others:
+            return self.finder.least(lower, v, None, MANY)
+        p = self.finder.first_relation([*lower, *others, v])
+        if p is not None and self.is_seen_least(at, p, others):
+            return p
+        return self.finder.relation(lower, others, v)
+
+    def is_seen_least(self, at, p, others):
+        """Whether no relation of the leader of a place with free letters and others is seen to have a lower degree."""
+        v = self.leaders[at][0]
+        if degree(p, v) == 1:
+            return True
+        lower = [(w, self.equation(k)) for k, (w, _) in enumerate(self.leaders[:at]) if w in others]
+        return None not in [q for _, q in lower] and is_seen_least(p, v, lower)
+
+    def is_least(self, at):
+        """Whether the equation of the leader of a place is known to be the least one, if it is one."""
+        return self.firsts.get(at, False)
 
     def try_again(self):
         """Lets elimination take longer, once."""
@@ -204,6 +265,9 @@ class Triangle:
         if below == others or self.places[v[0]][0] == lowest:
             return p
         top = degree(p, v)
+        first = self.finder.first_relation([*lower, *below, v])
+        if first is not None and degree(first, v) > top and self.is_seen_least(at, first, below):
+            return p
         q = self.finder.least([*lower, *below], v, top, SOME)
         return q if q is not None and degree(q, v) == top else p
 

@@ -14,7 +14,7 @@ from ratesay.members import members_of
 from ratesay.models import holds_in_runs, input_output_ranking, ranking_for, system_of
 from ratesay.observed import is_observed, observed
 from ratesay.polynomials import UNIT, letters_of, plus, scaled, times
-from ratesay.primes import EXPONENTS, Primes, great_primes
+from ratesay.primes import GREAT as GREATEST, Primes, great_primes
 from ratesay.rankings import places_of
 from ratesay.ranktest import bracket, is_free
 from ratesay.samples import Sample, fixed_value
@@ -48,8 +48,10 @@ def points_of(model, count):
 
 class PrimesTest(unittest.TestCase):
     def test_primes(self):
-        self.assertEqual(great_primes(0), [2 ** e - 1 for e in EXPONENTS])
-        self.assertEqual(great_primes(128)[0], 2 ** 521 - 1)
+        self.assertEqual(great_primes(0), [2 ** e - k for e, k in GREATEST])
+        self.assertEqual(great_primes(128)[0], 2 ** 192 - 237)
+        for p in great_primes(0):
+            self.assertEqual(p % 4, 3)
         primes = Primes(0)
         found = [primes.another() for _ in range(14)]
         self.assertEqual(len(set(found)), 14)
