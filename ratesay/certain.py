@@ -2,12 +2,13 @@
 
 from ratesay.casefinding import found_case
 from ratesay.errors import TooMany
+from ratesay.generalruns import Run
 from ratesay.grids import count_points, is_zero_by_grid
 from ratesay.homing import is_led_away
 from ratesay.members import members_of
 from ratesay.primes import Primes
 from ratesay.rankings import places_of
-from ratesay.samples import Sample
+from ratesay.samples import Sample, Setting
 from ratesay.sizes import Sizes
 
 # So many points are tried ahead of what tells surely.
@@ -15,6 +16,8 @@ TRIED = 3
 # About as many steps as take some seconds.
 MOST_STEPS = 20000000
 POINT_STEPS = 200
+# With more points it is better to work out the value.
+MOST_POINTS = 1000000
 WORD = 240
 
 
@@ -23,7 +26,7 @@ def is_seen(model, f):
     primes = Primes(0)
     for seed in range(TRIED):
         try:
-            if Sample(model, seed, primes.another(), {}).value(f):
+            if Sample(Setting(model, primes.another()), seed, {}).value(f):
                 return True
         except TooMany:
             # The prime divides what is divided by; there are others.
@@ -52,11 +55,14 @@ def is_zero_at_run(model, f, ranking):
     size = Sizes(model).value(f)
     if size is None:
         return True
-    if grid_steps(f, size) > MOST_STEPS:
-        found = told_by_case(model, f, ranking)
-        if found is not None:
-            return found
-    return is_zero_by_grid(model, f, size)
+    if grid_steps(f, size) <= MOST_STEPS:
+        return is_zero_by_grid(model, f, size)
+    found = told_by_case(model, f, ranking)
+    if found is not None:
+        return found
+    if count_points(size) <= MOST_POINTS:
+        return is_zero_by_grid(model, f, size)
+    return not Run(model).value(f)[0]
 
 
 def told_by_case(model, f, ranking):

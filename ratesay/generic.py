@@ -121,7 +121,7 @@ def check_zero(model, f, ranking):
     could deceive as many points as a relation is found by.
     """
     if is_long_question(model, f):
-        if not is_light(model):
+        if not is_light(model) or is_seen(model, f):
             raise TooMany()
     elif not is_zero_at_run(model, f, ranking):
         raise TooMany()

@@ -11,7 +11,7 @@ from ratesay.errors import TooMany
 from ratesay.linear import turned
 from ratesay.primes import Primes
 from ratesay.ratios import integer_power
-from ratesay.samples import Sample, fixed_value
+from ratesay.samples import Sample, Setting, fixed_value
 from ratesay.sizes import WHOLE
 
 # Points are taken so many at once.
@@ -96,11 +96,12 @@ def is_zero_on(model, f, size, m, seed):
     letters = letters_in(size)
     bases = [fixed_value(seed, place, 0, m) for place, _ in enumerate(letters)]
     points = exponents_in(size)
+    setting = Setting(model, m)
     for start in range(0, len(points), CHUNK):
         samples = []
         for row in points[start:start + CHUNK]:
             given = {v: (base + e) % m for v, base, e in zip(letters, bases, row)}
-            samples.append(Sample(model, seed, m, given))
+            samples.append(Sample(setting, seed, given))
         if not Chunk(samples, m).is_zero(f):
             return False
     return True

@@ -1,7 +1,7 @@
 """Which letters lead in the general case of a model, told by how letters change with the general run."""
 
 from ratesay.relations import FIRST_ROOM, Elimination
-from ratesay.samples import BITS, Sample, fixed_value, prime_for
+from ratesay.samples import BITS, Sample, Setting, fixed_value, prime_for
 from ratesay.variations import changed, varied
 
 
@@ -12,6 +12,7 @@ class Directions:
         states, parameters, inputs, _, _ = model
         self.model = varied(model, True)
         self.p = prime_for(self.model, BITS)
+        self.setting = Setting(self.model, self.p)
         self.own = [x for x, _ in states] + list(parameters)
         self.inputs = inputs
         self.samples = []
@@ -26,7 +27,7 @@ class Directions:
             for place, name in enumerate(self.inputs):
                 for order in range(MOST_ORDER + 1):
                     given[(changed(name), order)] = fixed_value(seed, place, order + 1, self.p)
-            self.samples.append(Sample(self.model, 0, self.p, given))
+            self.samples.append(Sample(self.setting, 0, given))
         return [sample.worth((changed(v[0]), v[1])) for sample in self.samples[:count]]
 
 

@@ -31,6 +31,8 @@ def inverse_modulo(n, p):
 
 def turned(n, p):
     """1 / n modulo a prime or a power of one; TooMany if there is none."""
+    if n == 1:
+        return 1
     found = inverse_modulo(n, p)
     if found * n % p != 1:
         raise TooMany()

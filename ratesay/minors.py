@@ -5,10 +5,11 @@ from math import gcd, lcm
 from ratesay.errors import TooMany
 from ratesay.factors import factors_of
 from ratesay.packing import sum_of_products
-from ratesay.polynomials import UNIT, as_number, quotient, raised, scaled, times
+from ratesay.polynomials import UNIT, as_number, primitive, quotient, raised, scaled, times
 from ratesay.ratios import reduced
 
 MOST_PAIRS = 40000
+MOST_PARTED = 60
 # About as many products as take half a minute.
 MOST_PRODUCTS = 60000000
 
@@ -43,13 +44,25 @@ def minors_of(rows, count, most):
     return [table.get(tuple([k for k in range(count) if k != column]), ()) for column in range(count)]
 
 
+def easy_factors(p):
+    """The factors of a polynomial, itself if they are not easily found."""
+    if not p:
+        return []
+    if len(p) > MOST_PARTED:
+        return [primitive(p)[1]]
+    try:
+        return factors_of(p)
+    except TooMany:
+        return [primitive(p)[1]]
+
+
 class Parts:
     """Known factors that are taken out of polynomials."""
 
     def __init__(self, polynomials):
         self.factors = []
         for p in polynomials:
-            for q in factors_of(p) if p else ():
+            for q in easy_factors(p):
                 if as_number(q) is None and q not in self.factors:
                     self.factors.append(q)
 

@@ -6,7 +6,7 @@ Monomials are tuples of exponents here; the last letter is the one for which a r
 from ratesay.linear import fraction_of, inverse_modulo
 from ratesay.polynomials import primitive
 from ratesay.primes import divides_none, great_primes
-from ratesay.samples import Sample, integers_of, prime_for
+from ratesay.samples import Sample, Setting, integers_of, prime_for
 
 # The points of relations are others than those of oracles.
 FIRST_SEED = 1000
@@ -28,14 +28,14 @@ class Points:
     """The values of letters at many points, modulo one prime."""
 
     def __init__(self, model, p):
-        self.model = model
+        self.setting = Setting(model, p)
         self.p = p
         self.samples = []
 
     def worth(self, k, v):
         """The value of a letter at the k-th point."""
         while len(self.samples) <= k:
-            self.samples.append(Sample(self.model, FIRST_SEED + len(self.samples), self.p, {}))
+            self.samples.append(Sample(self.setting, FIRST_SEED + len(self.samples), {}))
         return self.samples[k].worth(v)
 
 
@@ -45,7 +45,7 @@ class PointSets:
     def __init__(self, model):
         self.model = model
         self.found = {}
-        self.check = Sample(model, 0, prime_for(model, CHECKED), {})
+        self.check = Sample(Setting(model, prime_for(model, CHECKED)), 0, {})
 
     def points(self, p):
         """The points modulo a prime."""

@@ -7,7 +7,9 @@ from math import factorial
 
 from ratesay.errors import TooMany
 from ratesay.linear import turned
+from ratesay.polynomials import as_number, scaled
 from ratesay.primes import divides_none, great_primes
+from ratesay.ratios import inverted
 
 FURTHEST = 1000
 # Sums and powers of such an integer modulo a prime are as good as any numbers.
@@ -52,25 +54,57 @@ def prime_for(model, least):
     raise TooMany()
 
 
+class Setting:
+    """A model modulo a prime or a power of one: what all points of it have in common.
+
+    TooMany is raised where something is divided by that the prime divides.
+    """
+
+    def __init__(self, model, p):
+        states, self.parameters, self.inputs, outputs, quantities = model
+        self.p = p
+        self.states = [x for x, _ in states]
+        self.rows = {name: self.fraction(pair) for name, pair in [*states, *outputs, *quantities]}
+        self.places = {name: k for k, name in enumerate([*self.states, *self.parameters, *self.inputs])}
+        self.turns = {}
+
+    def fraction(self, pair):
+        """The pair of lists of (monomial, residue) of n and d; None for d if it is a number, n being divided by it."""
+        n, d = pair
+        f = as_number(d)
+        if f is None:
+            return (self.ordered(n), self.ordered(d))
+        return (self.ordered(scaled(n, inverted(f))), None)
+
+    def ordered(self, q):
+        """The list of (monomial, residue) of a polynomial, the letters of parameters first."""
+        found = []
+        for monomial, n in residues(q, self.p):
+            first = [row for row in monomial if row[0][0] in self.parameters]
+            found.append((tuple([*first, *[row for row in monomial if row not in first]]), n))
+        return found
+
+    def turn(self, n):
+        """1 / a little integer."""
+        if n not in self.turns:
+            self.turns[n] = turned(n, self.p)
+        return self.turns[n]
+
+
 class Sample:
     """The values of letters at one point, as far as they were asked.
 
     Series of the names are kept as lists of their coefficients. given tells coefficients that are not the fixed ones.
-    TooMany is raised where something that is 0 modulo the prime p is divided by.
     """
 
-    def __init__(self, model, seed, p, given):
-        states, parameters, inputs, outputs, quantities = model
-        self.p = p
+    def __init__(self, setting, seed, given):
+        self.setting = setting
+        self.p = setting.p
         self.seed = seed
         self.given = given
-        self.slopes = {x: (residues(n, self.p), residues(d, self.p)) for x, (n, d) in states}
-        self.told = {z: (residues(n, self.p), residues(d, self.p)) for z, (n, d) in [*outputs, *quantities]}
-        self.places = {name: k for k, name in enumerate([*self.slopes, *parameters, *inputs])}
-        self.inputs = inputs
-        self.numbers = {name: [self.chosen(name, 0)] for name in [*self.slopes, *parameters]}
+        self.numbers = {}
         self.products = {}
-        self.quotients = {name: [] for name in [*self.slopes, *self.told]}
+        self.quotients = {}
         self.worths = {}
         self.turns = {}
 
@@ -78,18 +112,24 @@ class Sample:
         """The coefficient of t to the power k where it may be chosen."""
         if (name, k) in self.given:
             return self.given[(name, k)]
-        return fixed_value(self.seed, self.places[name], k, self.p)
+        return fixed_value(self.seed, self.setting.places[name], k, self.p)
+
+    def first_number(self, name):
+        """The list that begins with the value of a state or a parameter."""
+        if name not in self.numbers:
+            self.numbers[name] = [self.chosen(name, 0)]
+        return self.numbers[name]
 
     def number(self, name, k):
         """The coefficient of t to the power k of a state, a parameter or an input."""
-        if name in self.inputs:
+        if name in self.setting.inputs:
             return self.chosen(name, k)
-        if name not in self.slopes:
-            return 0 if k else self.numbers[name][0]
-        row = self.numbers[name]
+        row = self.first_number(name)
+        if k and name in self.setting.parameters:
+            return 0
         while len(row) <= k:
             at = len(row)
-            row.append(self.quotient(name, at - 1) * turned(at, self.p) % self.p)
+            row.append(self.quotient(name, at - 1) * self.setting.turn(at) % self.p)
         return row[k]
 
     def part(self, monomial, k):
@@ -99,8 +139,10 @@ class Sample:
         (name, _), e = monomial[0]
         if len(monomial) == 1 and e == 1:
             return self.number(name, k)
-        row = self.products.setdefault(monomial, [])
         rest = ((monomial[0][0], e - 1), *monomial[1:]) if e > 1 else monomial[1:]
+        if name in self.setting.parameters:
+            return self.first_number(name)[0] * self.part(rest, k) % self.p
+        row = self.products.setdefault(monomial, [])
         while len(row) <= k:
             at = len(row)
             row.append(sum([self.number(name, i) * self.part(rest, at - i) for i in range(at + 1)]) % self.p)
@@ -112,28 +154,26 @@ class Sample:
 
     def quotient(self, name, k):
         """The coefficient of t to the power k of the n / d of a state, an output or a quantity."""
-        high, low = self.slopes[name] if name in self.slopes else self.told[name]
-        row = self.quotients[name]
+        high, low = self.setting.rows[name]
+        if low is None:
+            return self.coefficient(high, k)
+        row = self.quotients.setdefault(name, [])
+        if not row:
+            self.turns[name] = turned(self.coefficient(low, 0), self.p)
         while len(row) <= k:
             at = len(row)
             worth = self.coefficient(high, at) - sum([row[i] * self.coefficient(low, at - i) for i in range(at)])
-            row.append(worth * self.turn(name) % self.p)
+            row.append(worth * self.turns[name] % self.p)
         return row[k]
-
-    def turn(self, name):
-        """1 / the value of the d of a state, an output or a quantity."""
-        if name not in self.turns:
-            _, low = self.slopes[name] if name in self.slopes else self.told[name]
-            self.turns[name] = turned(self.coefficient(low, 0), self.p)
-        return self.turns[name]
 
     def worth(self, v):
         """The value of a letter."""
         if v not in self.worths:
             name, k = v
-            found = self.quotient(name, k) if name in self.told else self.number(name, k)
+            own = name in self.setting.places
+            found = self.number(name, k) if own else self.quotient(name, k)
             # No series goes so far, so a high rate of an input may have any value.
-            high = name in self.inputs and k > FURTHEST
+            high = own and name in self.setting.inputs and k > FURTHEST
             self.worths[v] = found if high else found * factorial(k) % self.p
         return self.worths[v]
 
@@ -167,8 +207,8 @@ class Oracle:
     """Tells of polynomials whether they are 0 at two points of a model: what is not 0 there is not 0."""
 
     def __init__(self, model):
-        p = prime_for(model, BITS)
-        self.samples = [Sample(model, seed, p, {}) for seed in range(POINTS)]
+        setting = Setting(model, prime_for(model, BITS))
+        self.samples = [Sample(setting, seed, {}) for seed in range(POINTS)]
 
     def is_zero(self, q):
         """Whether a polynomial is 0 at both points."""

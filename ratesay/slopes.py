@@ -2,7 +2,7 @@
 
 from ratesay.packing import sum_of_products
 from ratesay.polynomials import partial, scaled, times
-from ratesay.samples import Sample
+from ratesay.samples import Sample, Setting
 from ratesay.variations import changed, varied
 
 
@@ -22,12 +22,12 @@ class Slopes:
 
     def __init__(self, model, seed, p):
         names = own_names(model)
-        whole = varied(model, False)
+        setting = Setting(varied(model, False), p)
         self.p = p
         self.samples = []
         for name in names:
             given = {(changed(other), 0): 1 if other == name else 0 for other in names}
-            self.samples.append(Sample(whole, seed, p, given))
+            self.samples.append(Sample(setting, seed, given))
 
     def row(self, v):
         """The list of the partial derivatives of a letter."""

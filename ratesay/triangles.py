@@ -2,7 +2,7 @@
 
 from ratesay.descents import descended
 from ratesay.errors import TooMany
-from ratesay.fibers import Fiber, is_fixable, relation_by_fibers
+from ratesay.fibers import first_fiber, is_fixable, is_given, relation_by_fibers
 from ratesay.gradings import Grading
 from ratesay.leaders import leaders_of
 from ratesay.irreducible import is_seen_irreducible, is_seen_least
@@ -18,9 +18,9 @@ from ratesay.weights import Line
 FEW = 200
 SOME = 420
 MANY = 850
-# Relations with more monomials are looked for at fixed values of a letter first.
+# Relations with more monomials are looked for at fixed values of some letters first.
 LOW = 160
-MOST_IN_FIBERS = 200
+MOST_IN_FIBERS = (200, 100, 60)
 # Relations with so many monomials are found at once.
 QUICK_LOOK = 40
 # So many further relations tell whether the first one is of the least degree.
@@ -71,20 +71,30 @@ class Finder:
         return self.polynomial(letters, relation)
 
     def least_by_fibers(self, letters, top):
-        """A relation of the last one of some letters, found at fixed values of another one, or None."""
-        places = [k for k, v in enumerate(letters[:-1]) if is_fixable(self.model, v)]
-        if len(letters) < 3 or not places:
-            return None
-        place = max([(self.weight(letters[k]), -k) for k in places])[1] * -1
-        rest = [*letters[:place], *letters[place + 1:]]
-        try:
-            fiber = Fiber(self.model, self.points.p, letters[place], 0)
-            search = Search(fiber, rest, {v: self.weight(v) for v in rest}, {v: () for v in rest}, top)
-            first = search.next(MOST_IN_FIBERS)
-            found = None if first is None else relation_by_fibers(self.model, letters, place, first)
-        except TooMany:
-            return None
-        return found if found is not None and self.sets.checked(found) else None
+        """A relation of the last one of some letters, found at fixed values of others, or None."""
+        for fixed in self.choices_to_fix(letters[:-1]):
+            rest = [v for v in letters if v not in fixed]
+            try:
+                fiber = first_fiber(self.model, self.points.p, fixed)
+                search = Search(fiber, rest, {v: self.weight(v) for v in rest}, {v: () for v in rest}, top)
+                first = search.next(MOST_IN_FIBERS[len(fixed) - 1])
+                if first is not None:
+                    found = relation_by_fibers(self.model, letters, fixed, list(first))
+                    return found if found is not None and self.sets.checked(found) else None
+            except TooMany:
+                # Other letters may be fixed all the same.
+                pass
+        return None
+
+    def choices_to_fix(self, letters):
+        """Tuples of letters that may be fixed: more and more of them, those of outputs last."""
+        given = sorted([(-self.weight(v), v) for v in letters if is_given(self.model, v)])
+        others = [v for v in letters if is_fixable(self.model, v) and not is_given(self.model, v)]
+        last = [v for _, v in sorted([(-self.weight(v), v) for v in others])[:1]]
+        found = [tuple(last)]
+        for k in range(len(given)):
+            found.append((*[v for _, v in given[:k + 1]], *last))
+        return [fixed for fixed in found if fixed and len(fixed) < len(letters)][:len(MOST_IN_FIBERS)]
 
     def first_relation(self, letters):
         """The polynomial of the first relation of the last one of some letters, if it is a short one, or None."""

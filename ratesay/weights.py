@@ -1,7 +1,7 @@
 """The degrees of letters at the general run of a model, along a line: what relations between them are ordered by."""
 
 from ratesay.rows import fraction_with
-from ratesay.samples import BITS, Sample, fixed_value, prime_for
+from ratesay.samples import BITS, Sample, Setting, fixed_value, prime_for
 
 # A fraction with degrees whose sum is about so many is found by values at so many points.
 COUNTS = (14, 40, 90)
@@ -15,6 +15,7 @@ class Line:
         states, parameters, inputs, _, _ = model
         self.model = model
         self.p = prime_for(model, BITS)
+        self.setting = Setting(model, self.p)
         self.own = [(x, 0) for x, _ in states] + [(name, 0) for name in parameters]
         self.own.extend([(name, k) for name in inputs for k in range(orders + 1)])
         self.samples = []
@@ -27,7 +28,7 @@ class Line:
             for place, v in enumerate(self.own):
                 low, high = fixed_value(1, place, 0, self.p), fixed_value(2, place, 0, self.p)
                 given[v] = (low + t * high) % self.p
-            self.samples.append(Sample(self.model, 0, self.p, given))
+            self.samples.append(Sample(self.setting, 0, given))
         return self.samples[k]
 
     def degree(self, v):

@@ -11,7 +11,7 @@ from ratesay.models import names_in
 from ratesay.polynomials import letters_of, partial
 from ratesay.primes import Primes
 from ratesay.rankings import places_of
-from ratesay.samples import Sample
+from ratesay.samples import Sample, Setting
 
 
 def orders_told(members):
@@ -52,7 +52,7 @@ def is_case_of_run(model, ranking, case):
     while found is None:
         seed += 1
         try:
-            found = told_at_point(model, members, case, Sample(model, seed, primes.another(), {}))
+            found = told_at_point(model, members, case, Sample(Setting(model, primes.another()), seed, {}))
         except TooMany:
             # Something is divided by that is 0 at this point; there are others.
             pass

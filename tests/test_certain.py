@@ -17,7 +17,7 @@ from ratesay.polynomials import UNIT, letters_of, plus, scaled, times
 from ratesay.primes import GREAT as GREATEST, Primes, great_primes
 from ratesay.rankings import places_of
 from ratesay.ranktest import bracket, is_free
-from ratesay.samples import Sample, fixed_value
+from ratesay.samples import Sample, Setting, fixed_value
 from ratesay.sizes import Sizes
 from ratesay.texts import read, text_of
 from ratesay.triangles import leaders_of
@@ -42,7 +42,7 @@ def points_of(model, count):
     primes = Primes(0)
     for seed in range(count):
         p = primes.another()
-        found.append((Sample(model, seed, p, {}).worth(("x", 0)), p))
+        found.append((Sample(Setting(model, p), seed, {}).worth(("x", 0)), p))
     return found
 
 

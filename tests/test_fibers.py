@@ -4,13 +4,14 @@ import unittest
 from fractions import Fraction
 
 from ratesay.errors import TooMany
-from ratesay.fibers import Fiber, is_fixable, relation_by_fibers
+from ratesay.fibers import Fiber, first_fiber, is_fixable, relation_by_fibers
 from ratesay.generic import is_general, output_equation, values_of
 from ratesay.irreducible import is_seen_irreducible, is_seen_least
 from ratesay.models import rate_form, ranking_for
 from ratesay.polynomials import degree, letters_of, primitive
 from ratesay.relations import Search
 from ratesay.rows import Places, divided, fraction_with, product_of_points, root_of
+from ratesay.samples import Sample, Setting
 from ratesay.texts import read
 from ratesay.triangles import Finder
 from tests.helpers import rng_of
@@ -68,25 +69,42 @@ class OutputEquationTest(unittest.TestCase):
         finder = Finder(with_parameter)
         letters = [("p", 0), ("y", 0), ("y", 1), ("y", 2)]
         plain = finder.polynomial(letters, finder.search(letters, None).next(600))
-        for place in (0, 1):
-            rest = letters[:place] + letters[place + 1:]
-            search = Search(Fiber(with_parameter, P, letters[place], 0), rest, {v: 1 for v in rest}, {v: () for v in rest}, None)
-            self.assertEqual(relation_by_fibers(with_parameter, letters, place, search.next(200)), plain)
+        for fixed in ((("p", 0),), (("y", 0),), (("p", 0), ("y", 0))):
+            rest = [v for v in letters if v not in fixed]
+            fiber = first_fiber(with_parameter, P, fixed)
+            search = Search(fiber, rest, {v: 1 for v in rest}, {v: () for v in rest}, None)
+            monomials = list(search.next(200))
+            self.assertEqual(relation_by_fibers(with_parameter, letters, fixed, monomials), plain)
+
+    def test_parameters(self):
+        # Both parameters and the output are fixed, one after the other.
+        model = (told(x="-3*p*q + 7*p*w - 7*x", w="6 + x"), ("p", "q"), (), told(y="3*q*w + 3*w*x"), ())
+        finder = Finder(model)
+        letters = [("p", 0), ("q", 0), ("y", 0), ("y", 1), ("y", 2)]
+        fixed = (("q", 0), ("p", 0), ("y", 0))
+        fiber = first_fiber(model, P, fixed)
+        rest = [("y", 1), ("y", 2)]
+        first = Search(fiber, rest, {v: 1 for v in rest}, {v: () for v in rest}, None).next(60)
+        e = relation_by_fibers(model, letters, fixed, list(first))
+        self.assertEqual(e, output_equation(model))
+        self.assertIs(finder.sets.checked(e), True)
+        self.assertEqual(len(finder.choices_to_fix(letters[:-1])), 3)
 
     def test_fixed_values(self):
         model = (told(x="x + u", w="w*x"), ("p",), ("u",), told(y=("x^2 - p*w", "w + 1")), ())
+        setting = Setting(model, P)
         for v in (("y", 0), ("p", 0), ("u", 0), ("u", 3)):
             self.assertIs(is_fixable(model, v), True)
-            fiber = Fiber(model, P, v, 1)
-            for k in range(6):
-                self.assertEqual(fiber.worth(k, v), fiber.value)
-            self.assertEqual(len({fiber.worth(k, ("w", 0)) for k in range(6)}), 6)
-            self.assertNotEqual(Fiber(model, P, v, 2).value, fiber.value)
+        fiber = Fiber(model, setting, {("p", 0): 5, ("u", 2): 7}, (("y", 0), Sample(setting, 0, {}).worth(("y", 0))), 1)
+        for k in range(6):
+            self.assertEqual(fiber.worth(k, ("y", 0)), Sample(setting, 0, {}).worth(("y", 0)))
+            self.assertEqual((fiber.worth(k, ("p", 0)), fiber.worth(k, ("u", 2))), (5, 14))
+        self.assertEqual(len({fiber.worth(k, ("w", 0)) for k in range(6)}), 6)
         for v in (("y", 1), ("x", 0), ("z", 0)):
             self.assertIs(is_fixable(model, v), False)
         cubic = (told(x="1"), (), (), told(y="x^3"), ())
         self.assertIs(is_fixable(cubic, ("y", 0)), False)
-        self.assertRaises(TooMany, Fiber, cubic, P, ("y", 0), 0)
+        self.assertRaises(TooMany, Fiber, cubic, Setting(cubic, P), {}, (("y", 0), 8), 0)
 
 
 class DegreeTest(unittest.TestCase):
