@@ -9,7 +9,7 @@ from ratesay.showings import shown_case
 from ratesay.triangles import Triangle
 from ratesay.wide import is_case_of_run
 
-WAYS = 3
+WAYS = 4
 
 
 def found_case(model, ranking):

@@ -5,23 +5,25 @@ from fractions import Fraction
 
 from ratesay.errors import TooMany
 from ratesay.fibers import Fiber, first_fiber, is_fixable, relation_by_fibers
-from ratesay.generic import is_general, output_equation, values_of
+from ratesay.generic import general_case, is_general, output_equation, values_of
 from ratesay.irreducible import is_seen_irreducible, is_seen_least
 from ratesay.models import rate_form, ranking_for
 from ratesay.polynomials import degree, letters_of, primitive
-from ratesay.relations import Search
+from ratesay.relations import PointSets, Search
 from ratesay.rows import Places, divided, fraction_with, product_of_points, root_of
 from ratesay.samples import Sample, Setting
 from ratesay.texts import read
-from ratesay.triangles import Finder
+from ratesay.finders import Finder
 from tests.helpers import rng_of
 from tests.test_models import told
 
 GREAT = (
-    (told(x="-7 - 4*w*x", w=("4 - 5*w*x", "-2*w - 9*x")), (), (), told(y="1 - 9*w - 2*w*x"), ()),
-    (told(x="-w + 2*w*x", w=("-8 - 6*w", "-6*w - 8*w*x")), (), (), told(y=("8*x", "1 + 2*w*x")), ()),
-    (told(x="8 - 4*w*x", w="5*w^2"), (), (), told(y=("-7 + w - 8*w*x", "6*w*x - 7*x^2")), ()),
+    ((told(x="-w + 2*w*x", w=("-8 - 6*w", "-6*w - 8*w*x")), (), (), told(y=("8*x", "1 + 2*w*x")), ()), 333, [19, 11, 5]),
+    ((told(x="-6*w - x", w=("-9*w*x - 4*x^2", "-2*w")), (), (), told(y=("-1 - 2*w*x", "7*w + x^2")), ()), 655, [20, 13, 6]),
+    ((told(x=("x", "-7 + 7*w^2"), w=("3 + 2*x", "w*x")), (), (), told(y="4*w - 9*x^2"), ()), 802, [17, 16, 7]),
+    ((told(x=("-8*w^2", "9*w*x + 7*x"), w=("-8 - 8*x^2", "-5 - w")), (), (), told(y="-3*w*x"), ()), 607, [23, 16, 8]),
 )
+CASE = (told(x="-7 - 4*w*x", w=("4 - 5*w*x", "-2*w - 9*x")), (), (), told(y="1 - 9*w - 2*w*x"), ())
 P = 2 ** 61 - 1
 
 
@@ -47,7 +49,7 @@ def run_table(model, own, orders):
 
 class OutputEquationTest(unittest.TestCase):
     def test_great_equations(self):
-        for model, pairs, tops in zip(GREAT, (188, 333, 299), ([11, 9, 4], [19, 11, 5], [18, 10, 5])):
+        for model, pairs, tops in GREAT:
             e = output_equation(model)
             self.assertEqual(e, primitive(e)[1])
             self.assertEqual(len(e), pairs)
@@ -58,15 +60,24 @@ class OutputEquationTest(unittest.TestCase):
                 table = run_table(model, {("x", 0): Fraction(x), ("w", 0): Fraction(w)}, 2)
                 self.assertEqual(fraction_at(e, table), 0)
 
+    def test_great_case(self):
+        ranking = (("x", "w"), ("y",))
+        found = general_case(CASE, ranking)
+        self.assertIs(is_general(CASE, ranking, found), True)
+        for p in found[0][0]:
+            for x, w in ((2, 3), (-5, 7)):
+                own = {("x", 0): Fraction(x), ("w", 0): Fraction(w)}
+                self.assertEqual(fraction_at(p, {**own, **run_table(CASE, own, 2)}), 0)
+
     def test_both_ways_tell_the_same(self):
         model = (told(x="2 - w*x", w="x^2 + 3*w"), (), (), told(y="x + w^2"), ())
-        finder = Finder(model)
+        finder = Finder(model, PointSets(model), False)
         letters = [("y", 0), ("y", 1), ("y", 2)]
         plain = finder.polynomial(letters, finder.search(letters, None).next(600))
         self.assertEqual(finder.least_by_fibers(letters, None), plain)
         self.assertEqual(output_equation(model), plain)
         with_parameter = (told(x="p*x - 1", w="x + w"), ("p",), (), told(y="x*w"), ())
-        finder = Finder(with_parameter)
+        finder = Finder(with_parameter, PointSets(with_parameter), False)
         letters = [("p", 0), ("y", 0), ("y", 1), ("y", 2)]
         plain = finder.polynomial(letters, finder.search(letters, None).next(600))
         for fixed in ((("p", 0),), (("y", 0),), (("p", 0), ("y", 0))):
@@ -79,7 +90,7 @@ class OutputEquationTest(unittest.TestCase):
     def test_parameters(self):
         # Both parameters and the output are fixed, one after the other.
         model = (told(x="-3*p*q + 7*p*w - 7*x", w="6 + x"), ("p", "q"), (), told(y="3*q*w + 3*w*x"), ())
-        finder = Finder(model)
+        finder = Finder(model, PointSets(model), False)
         letters = [("p", 0), ("q", 0), ("y", 0), ("y", 1), ("y", 2)]
         fixed = (("q", 0), ("p", 0), ("y", 0))
         fiber = first_fiber(model, P, fixed)
