@@ -18,6 +18,8 @@ from ratesay.triangles import Triangle
 from ratesay.wide import is_case_of_run, may_be_general
 
 MOST_ORDER = 8
+# Polynomials with more pairs take long to be judged.
+SHORT = 100
 
 
 def check_ranking(model, ranking):
@@ -141,32 +143,41 @@ def outer_members(model, equations):
     return [(p, highest(p, places)) for p in equations if is_outside(model, p)]
 
 
-def difference(first, second):
-    """A polynomial that is 0 at all runs of the first model and not of the second one, found among equations, or None.
+def differences(first, second):
+    """The list of (f, model): equations of the first model, or heads of them, that seem to tell it from the second one.
 
-    None is also told where those of the first model are 0 at some points of the second one and its heads are not.
+    f is 0 at some points of that model, and surely not 0 at all runs of the other one.
     """
-    ranking = input_output_ranking(first)
-    for p, v in outer_members(first, first_equations(first, ranking)):
+    found = []
+    for p, v in outer_members(first, first_equations(first, input_output_ranking(first))):
         if is_seen(second, p):
-            check_zero(first, p, ranking)
-            return p
+            found.append((p, first))
+            continue
         for q in (coefficients(p, v)[-1], partial(p, v)):
             if is_seen(first, q) and not is_seen(second, q):
-                return difference_by_head(first, second, q)
-    return None
+                found.append((q, second))
+    return found
 
 
-def difference_by_head(first, second, q):
-    """A polynomial that is not 0 at all runs of the first model, if it is at those of the second one."""
-    check_zero(second, q, input_output_ranking(second))
-    return q
+def shortest(rows):
+    """The pair (f, model) of some with the fewest pairs in f."""
+    return rows[min([(len(f), k) for k, (f, _) in enumerate(rows)])[1]]
 
 
 def told_apart(first, second):
     """A polynomial that is 0 at all runs of just one of two models, None if none is found."""
-    f = difference(first, second)
-    return difference(second, first) if f is None else f
+    rows = differences(first, second)
+    if not rows or len(shortest(rows)[0]) > SHORT:
+        try:
+            rows.extend(differences(second, first))
+        except TooMany:
+            if not rows:
+                raise TooMany()
+    if not rows:
+        return None
+    f, model = shortest(rows)
+    check_zero(model, f, input_output_ranking(model))
+    return f
 
 
 def same_equations(first, second):
