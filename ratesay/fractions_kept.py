@@ -19,6 +19,7 @@ LITTLE = 40
 FURTHER = 4
 GREATEST = 1000
 MOST_PAIRS = 6000
+MOST_PRODUCTS = 60000000
 MOST_COMMON = 60000
 
 
@@ -97,7 +98,7 @@ def determinant_paper(g, monomials, prime):
     rows = [[((monomial, ONE),) for monomial in monomials[:count]]]
     for _ in range(count - 2):
         rows.append([along(g, p) for p in rows[-1]])
-    minors = minors_of(rows, count, MOST_PAIRS)
+    minors = minors_of(rows, count, MOST_PAIRS, MOST_PRODUCTS)
     below = minors[count - 1]
     found = [(len(p), k) for k, p in enumerate(minors[:-1]) if p and below and not alike(p, below)]
     for _, k in sorted(found):

@@ -27,12 +27,21 @@ def are_light_rows(rows, most):
     return True
 
 
-def is_light(model):
-    """Whether a model is light."""
+def has_light_parts(model, most):
+    """Whether a model has few names, so many parameters at most, and light n and d, those of outputs aside."""
     states, parameters, inputs, outputs, quantities = model
-    if len(states) > MOST_OWN or len(parameters) > MOST_OWN or len(quantities) > 1:
+    if len(states) > MOST_OWN or len(parameters) > most or len(quantities) > 1:
         return False
     if len(inputs) > 1 or len(outputs) > (1 if inputs else 2):
         return False
-    top = 1 if inputs else MOST_DEGREE
-    return are_light_rows([*states, *quantities], MOST_DEGREE) and are_light_rows(outputs, top)
+    return are_light_rows([*states, *quantities], MOST_DEGREE)
+
+
+def is_light(model):
+    """Whether a model is light."""
+    return has_light_parts(model, MOST_OWN) and are_light_rows(model[3], 1 if model[2] else MOST_DEGREE)
+
+
+def is_light_for_rank(model):
+    """Whether a model is light for the rank test."""
+    return has_light_parts(model, MOST_OWN + 1) and are_light_rows(model[3], MOST_DEGREE)

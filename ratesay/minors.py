@@ -3,19 +3,19 @@
 from math import gcd, lcm
 
 from ratesay.errors import TooMany
-from ratesay.factors import factors_of
+from ratesay.factors import factors_of, lowest_exponents, without_letters
 from ratesay.packing import sum_of_products
-from ratesay.polynomials import UNIT, as_number, primitive, quotient, raised, scaled, times
+from ratesay.polynomials import UNIT, as_number, letter, letters_of, primitive, quotient, raised, scaled, times
 from ratesay.ratios import reduced
 
-MOST_PAIRS = 40000
 MOST_PARTED = 60
-# About as many products as take half a minute.
-MOST_PRODUCTS = 60000000
 
 
-def grown(table, row, count, most):
-    """The determinants with one row and one column more, by the tuples of their columns."""
+def grown(table, row, count, most, many):
+    """The determinants with one row and one column more, by the tuples of their columns.
+
+    TooMany is raised if one has more than most pairs, or all cost more than many products.
+    """
     sums = {}
     toil = 0
     for columns, p in table.items():
@@ -26,7 +26,7 @@ def grown(table, row, count, most):
                 q = scaled(row[k], (-1, 1)) if place & 1 else row[k]
                 sums.setdefault(whole, []).append((p, q))
                 toil += len(p) * len(q)
-    if toil > MOST_PRODUCTS:
+    if toil > many:
         raise TooMany()
     found = {}
     for columns, pairs in sums.items():
@@ -36,11 +36,11 @@ def grown(table, row, count, most):
     return found
 
 
-def minors_of(rows, count, most):
-    """The list of the determinants of rows without one of count columns each, up to their signs."""
+def minors_of(rows, count, most, many):
+    """The list of the determinants of rows without one of count columns each, up to their signs; bounds as in grown."""
     table = {(): UNIT}
     for row in rows:
-        table = grown(table, row, count, most)
+        table = grown(table, row, count, most, many)
     return [table.get(tuple([k for k in range(count) if k != column]), ()) for column in range(count)]
 
 
@@ -68,14 +68,22 @@ class Parts:
 
     def parted(self, p):
         """The pair of a polynomial without the known factors and the list of their exponents; none for 0."""
+        if not p:
+            return (p, [0 for _ in self.factors])
+        low = lowest_exponents(p)
+        low = {v: e for v, e in low.items() if letter(v[0], v[1]) in self.factors}
+        p = without_letters(p, low) if low else p
         found = []
         for q in self.factors:
+            if len(q) == 1:
+                found.append(low.get(letters_of(q)[0], 0))
+                continue
             e = 0
-            low = quotient(p, q) if p else None
-            while low is not None:
-                p = low
+            part = quotient(p, q)
+            while part is not None:
+                p = part
                 e += 1
-                low = quotient(p, q)
+                part = quotient(p, q)
             found.append(e)
         return (p, found)
 

@@ -2,6 +2,7 @@
 
 from ratesay.errors import BadName, TooMany
 from ratesay.generalruns import Run
+from ratesay.light import is_light_for_rank
 from ratesay.linear import TARGET, Echelon, solved_modulo
 from ratesay.minors import Parts, plain_row, product_of
 from ratesay.packing import sum_of_products
@@ -12,7 +13,9 @@ from ratesay.samples import BITS, integers_of
 from ratesay.slopes import Slopes, asked_letters, gradient, own_names
 from ratesay.wedges import Wedge
 
-MOST_PAIRS = 5000
+# Bounds of the pairs of values, and of the pairs and products of determinants: for light models, for all others.
+LIGHT = (20000, (100000, 150000000))
+OTHERS = (5000, (60000, 60000000))
 # So many primes are tried.
 TRIED = 3
 
@@ -36,6 +39,7 @@ class Search:
         self.run = Run(model)
         self.slopes = Slopes(model, 0, p)
         self.parts = Parts(self.known_polynomials())
+        self.most, self.bounds = LIGHT if is_light_for_rank(model) else OTHERS
 
     def known_polynomials(self):
         """The polynomials whose factors are likely to be common ones."""
@@ -46,7 +50,7 @@ class Search:
         """The pair (row, powers) of the partial derivatives of a letter."""
         for k in range(v[1]):
             # The next rate has several times as many pairs.
-            if len(self.run.letter_value((v[0], k))[0]) > MOST_PAIRS:
+            if len(self.run.letter_value((v[0], k))[0]) > self.most:
                 raise TooMany()
         return gradient(self.run, self.names, v)
 
@@ -80,7 +84,7 @@ class Search:
     def finite_paper(self, letters, rows):
         """The paper that the row of z is a combination of rows of letters, None if it is not."""
         last = self.gradient((self.z, 0))
-        wedge = Wedge([row for row, _ in rows], len(self.names), self.parts)
+        wedge = Wedge([row for row, _ in rows], len(self.names), self.parts, self.bounds)
         found = wedge.combination(last[0])
         if found is None:
             return None
@@ -95,7 +99,7 @@ class Search:
     def free_paper(self, rows):
         """The paper that the row of z is no combination of rows, None if none is found."""
         last, _ = self.gradient((self.z, 0))
-        wedge = Wedge(rows, len(self.names), self.parts)
+        wedge = Wedge(rows, len(self.names), self.parts, self.bounds)
         found = []
         for columns in self.column_choices(rows):
             vector = wedge.kernel_vector(columns)

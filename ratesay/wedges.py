@@ -1,27 +1,27 @@
 """Combinations of rows of polynomials, told by the determinants of the first rows, without their common factors."""
 
 from ratesay.errors import TooMany
-from ratesay.minors import MOST_PRODUCTS, grown
+from ratesay.minors import grown
 from ratesay.packing import sum_of_products
 from ratesay.polynomials import less, quotient, scaled, times
-
-MOST_PAIRS = 60000
 
 
 class Wedge:
     """The determinants of the first rows, by the tuples of their columns, for each number of rows.
 
-    Those of one number of rows are divided by the known factors that all of them have in common.
+    Those of one number of rows are divided by the known factors that all of them have in common. The bounds are those
+    of the pairs of a polynomial and of the products of pairs.
     """
 
-    def __init__(self, rows, count, parts):
+    def __init__(self, rows, count, parts, bounds):
+        most, self.many = bounds
         self.count = count
         self.parts = parts
         self.rows = rows
         self.tables = [{(): (((), (1, 1)),)}]
         self.spent = 0
         for row in rows:
-            table = grown(self.tables[-1], row, count, MOST_PAIRS)
+            table = grown(self.tables[-1], row, count, most, self.many)
             columns = list(table)
             found = parts.divided([table[key] for key in columns])
             self.tables.append({key: p for key, p in zip(columns, found) if p})
@@ -29,7 +29,7 @@ class Wedge:
     def toil(self, pairs):
         """Gives up when products take too long."""
         self.spent += sum([len(p) * len(q) for p, q in pairs])
-        if self.spent > MOST_PRODUCTS:
+        if self.spent > self.many:
             raise TooMany()
 
     def kernel_vector(self, columns):
