@@ -11,7 +11,6 @@ from ratesay.generalruns import Run
 from ratesay.ratios import integer_power
 
 WHOLE = ()
-ONE = ({WHOLE: 0}, 1, 1)
 # The values of letters with at most so many pairs are worked out.
 MOST_PAIRS = 300
 MOST_RATES = 60
@@ -36,6 +35,11 @@ def size_of(p):
     return (tops, norm, scale)
 
 
+def one_size():
+    """The size of 1."""
+    return ({WHOLE: 0}, 1, 1)
+
+
 def letter_size(v):
     """The size of a letter."""
     return ({WHOLE: 1, v: 1}, 1, 1)
@@ -54,7 +58,7 @@ def product_of(a, b):
 def power_of(a, e):
     """The size of a power."""
     if e == 0:
-        return ONE
+        return one_size()
     if a is None:
         return None
     return ({v: e * n for v, n in a[0].items()}, integer_power(a[1], e), integer_power(a[2], e))
@@ -98,7 +102,7 @@ class Sizes:
 
     def bottom(self, powers):
         """The size of the product of the denominators to some powers."""
-        found = ONE
+        found = one_size()
         for size, e in zip(self.bottoms, powers):
             found = product_of(found, power_of(size, e))
         return found

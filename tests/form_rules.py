@@ -5,6 +5,8 @@ import builtins
 import os
 import re
 
+from tests.table_rules import faults_of_tables, tables_of
+
 FOLDER = os.path.join(os.path.dirname(os.path.dirname(os.path.abspath(__file__))), "ratesay")
 LIBRARY = {
     "heapq": {"heappush", "heappop", "heapify", "heapreplace", "heappushpop"},
@@ -274,6 +276,15 @@ def modules():
     return found
 
 
+def tables():
+    """The names of the lists and dicts that each module of the package has at module level."""
+    found = {}
+    for path in files():
+        with open(path, encoding="utf-8") as source:
+            found["ratesay." + os.path.basename(path)[:-3]] = tables_of(ast.parse(source.read()), {})
+    return found
+
+
 def cycles():
     """The modules that import themselves, directly or through others."""
     graph = {}
@@ -299,6 +310,7 @@ def faults():
     """All faults found in the package."""
     found = [f"L16: {name} imports itself" for name in cycles()]
     known = modules()
+    told = tables()
     for path in files():
         name = os.path.basename(path)
         if not re.fullmatch(r"[a-z_][a-z0-9_]*\.py", name):
@@ -308,4 +320,5 @@ def faults():
             text = source.read()
         found.extend(faults_of_text(name, text))
         found.extend(Checker(name, ast.parse(text), known).run())
+        found.extend(faults_of_tables(name, ast.parse(text), told))
     return found

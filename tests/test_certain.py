@@ -18,7 +18,7 @@ from ratesay.primes import GREAT as GREATEST, Primes, great_primes
 from ratesay.rankings import places_of
 from ratesay.ranktest import bracket, is_free
 from ratesay.samples import Sample, Setting, fixed_value
-from ratesay.sizes import Sizes
+from ratesay.sizes import Sizes, power_of, size_of
 from ratesay.texts import read, text_of
 from ratesay.triangles import leaders_of
 from ratesay.wide import is_case_of_run, may_be_general
@@ -93,6 +93,17 @@ class ZeroTest(unittest.TestCase):
                 self.assertGreaterEqual(size[0][v], max(dict(monomial).get(v, 0) for monomial, _ in n))
             self.assertGreaterEqual(size[0][()], max(sum(e for _, e in monomial) for monomial, _ in n))
             self.assertEqual(count_points(size), len(exponents_in(size)))
+
+    def test_sizes_of_1_are_made_anew(self):
+        sizes = Sizes(still("x"))
+        one = ({(): 0}, 1, 1)
+        for make in (lambda: power_of(None, 0), lambda: power_of(size_of(read("x^2 - 1/2")), 0), lambda: sizes.bottom(())):
+            found = make()
+            self.assertEqual(found, one)
+            found[0][("x", 0)] = 1
+            self.assertEqual(make(), one)
+        self.assertEqual(power_of(size_of(read("x^2 - 1/2")), 2), ({(): 4, ("x", 0): 4}, 9, 4))
+        self.assertIsNone(power_of(None, 1))
 
     def test_polynomials_that_are_0_at_chosen_points(self):
         model = still("x")
